@@ -1,0 +1,41 @@
+"""Questions that can be asked of any value."""
+
+
+def is_integer(value):
+    return isinstance(value, int) and not isinstance(value, bool)
+
+
+def is_count(value):
+    return is_integer(value) and value >= 0
+
+
+def is_sign(value):
+    return isinstance(value, str) and value in ("0", "1")
+
+
+def is_text(value):
+    return isinstance(value, str) and value.strip("01") == ""
+
+
+def is_text_up_to(value, most):
+    """Whether it is a text of at most so many signs."""
+    return is_text(value) and len(value) <= most
+
+
+def is_from_to(value, least, most):
+    """Whether it is an INTEGER from least to most, both counted."""
+    return is_integer(value) and least <= value <= most
+
+
+def is_below(value, limit):
+    """Whether it is the number of one of so many things."""
+    return is_count(value) and value < limit
+
+
+def is_list(value):
+    """Whether it can be passed where a list is asked for."""
+    return isinstance(value, (list, tuple))
+
+
+def is_tuple_of(value, length):
+    return isinstance(value, tuple) and len(value) == length

@@ -1,0 +1,62 @@
+"""The errors that belong to parameters of these names everywhere."""
+
+from flowyard.basics import is_below, is_from_to, is_text, is_text_up_to, is_tuple_of
+from flowyard.errors import InvalidExit, InvalidSizes, InvalidState, InvalidStation, InvalidStream
+
+_MOST_SIGNS = 1000
+_MOST_SIZE = 3
+
+
+def check_station(yard, station):
+    if not is_below(station, len(yard)):
+        raise InvalidStation(station)
+
+
+def check_exit(yard, outlet):
+    if not is_below(outlet, len(yard.exits)):
+        raise InvalidExit(outlet)
+
+
+def check_stream(stream):
+    if not is_text_up_to(stream, _MOST_SIGNS):
+        raise InvalidStream(stream)
+
+
+def check_sizes(yard, sizes):
+    if sizes is not None and not are_sizes(yard, sizes):
+        raise InvalidSizes(sizes)
+
+
+def check_state(yard, state):
+    if not _is_state(yard, state):
+        raise InvalidState(state)
+
+
+def are_sizes(yard, value):
+    """Whether it is a tuple of sizes for the pipes of the yard, which None is not."""
+    if not is_tuple_of(value, len(yard.pipes)):
+        return False
+    return all([is_from_to(size, 1, _MOST_SIZE) for size in value])
+
+
+def are_standings(stations, value):
+    """Whether it is a tuple of a standing for each of the stations."""
+    if not is_tuple_of(value, len(stations)):
+        return False
+    return all([is_below(standing, len(station)) for standing, station in zip(value, stations)])
+
+
+def _is_state(yard, value):
+    if not is_tuple_of(value, 4):
+        return False
+    standings, contents, rest, flows = value
+    return (
+        are_standings(yard.stations, standings)
+        and _are_texts(contents, len(yard.pipes))
+        and is_text(rest)
+        and _are_texts(flows, len(yard.exits))
+    )
+
+
+def _are_texts(value, number):
+    return is_tuple_of(value, number) and all([is_text(text) for text in value])
