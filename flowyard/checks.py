@@ -1,7 +1,15 @@
 """The errors that belong to parameters of these names everywhere."""
 
-from flowyard.basics import is_below, is_from_to, is_text, is_text_up_to, is_tuple_of
-from flowyard.errors import InvalidExit, InvalidSizes, InvalidState, InvalidStation, InvalidStream
+from flowyard.basics import is_below, is_count, is_from_to, is_integer, is_text, is_text_up_to, is_tuple_of
+from flowyard.errors import (
+    InvalidBeat,
+    InvalidExit,
+    InvalidPipe,
+    InvalidSizes,
+    InvalidState,
+    InvalidStation,
+    InvalidStream,
+)
 
 _MOST_SIGNS = 1000
 _MOST_SIZE = 3
@@ -30,6 +38,22 @@ def check_sizes(yard, sizes):
 def check_state(yard, state):
     if not _is_state(yard, state):
         raise InvalidState(state)
+
+
+def check_beat(yard, beat):
+    if not is_beat(yard, beat):
+        raise InvalidBeat(beat)
+
+
+def check_pipe(yard, pipe):
+    # False would be found as 0 among the pipes.
+    if not is_tuple_of(pipe, 4) or not all([is_integer(number) for number in pipe]) or pipe not in yard.pipes:
+        raise InvalidPipe(pipe)
+
+
+def is_beat(yard, value):
+    """Whether it is a tuple that tells a beat of the yard, which need not ever be done."""
+    return is_tuple_of(value, 2) and is_below(value[0], len(yard)) and is_count(value[1])
 
 
 def are_sizes(yard, value):

@@ -32,26 +32,26 @@ def done(yard, state, station, sizes=None):
 
 
 def is_run(yard, stream, value, sizes=None):
-    walk = _walk_from_begin(yard, stream, sizes)
-    return is_list(value) and _first_wrong(walk, yard, value) is None
+    walk = walk_from_begin(yard, stream, sizes)
+    return is_list(value) and first_wrong(walk, yard, value) is None
 
 
 def state_behind(yard, stream, run, sizes=None):
-    return _walk_behind(yard, stream, run, sizes).state_now()
+    return walk_behind(yard, stream, run, sizes).state_now()
 
 
 def is_full(yard, stream, run, sizes=None):
-    return _walk_behind(yard, stream, run, sizes).can_do_now() == []
+    return walk_behind(yard, stream, run, sizes).can_do_now() == []
 
 
 def full_run(yard, stream, sizes=None):
     # Each run is the beginning of a full one, and all are as long: so the first one of them is
     # that which does always the first beat that can be done.
-    return _walk_from_begin(yard, stream, sizes).finish(_MOST_BEATS)
+    return walk_from_begin(yard, stream, sizes).finish(_MOST_BEATS)
 
 
 def end(yard, stream, sizes=None):
-    walk = _walk_from_begin(yard, stream, sizes)
+    walk = walk_from_begin(yard, stream, sizes)
     walk.finish(_MOST_BEATS)
     return walk.state_now()
 
@@ -60,23 +60,24 @@ def flows(yard, stream):
     return list(end(yard, stream)[3])
 
 
-def _walk_from_begin(yard, stream, sizes):
+def walk_from_begin(yard, stream, sizes):
     state = begin_of(yard, stream)
     check_sizes(yard, sizes)
     return Walk(yard, state, sizes)
 
 
-def _walk_behind(yard, stream, run, sizes):
-    walk = _walk_from_begin(yard, stream, sizes)
+def walk_behind(yard, stream, run, sizes):
+    """A walk that stands behind the run; InvalidRun unless it is one."""
+    walk = walk_from_begin(yard, stream, sizes)
     if not is_list(run):
         raise InvalidRun(None)
-    position = _first_wrong(walk, yard, run)
+    position = first_wrong(walk, yard, run)
     if position is not None:
         raise InvalidRun(position)
     return walk
 
 
-def _first_wrong(walk, yard, run):
+def first_wrong(walk, yard, run):
     """The place of the first element that cannot be done; the walk stands there, or behind all."""
     for position, station in enumerate(run):
         if not is_below(station, len(yard)) or not walk.can_do(station):

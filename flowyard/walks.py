@@ -35,7 +35,7 @@ class Walk:
         return [station for station in range(len(self._stands)) if self.can_do(station)]
 
     def do(self, station):
-        """Do a beat that can be done."""
+        """Do a beat that can be done; the lines that it reads, and what it gives to which."""
         goal, gives = self._row_now(station)
         lines, _ = self._wiring[station][self._stands[station]]
         for line in lines:
@@ -43,6 +43,7 @@ class Walk:
         for line, text in gives:
             self._texts[line] = self._texts[line] + text
         self._stands[station] = goal
+        return lines, gives
 
     def finish(self, most):
         """Do always the first beat that can be done; their stations, TooMany if more than most."""

@@ -230,21 +230,21 @@ def joined(one, outlet, other):
         raise TooMany("stations", Yard.MOST_STATIONS)
     entry = len(one)
     station, out_line = one.exits[outlet]
-    contents = _contents_by_pipe(one, list(range(entry)))
+    contents = contents_by_pipe(one, list(range(entry)))
     contents[(station, out_line, entry, 0)] = ""
-    moved = _contents_by_pipe(other, [entry + number for number in range(len(other))])
+    moved = contents_by_pipe(other, [entry + number for number in range(len(other))])
     for pipe, text in moved.items():
         contents[pipe] = text
-    return _yard_of(one.stations + other.stations, one.begin[0] + other.begin[0], contents)
+    return yard_of(one.stations + other.stations, one.begin[0] + other.begin[0], contents)
 
 
 def renumbered(yard, order):
     if not _is_order(yard, order):
         raise InvalidOrder(order)
-    contents = _contents_by_pipe(yard, [order.index(number) for number in range(len(yard))])
+    contents = contents_by_pipe(yard, [order.index(number) for number in range(len(yard))])
     stations = [yard.stations[number] for number in order]
     standings = [yard.begin[0][number] for number in order]
-    return _yard_of(stations, tuple(standings), contents)
+    return yard_of(stations, tuple(standings), contents)
 
 
 def _is_order(yard, value):
@@ -255,7 +255,7 @@ def _is_order(yard, value):
     return all([value.index(pipe[0]) < value.index(pipe[2]) for pipe in yard.pipes])
 
 
-def _contents_by_pipe(yard, numbers):
+def contents_by_pipe(yard, numbers):
     """What is in each pipe at the beginning, the pipes told by the new numbers of the stations."""
     contents = {}
     for (station, out_line, later, in_line), text in zip(yard.pipes, yard.begin[1]):
@@ -263,6 +263,6 @@ def _contents_by_pipe(yard, numbers):
     return contents
 
 
-def _yard_of(stations, standings, contents):
+def yard_of(stations, standings, contents):
     pipes = sorted(contents)
     return Yard(stations, pipes, (standings, tuple([contents[pipe] for pipe in pipes])))
