@@ -119,7 +119,7 @@ def _chain_in(order, first, second):
     """A shortest chain; None without one."""
     later_of = {}
     waiting = [second]
-    while waiting != [] and first not in later_of:
+    while waiting != []:
         later = waiting.pop(0)
         for beat in order[later]:
             if beat not in later_of:

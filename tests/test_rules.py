@@ -1,6 +1,8 @@
 """The rules for the package's code that can be counted: files, sizes, signs, imports, module level."""
 
 import ast
+import builtins
+import re
 import unittest
 from pathlib import Path
 
@@ -13,6 +15,12 @@ LIBRARY = {
                   "zip_longest"},
     "collections": {"defaultdict", "deque"},
 }
+
+BARRED_WORDS = re.compile(r"\b(type|typing|enum|Enum|IntEnum|Flag|Generic|Protocol|ABC|namedtuple|register|mro|elements"
+                          r"|open|input|law|compile|exit|id|vars|eval|exec|super|dir|help)\b")
+
+# Where something was shown at a prompt, or by doctest, Python itself keeps it as _.
+BUILTINS = [name for name in dir(builtins) if name != "_"]
 
 
 def trees():
@@ -75,6 +83,30 @@ class Rules(unittest.TestCase):
                     for each in node.names:
                         self.assertIn(each.name, known, name)
                         self.assertIsNone(each.asname, name)
+
+    def test_names(self):
+        for name, tree in trees():
+            imported = [each.name for node in tree.body if isinstance(node, ast.ImportFrom) for each in node.names]
+            classes = [node.name for node in tree.body if isinstance(node, ast.ClassDef)]
+            for node in ast.walk(tree):
+                bound = None
+                if isinstance(node, ast.arg):
+                    bound = node.arg
+                elif isinstance(node, ast.Name) and isinstance(node.ctx, ast.Store):
+                    bound = node.id
+                if bound is not None:
+                    self.assertNotIn(bound, imported + classes + BUILTINS, name)
+                    self.assertIsNone(BARRED_WORDS.search(bound), f"{name}: {bound}")
+                if isinstance(node, (ast.FunctionDef, ast.ClassDef)):
+                    self.assertNotIn(node.name, BUILTINS, name)
+                    self.assertIsNone(BARRED_WORDS.search(node.name), f"{name}: {node.name}")
+
+    def test_no_generators_and_no_stored_sets(self):
+        for name, tree in trees():
+            for node in ast.walk(tree):
+                self.assertNotIsInstance(node, (ast.GeneratorExp, ast.Yield, ast.YieldFrom, ast.Lambda), name)
+                if isinstance(node, ast.Assign):
+                    self.assertNotIsInstance(node.value, (ast.Set, ast.SetComp), name)
 
     def test_no_percent_sign_in_strings_and_no_floats(self):
         for name, tree in trees():
