@@ -1,4 +1,8 @@
-"""Questions that can be asked of any value."""
+"""Questions that can be asked of any value, and fractions."""
+
+from math import gcd
+
+_MOST_SIGNS = 1000
 
 
 def is_integer(value):
@@ -27,6 +31,21 @@ def is_from_to(value, least, most):
     return is_integer(value) and least <= value <= most
 
 
+def is_stream(value):
+    """Whether it can be passed as a stream."""
+    return is_text_up_to(value, _MOST_SIGNS)
+
+
+def is_lap(value):
+    """Whether it can be the lap of an endless stream, of any length."""
+    return is_text(value) and value != ""
+
+
+def is_endless_stream(value):
+    """Whether it is an endless stream as a paper, which both parts keep short."""
+    return is_tuple_of(value, 2) and is_stream(value[0]) and is_stream(value[1]) and is_lap(value[1])
+
+
 def is_below(value, limit):
     """Whether it is the number of one of so many things."""
     return is_count(value) and value < limit
@@ -39,3 +58,9 @@ def is_list(value):
 
 def is_tuple_of(value, length):
     return isinstance(value, tuple) and len(value) == length
+
+
+def lowest_terms(many, of):
+    """The fraction as a tuple in lowest terms."""
+    common = gcd(many, of)
+    return (many // common, of // common)

@@ -1,18 +1,31 @@
 """The errors that belong to parameters of these names everywhere."""
 
-from flowyard.basics import is_below, is_count, is_from_to, is_integer, is_text, is_text_up_to, is_tuple_of
+from flowyard.basics import (
+    is_below,
+    is_count,
+    is_from_to,
+    is_integer,
+    is_lap,
+    is_sign,
+    is_stream,
+    is_text,
+    is_tuple_of,
+)
 from flowyard.errors import (
     InvalidBeat,
     InvalidExit,
+    InvalidLap,
+    InvalidNumber,
     InvalidPipe,
+    InvalidSign,
     InvalidSizes,
     InvalidState,
     InvalidStation,
     InvalidStream,
+    InvalidText,
 )
 
-_MOST_SIGNS = 1000
-_MOST_SIZE = 3
+MOST_SIZE = 3
 
 
 def check_station(yard, station):
@@ -26,12 +39,38 @@ def check_exit(yard, outlet):
 
 
 def check_stream(stream):
-    if not is_text_up_to(stream, _MOST_SIGNS):
+    if not is_stream(stream):
         raise InvalidStream(stream)
+
+
+def check_text(text):
+    if not is_text(text):
+        raise InvalidText(text)
+
+
+def check_lap(lap):
+    if not is_lap(lap):
+        raise InvalidLap(lap)
+
+
+def check_sign(sign):
+    if not is_sign(sign):
+        raise InvalidSign(sign)
+
+
+def check_count(number):
+    if not is_count(number):
+        raise InvalidNumber(number)
 
 
 def check_sizes(yard, sizes):
     if sizes is not None and not are_sizes(yard, sizes):
+        raise InvalidSizes(sizes)
+
+
+def check_told_sizes(yard, sizes):
+    """Where sizes must be told, so that None is none."""
+    if not are_sizes(yard, sizes):
         raise InvalidSizes(sizes)
 
 
@@ -60,7 +99,7 @@ def are_sizes(yard, value):
     """Whether it is a tuple of sizes for the pipes of the yard, which None is not."""
     if not is_tuple_of(value, len(yard.pipes)):
         return False
-    return all([is_from_to(size, 1, _MOST_SIZE) for size in value])
+    return all([is_from_to(size, 1, MOST_SIZE) for size in value])
 
 
 def are_standings(stations, value):
@@ -76,11 +115,12 @@ def _is_state(yard, value):
     standings, contents, rest, flows = value
     return (
         are_standings(yard.stations, standings)
-        and _are_texts(contents, len(yard.pipes))
+        and are_texts(contents, len(yard.pipes))
         and is_text(rest)
-        and _are_texts(flows, len(yard.exits))
+        and are_texts(flows, len(yard.exits))
     )
 
 
-def _are_texts(value, number):
+def are_texts(value, number):
+    """Whether it is a tuple of so many texts."""
     return is_tuple_of(value, number) and all([is_text(text) for text in value])

@@ -60,7 +60,7 @@ def _passages(yard, sizes):
 
 def _needed_now(walk, passages, beat):
     """The beats of other stations that the beat needs, which is done; None stands for no beat."""
-    lines, gives = walk.do(beat[0])
+    lines, gives, _ = walk.do(beat[0])
     needed = [passages[line].take(beat) for line in lines if line in passages]
     for line, text in gives:
         if line in passages:

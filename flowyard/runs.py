@@ -3,7 +3,7 @@
 from flowyard.basics import is_below, is_list
 from flowyard.checks import check_sizes, check_state, check_station, check_stream
 from flowyard.errors import CannotBeDone, InvalidRun
-from flowyard.walks import Walk
+from flowyard.walks import Walk, wired
 
 _MOST_BEATS = 20000
 
@@ -17,14 +17,14 @@ def begin_of(yard, stream):
 def can_be_done(yard, state, sizes=None):
     check_state(yard, state)
     check_sizes(yard, sizes)
-    return Walk(yard, state, sizes).can_do_now()
+    return Walk(wired(yard), state, sizes).can_do_now()
 
 
 def done(yard, state, station, sizes=None):
     check_state(yard, state)
     check_sizes(yard, sizes)
     check_station(yard, station)
-    walk = Walk(yard, state, sizes)
+    walk = Walk(wired(yard), state, sizes)
     if not walk.can_do(station):
         raise CannotBeDone(station)
     walk.do(station)
@@ -61,9 +61,14 @@ def flows(yard, stream):
 
 
 def walk_from_begin(yard, stream, sizes):
-    state = begin_of(yard, stream)
+    check_stream(stream)
     check_sizes(yard, sizes)
-    return Walk(yard, state, sizes)
+    return walk_along(yard, stream, sizes)
+
+
+def walk_along(yard, stream, sizes):
+    """As above, of a stream of any length, which is not checked."""
+    return Walk(wired(yard), (*yard.begin, stream, ("",) * len(yard.exits)), sizes)
 
 
 def walk_behind(yard, stream, run, sizes):

@@ -1,8 +1,6 @@
 """Terms, which tell flows, and what can be said of them."""
 
-from math import gcd
-
-from flowyard.basics import is_sign, is_text
+from flowyard.basics import is_sign, is_text, lowest_terms
 from flowyard.checks import check_stream
 from flowyard.errors import InvalidTerm, TooMany
 
@@ -207,19 +205,14 @@ def _slope_at(term):
     slopes = [_slope_at(part) for part in parts_of(term)]
     many, of = slopes[0]
     if word == "twice":
-        return _lowest(2 * many, of)
+        return lowest_terms(2 * many, of)
     if word == "half":
-        return _lowest(many, 2 * of)
+        return lowest_terms(many, 2 * of)
     if word == "by":
         return _lesser(slopes[0], slopes[1])
     if word == "then":
-        return _lowest(many * slopes[1][0], of * slopes[1][1])
+        return lowest_terms(many * slopes[1][0], of * slopes[1][1])
     return slopes[0]
-
-
-def _lowest(many, of):
-    common = gcd(many, of)
-    return (many // common, of // common)
 
 
 def _lesser(one, other):

@@ -12,12 +12,12 @@ class Walk:
     reads or feeds.
     """
 
-    def __init__(self, yard, state, sizes=None):
+    def __init__(self, wiring, state, sizes=None):
         standings, contents, rest, given = state
         self._stands = list(standings)
         self._texts = [rest, *contents, *given]
         self._first_exit = 1 + len(contents)
-        self._wiring = _wired(yard)
+        self._wiring = wiring
         self._rooms = {}
         if sizes is not None:
             self._rooms = {1 + pipe: size for pipe, size in enumerate(sizes)}
@@ -28,25 +28,38 @@ class Walk:
         return (tuple(self._stands), tuple(contents), self._texts[0], tuple(given))
 
     def can_do(self, station):
-        return self._row_now(station) is not None
+        row = self._row_now(station)
+        return row is not None and self._has_room(row[1])
 
     def can_do_now(self):
         """The stations whose beat can be done."""
         return [station for station in range(len(self._stands)) if self.can_do(station)]
 
+    def lacking_now(self):
+        """The stations whose beat could be done if there was room for what it gives."""
+        found = []
+        for station in range(len(self._stands)):
+            row = self._row_now(station)
+            if row is not None and not self._has_room(row[1]):
+                found.append(station)
+        return found
+
     def do(self, station):
-        """Do a beat that can be done; the lines that it reads, and what it gives to which."""
-        goal, gives = self._row_now(station)
+        """Do a beat that can be done; the lines that it reads, what it gives to which, its ticks."""
+        goal, gives, ticks = self._row_now(station)
         lines, _ = self._wiring[station][self._stands[station]]
         for line in lines:
             self._texts[line] = self._texts[line][1:]
         for line, text in gives:
             self._texts[line] = self._texts[line] + text
         self._stands[station] = goal
-        return lines, gives
+        return lines, gives, ticks
 
     def finish(self, most):
-        """Do always the first beat that can be done; their stations, TooMany if more than most."""
+        """Do always the first beat that can be done; their stations, TooMany if more than most.
+
+        With None in the place of most no beats are too many.
+        """
         beats = []
         station = 0
         while station < len(self._stands):
@@ -63,13 +76,10 @@ class Walk:
         return beats
 
     def _row_now(self, station):
-        """The goal and the gives of the beat that can be done; None if none can."""
+        """The row, as wired, for the signs that wait; None unless there is one on each line."""
         lines, rows = self._wiring[station][self._stands[station]]
         # A line without a sign leaves the key too short for any row.
-        row = rows.get("".join([self._texts[line][:1] for line in lines]))
-        if row is None or not self._has_room(row[1]):
-            return None
-        return row
+        return rows.get("".join([self._texts[line][:1] for line in lines]))
 
     def _has_room(self, gives):
         for line, text in gives:
@@ -78,7 +88,7 @@ class Walk:
         return True
 
 
-def _wired(yard):
+def wired(yard):
     """For each standing of each station the lines that it reads, and its rows by their signs."""
     read_from, given_to = _lines_of(yard)
     wiring = []
@@ -87,6 +97,37 @@ def _wired(yard):
         outs = [given_to[(number, line)] for line in range(station.outs)]
         wiring.append([_wired_standing(reads, rows, ins, outs) for reads, rows in station.standings()])
     return wiring
+
+
+def end_of(wiring, state):
+    """The END behind a state without sizes, however many beats there are."""
+    standings, contents, rest, given = state
+    texts = [rest, *contents, *given]
+    first_exit = 1 + len(contents)
+    # No pipe leads to a lesser number: so each station can do all its beats at once.
+    stands = [_all_done(station, standing, texts) for station, standing in zip(wiring, standings)]
+    return (tuple(stands), tuple(texts[1:first_exit]), texts[0], tuple(texts[first_exit:]))
+
+
+def _all_done(station, standing, texts):
+    """Do all beats of a wired station on the texts; where it stands then."""
+    taken = {line: 0 for lines, _ in station for line in lines}
+    given = {}
+    while True:
+        lines, rows = station[standing]
+        row = rows.get("".join([texts[line][taken[line] : taken[line] + 1] for line in lines]))
+        if row is None:
+            break
+        standing = row[0]
+        for line in lines:
+            taken[line] += 1
+        for line, text in row[1]:
+            given.setdefault(line, []).append(text)
+    for line, number in taken.items():
+        texts[line] = texts[line][number:]
+    for line, parts in given.items():
+        texts[line] = texts[line] + "".join(parts)
+    return standing
 
 
 def _lines_of(yard):
@@ -104,6 +145,6 @@ def _lines_of(yard):
 def _wired_standing(reads, rows, ins, outs):
     lines = [ins[int(digit) - 1] for digit in reads]
     wired_rows = {}
-    for signs, (gives, goal, _) in zip(signs_read(reads), rows):
-        wired_rows[signs] = (goal, [(line, text) for line, text in zip(outs, gives) if text != ""])
+    for signs, (gives, goal, ticks) in zip(signs_read(reads), rows):
+        wired_rows[signs] = (goal, [(line, text) for line, text in zip(outs, gives) if text != ""], ticks)
     return lines, wired_rows

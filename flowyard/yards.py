@@ -86,7 +86,7 @@ class Yard:
         _check_pipes(stations, pipes)
         if begin is None:
             begin = ((0,) * len(stations), ("",) * len(pipes))
-        if not _is_begin(stations, pipes, begin):
+        if not is_begin(stations, pipes, begin):
             raise InvalidBegin(begin)
         exits = _exits_of(stations, pipes)
         if len(exits) > Yard.MOST_EXITS:
@@ -207,7 +207,7 @@ def _is_pipe(stations, value):
     )
 
 
-def _is_begin(stations, pipes, value):
+def is_begin(stations, pipes, value):
     if not is_tuple_of(value, 2):
         return False
     standings, contents = value

@@ -48,6 +48,67 @@ class Examples(Cases):
                          "[[(0, 0), (1, 1)], [Station(1, 1, [('1', [(('0',), 0, 2), (('1',), 1, 2)]), "
                          "('1', [(('0',), 0, 2), (('1',), 1, 2)])])]]")
 
+    def test_rests_same_and_for_ever(self):
+        from flowyard.forever import are_same_for_ever, endless_flow, is_ahead_list, settled_flow
+        from flowyard.rests import is_held, is_held_paper, rest_behind, rests, step
+        from flowyard.same import are_same, classes, is_same_paper, is_table_of, least_table, parting
+        from flowyard.yards import Station, Yard
+        copy = Yard([Station(1, 1, [("1", [(("0",), 0, 1), (("1",), 0, 1)])])], [])
+        slow = Yard([Station(1, 1, [("1", [(("",), 1, 1), (("",), 2, 1)]), ("1", [(("00",), 0, 1), (("01",), 0, 1)]),
+                                    ("1", [(("10",), 0, 1), (("11",), 0, 1)])])], [])
+        self.same([rests(slow), rest_behind(slow, "101"), step(slow, 2, "1"), is_held(slow, 0),
+                   is_held_paper(copy, 0, [((0,), ())])],
+                  [[((0,), ()), ((1,), ()), ((2,), ())], 2, (0, ("11",)), True, True])
+        self.same([are_same(copy, slow), parting(copy, slow), classes(slow), is_same_paper(copy, copy, [(0, 0)])],
+                  [False, "0", [0, 1, 2], True])
+        twice = (("",), [[(1, ("0",)), (0, ("1",))], [(1, ("0",)), (0, ("1",))]])
+        self.same([least_table(copy), is_table_of(copy, twice)], [(("",), [[(0, ("0",)), (0, ("1",))]]), True])
+        self.same([are_same_for_ever(copy, 0, slow, 0),
+                   is_ahead_list(copy, 0, slow, 0, [(0, 0, "", ""), (0, 1, "0", ""), (0, 2, "1", "")])], [True, True])
+        ones = Yard([Station(1, 1, [("1", [(("1",), 0, 1), (("11",), 0, 1)])])], [])
+        self.same([endless_flow(slow, 0, "0", "10"), settled_flow(ones, 0, 0), settled_flow(copy, 0, 0),
+                   are_same_for_ever(ones, 0, copy, 0)], [("", "01"), ("", "1"), None, False])
+
+    def test_room_and_rings(self):
+        from flowyard.rings import is_reason, least_for, stays_for, waits_for
+        from flowyard.room import are_enough, fullest, least_sizes, room_list, spare, standstill, still_stream
+        from flowyard.yards import Station, Yard
+        copy = Station(1, 2, [("1", [(("0", "0"), 0, 1), (("1", "1"), 0, 1)])])
+        hold = Station(1, 1, [("1", [(("",), 1, 1), (("",), 2, 1)]), ("1", [(("00",), 0, 1), (("01",), 0, 1)]),
+                              ("1", [(("10",), 0, 1), (("11",), 0, 1)])])
+        unlike = Station(2, 1, [("12", [(("0",), 0, 1), (("1",), 0, 1), (("1",), 0, 1), (("0",), 0, 1)])])
+        yard = Yard([copy, hold, unlike], [(0, 0, 1, 0), (0, 1, 2, 0), (1, 0, 2, 1)])
+        self.same([least_sizes(yard), are_enough(yard, (1, 2, 2)), spare(yard, (1, 3, 2)), fullest(yard, (1, 2, 2))],
+                  [[(1, 2, 2)], True, [1], (1, 2, 2)])
+        self.same(room_list(yard, (1, 2, 2)),
+                  [((0, 0, 0), ("", "", "")), ((0, 1, 0), ("", "0", "")), ((0, 2, 0), ("", "1", ""))])
+        self.same([still_stream(yard, (1, 1, 3)), standstill(yard, (1, 1, 3)), least_for(yard, "0")],
+                  ["00", ("00", [0, 1]), [(1, 1, 1)]])
+        self.same([waits_for(yard, (1, 1, 3), "00", (0, 1)), stays_for(yard, (1, 1, 3), "00", (0, 1))],
+                  [[(0, 0), (1, 0), (2, 0)], []])
+        self.same(is_reason(yard, (1, 1, 3), "00", ("ring", [(2, 0), (1, 1), (0, 1)])), True)
+
+    def test_clock_and_pace(self):
+        from flowyard.clock import lateness, links, over_at, times
+        from flowyard.pace import delay, keeping_sizes, late_stream, pace, ring_mean
+        from flowyard.yards import Station, Yard
+        slow = Yard([Station(1, 1, [("1", [(("0",), 0, 1), (("1",), 0, 3)])])], [])
+        self.same(times(slow, "101", 2), [(0, 3, (0, 0)), (3, 4, (0, 1)), (4, 7, (0, 2))])
+        self.same([over_at(slow, "101", 0), lateness(slow, "10", 2), links(slow, "", "1")],
+                  [7, {("free", 0): 0}, [(None, ("free", 0), 3), (("free", 0), ("free", 0), 3)]])
+        self.same([delay(slow, 3), delay(slow, 2), pace(slow), late_stream(slow, 3),
+                   ring_mean(slow, ("", "10", [("free", 0)] * 3))], [3, None, (3, 1), "1", (2, 1)])
+        two = Yard([Station(1, 1, [("1", [(("00",), 0, 1), (("11",), 0, 1)])]),
+                    Station(1, 1, [("1", [(("",), 0, 1), (("1",), 0, 1)])])], [(0, 0, 1, 0)])
+        self.same([pace(two), delay(two, 2), keeping_sizes(two), times(two, "1", 0)],
+                  [(2, 1), 3, [(2,)], [(0, 1, (0, 0)), (1, 2, (1, 0)), (2, 3, (1, 1))]])
+
+    def test_wishes(self):
+        from flowyard.wishes import Wish, watching_station
+        last = Wish([(0, 1), (0, 1)], [[0, 1]])
+        self.same([last.passed(0, "011"), last.last_lot("0", "1"), ("0", "01") in last, (~last).good(),
+                   watching_station(last, [1]).row(0, "1")], [[0, 1, 1], [1], True, [[0], [1]], (("1",), 1, 1)])
+
     def test_the_readme(self):
         found = doctest.testfile(str(README), module_relative=False)
         self.assertGreater(found.attempted, 5)
