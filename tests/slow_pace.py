@@ -2,8 +2,11 @@
 
 from fractions import Fraction
 
-from slow_clock import Ticking, slow_links, slow_ends, ticking
-from slow_rests import Steps, all_texts
+from flowyard.pace import heights
+from flowyard.room import are_enough
+from helper import some_yard
+from slow_clock import Ticking, slow_ends, slow_links, ticking
+from slow_rests import Steps, all_texts, small_held
 
 
 def slow_delay(yard, stream, apart, sizes):
@@ -68,3 +71,14 @@ class Links:
     def are_scaled(self, value, mean):
         return all(value[later] >= value[node] + mean[1] * ticks - mean[0]
                    for node, later, ticks in self.edges() if node[1] is not None)
+
+
+def some_paced(dice):
+    """A yard of few rests, and sizes that are enough for it, or None."""
+    while True:
+        yard = some_yard(dice, 3)
+        if small_held(yard, 4):
+            sizes = dice.one_of([None] + [(size,) * len(yard.pipes) for size in (1, 2, 3)
+                                          if are_enough(yard, (size,) * len(yard.pipes))])
+            if len(heights(yard, 100, sizes)) <= 30:
+                return yard, sizes

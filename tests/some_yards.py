@@ -1,7 +1,7 @@
 """Yards for the tests: counters with just so many rests, exits with just so many signs, and others."""
 
 from flowyard.yards import Station, Yard
-from helper import COPY, PASS, TURN, TWICE, UNLIKE
+from helper import COPY, HALF, PASS, TURN, TWICE, UNLIKE
 
 # The document's stations of stage 3 and 4: two signs are given at once, when the second one comes.
 HOLD = Station(1, 1, [
@@ -63,3 +63,37 @@ def fourfold(times):
     """A yard in which a sign makes 1, 4, 16 .. beats, in all so many stations and one that eats all."""
     stations = [FOUR] + [FOUR_TIMES] * (times - 1) + [EATS_BOTH]
     return Yard(stations, [(k, line, k + 1, line) for k in range(times) for line in (0, 1)])
+
+
+# [33] to [36]: turned twice, begun with signs, silent at last, and forks in what is given.
+TWO_TURNS = Yard([TURN, TURN], [(0, 0, 1, 0)])
+BEGUN = Yard([PASS, PASS], [(0, 0, 1, 0)], ((0, 0), ("011",)))
+# After the first 1 it gives no more.
+STOPS = Yard([Station(1, 1, [("1", [(("0",), 0, 1), (("",), 1, 1)]), ("1", [(("",), 1, 1)] * 2)])], [])
+# From standing 1 on it gives one and the same whatever comes, from 0 on it gives that or turns to silence.
+FORK = Yard([Station(1, 1, [("1", [(("01",), 1, 1), (("",), 2, 1)]), ("1", [(("0",), 3, 1), (("01",), 1, 1)]),
+                            ("1", [(("",), 2, 1)] * 2), ("1", [(("1",), 1, 1), (("10",), 3, 1)])])], [])
+
+# [41] to [45]
+# 0 goes the one way, 1 the other one; both ways are read together.
+UNEVEN = Station(1, 2, [("1", [(("0", ""), 0, 1), (("", "1"), 0, 1)])])
+BOTH = Station(2, 1, [("12", [(("0",), 0, 1)] * 4)])
+# Four signs come by one way before the reader can begin, two and two; its two pipes have to hold them together.
+TWO_AND_TWO = Station(1, 2, [("1", [(("00", ""), 1, 1)] * 2), ("1", [(("00", "1"), 0, 1)] * 2)])
+LATE_READER = Station(2, 1, [("12", [(("0",), 1, 1)] * 4), *[("1", [(("1",), goal, 1)] * 2) for goal in (2, 3, 0)]])
+TWO_WAYS = Yard([TWICE, TWO_AND_TWO, PASS, LATE_READER], [(0, 0, 1, 0), (1, 0, 2, 0), (1, 1, 3, 1), (2, 0, 3, 0)])
+
+
+def slowly(ticks, text="0"):
+    """A station that takes so many ticks for each sign."""
+    return Station(1, 1, [("1", [((text,), 0, ticks)] * 2)])
+
+
+SLOW = Yard([Station(1, 1, [("1", [(("0",), 0, 1), (("1",), 0, 3)])])], [])
+TWO = Yard([Station(1, 1, [("1", [(("00",), 0, 1), (("11",), 0, 1)])]), HALF], [(0, 0, 1, 0)])
+# Two ticks, then five for each sign.
+FAST_SLOW = Yard([slowly(2), slowly(5)], [(0, 0, 1, 0)])
+# A sign comes through at each fourth one, and takes nine ticks then.
+RARE = Yard([wheel(), slowly(9)], [(0, 0, 1, 0)])
+# The first sign is fast, and all behind a 1 are slow.
+TURNED = Yard([Station(1, 1, [("1", [(("0",), 0, 1), (("1",), 1, 2)]), ("1", [(("0",), 1, 4), (("1",), 1, 3)])])], [])

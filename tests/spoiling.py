@@ -1,5 +1,7 @@
 """Values that are spoilt, for judges that are asked of any value."""
 
+from helper import odd_values
+
 
 def wrong_kinds(value):
     """The value with itself or one of its parts told by a value of another kind.
@@ -54,3 +56,11 @@ def with_tuples(value):
 def few(values, most):
     """At most about so many of the values, from all over the list."""
     return values[::1 + len(values) // most]
+
+
+def no_sizes(yard):
+    """Values of all kinds that are no sizes of a yard with one pipe or more."""
+    number = len(yard.pipes)
+    rows = [(0,) * number, (4,) * number, (-1,) * number, (True,) * number, ("1",) * number, (None,) * number,
+            [1] * number, (1,) * (number - 1), (1,) * (number + 1), (1,) * (number - 1) + (False,), ((1,),) * number]
+    return odd_values() + rows + [0, 1, "", "1", [], None]

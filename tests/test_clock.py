@@ -10,20 +10,10 @@ from helper import (COPY, EATS, HALF, OVERVIEW, PASS, ROW, SPLIT, TWICE, UNLIKE,
                     odd_values, some_sizes, some_yard)
 from slow_clock import slow_lateness, slow_links, ticking
 from slow_sizes import slow_enough_for
-from some_yards import COPIES, HELD_BY_TWO
-from spoiling import few, wrong_kinds
-from test_room import BOTH, no_sizes
+from some_yards import BOTH, COPIES, FAST_SLOW, HELD_BY_TWO, SLOW, TWO, slowly
+from spoiling import few, no_sizes, wrong_kinds
 
 
-def slowly(ticks, text="0"):
-    """A station that takes so many ticks for each sign."""
-    return Station(1, 1, [("1", [((text,), 0, ticks)] * 2)])
-
-
-SLOW = Yard([Station(1, 1, [("1", [(("0",), 0, 1), (("1",), 0, 3)])])], [])
-TWO = Yard([Station(1, 1, [("1", [(("00",), 0, 1), (("11",), 0, 1)])]), HALF], [(0, 0, 1, 0)])
-# Two ticks, then five for each sign.
-FAST_SLOW = Yard([slowly(2), slowly(5)], [(0, 0, 1, 0)])
 DOUBLE = Yard([TWICE, slowly(3)], [(0, 0, 1, 0)])
 CALLS = ((times, ()), (over_at, ()), (given_at, (0,)), (is_timing, (None,)), (lateness, ()))
 # One beat for each sign, and 2,000 of these are not too many.

@@ -7,16 +7,8 @@ from flowyard.forever import endless_flow, settled_flow
 from flowyard.yards import Station, Yard, joined
 from helper import HALF, OVERVIEW, PASS, SPLIT, TURN, TWICE, Cases, Dice, no_counts, no_texts, some_yard
 from slow_rests import Steps, endless_streams, small_held, told
-from some_yards import COPIES, EATING, HOLDS, LATE, ONES, counting, doubling
-from test_same import some_held
-
-BEGUN = Yard([PASS, PASS], [(0, 0, 1, 0)], ((0, 0), ("011",)))
-# After the first 1 it gives no more.
-STOPS = Yard([Station(1, 1, [("1", [(("0",), 0, 1), (("",), 1, 1)]), ("1", [(("",), 1, 1)] * 2)])], [])
-# From standing 1 on it gives one and the same whatever comes, from 0 on it gives that or turns to silence.
-FORK = Yard([Station(1, 1, [("1", [(("01",), 1, 1), (("",), 2, 1)]), ("1", [(("0",), 3, 1), (("01",), 1, 1)]),
-                            ("1", [(("",), 2, 1)] * 2), ("1", [(("1",), 1, 1), (("10",), 3, 1)])])], [])
-
+from some_held import some_held
+from some_yards import BEGUN, COPIES, EATING, FORK, HOLDS, LATE, ONES, STOPS, counting, doubling
 
 class EndlessFlows(Cases):
     def test_the_documents_yard(self):

@@ -9,10 +9,10 @@ from flowyard.same import are_same
 from flowyard.yards import Station, Yard, joined
 from helper import COPY, HALF, OVERVIEW, PASS, SPLIT, TURN, TWICE, Cases, Dice, no_counts, odd_values
 from slow_rests import Steps, endless_streams, small_held
-from some_yards import COPIES, EATING, HOLDS, LATE, ONES, TURNING, counting, doubling, only
+from some_held import some_held
+from some_yards import (BEGUN, COPIES, EATING, FORK, HOLDS, LATE, ONES, STOPS, TURNING, TWO_TURNS, counting, doubling,
+                        only)
 from spoiling import few, with_tuples, wrong_kinds
-from test_endless import BEGUN, FORK, STOPS
-from test_same import TWO_TURNS, some_held
 
 ALL = (are_same_for_ever, ahead_list, endless_parting)
 JUDGES = (is_ahead_list, is_endless_parting)

@@ -7,7 +7,7 @@ from flowyard.laps import any_lap, lap_through
 from flowyard.looking import look_through
 from helper import Cases, Dice
 from slow_rests import Steps, all_texts, told
-from test_same import some_held
+from some_held import some_held
 
 
 def some_graph(dice):

@@ -10,13 +10,9 @@ from flowyard.yards import Station, Yard
 from helper import (COPY, EATS, HALF, OVERVIEW, PASS, ROW, TWICE, Cases, Dice, odd_values, slow_full_runs,
                     some_sizes, some_yard)
 from slow_sizes import slow_fullest, slow_still
-from some_yards import COPIES, HELD_BY_TWO, HOLDS, counting, fourfold
-from test_room import BOTH, UNEVEN, no_sizes
+from some_yards import BOTH, COPIES, HELD_BY_TWO, HOLDS, TWO_WAYS, UNEVEN, counting, fourfold
+from spoiling import no_sizes
 
-# Four signs come by one way before the reader can begin, two and two; its two pipes have to hold them together.
-TWO_AND_TWO = Station(1, 2, [("1", [(("00", ""), 1, 1)] * 2), ("1", [(("00", "1"), 0, 1)] * 2)])
-LATE_READER = Station(2, 1, [("12", [(("0",), 1, 1)] * 4), *[("1", [(("1",), goal, 1)] * 2) for goal in (2, 3, 0)]])
-TWO_WAYS = Yard([TWICE, TWO_AND_TWO, PASS, LATE_READER], [(0, 0, 1, 0), (1, 0, 2, 0), (1, 1, 3, 1), (2, 0, 3, 0)])
 # Just 2,000 states with these sizes, and one more.
 MOST_STATES = (Yard([HALF, HALF, EATS, PASS, PASS], [(k, 0, k + 1, 0) for k in range(4)],
                     ((0,) * 5, ("000", "1", "110", "100"))), (2, 2, 2, 1))

@@ -11,13 +11,10 @@ from flowyard.rests import rest_behind
 from flowyard.room import are_enough
 from flowyard.yards import Station, Yard
 from helper import HALF, OVERVIEW, PASS, ROW, TWICE, Cases, Dice, odd_values
-from slow_pace import Links
-from some_yards import COPIES, HELD_BY_TWO, HOLDS, counting, doubling, fourfold
-from spoiling import few, with_tuples, wrong_kinds
-from test_clock import FAST_SLOW, SLOW, TWO, slowly
-from test_least_sizes import TWO_WAYS
-from test_pace import RARE, TURNED, some_paced
-from test_room import no_sizes
+from slow_pace import Links, some_paced
+from some_yards import (COPIES, FAST_SLOW, HELD_BY_TWO, HOLDS, RARE, SLOW, TURNED, TWO, TWO_WAYS, counting, doubling,
+                        fourfold, slowly)
+from spoiling import few, no_sizes, with_tuples, wrong_kinds
 
 ALL = ((pace, ()), (slowest, ()), (ring_mean, (None,)), (scaled_heights, ()), (are_scaled, (None,)))
 FREE = ("free", 0)

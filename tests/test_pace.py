@@ -6,33 +6,15 @@ from fractions import Fraction
 from flowyard import errors
 from flowyard.clock import lateness
 from flowyard.pace import are_heights, delay, heights, is_later, late_stream, pace
-from flowyard.room import are_enough
 from flowyard.yards import Station, Yard
-from helper import (OVERVIEW, PASS, ROW, TWICE, Cases, Dice, no_counts, no_texts, odd_values, some_yard)
-from slow_pace import Links, slow_delay, slow_delays
-from slow_rests import all_texts, small_held
-from some_yards import COPIES, HELD_BY_TWO, counting, doubling, wheel
-from spoiling import few, wrong_kinds
-from test_clock import FAST_SLOW, SLOW, TWO, slowly
-from test_room import no_sizes
+from helper import OVERVIEW, PASS, ROW, TWICE, Cases, Dice, no_counts, no_texts, odd_values
+from slow_pace import Links, slow_delay, slow_delays, some_paced
+from slow_rests import all_texts
+from some_yards import COPIES, FAST_SLOW, HELD_BY_TWO, RARE, SLOW, TURNED, TWO, counting, doubling, slowly
+from spoiling import few, no_sizes, wrong_kinds
 
-# A sign comes through at each fourth one, and takes nine ticks then.
-RARE = Yard([wheel(), slowly(9)], [(0, 0, 1, 0)])
-# The first sign is fast, and all behind a 1 are slow.
-TURNED = Yard([Station(1, 1, [("1", [(("0",), 0, 1), (("1",), 1, 2)]), ("1", [(("0",), 1, 4), (("1",), 1, 3)])])], [])
 ALL = ((delay, ()), (heights, ()), (late_stream, ()), (are_heights, (5, None)), (is_later, (5, None)))
 DOUBLE = Yard([TWICE, slowly(3)], [(0, 0, 1, 0)])
-
-
-def some_paced(dice):
-    """A yard of few rests, and sizes that are enough for it, or None."""
-    while True:
-        yard = some_yard(dice, 3)
-        if small_held(yard, 4):
-            sizes = dice.one_of([None] + [(size,) * len(yard.pipes) for size in (1, 2, 3)
-                                          if are_enough(yard, (size,) * len(yard.pipes))])
-            if len(heights(yard, 100, sizes)) <= 30:
-                return yard, sizes
 
 
 def some_aparts(dice, mean):

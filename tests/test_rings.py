@@ -12,10 +12,8 @@ from flowyard.yards import Station, Yard
 from helper import (COPY, HALF, OVERVIEW, PASS, ROW, TWICE, UNLIKE, Cases, Dice, no_texts, odd_values,
                     some_sizes, some_yard)
 from slow_sizes import slow_enough_for, slow_waits
-from some_yards import COPIES, HELD_BY_TWO, HOLDS, counting
-from spoiling import few, with_tuples, wrong_kinds
-from test_least_sizes import TWO_WAYS
-from test_room import BOTH, UNEVEN, no_sizes
+from some_yards import BOTH, COPIES, HELD_BY_TWO, HOLDS, TWO_WAYS, UNEVEN, counting
+from spoiling import few, no_sizes, with_tuples, wrong_kinds
 
 DOUBLE = Yard([TWICE, PASS], [(0, 0, 1, 0)])
 TURNS = Yard([UNEVEN, BOTH], [(0, 0, 1, 0), (0, 1, 1, 1)])

@@ -10,25 +10,12 @@ from flowyard.yards import Station, Yard
 from helper import (COPY, HALF, OVERVIEW, PASS, ROW, TWICE, UNLIKE, Cases, Dice, no_texts, odd_values, slow_begin,
                     slow_behind, slow_can, slow_full_runs, some_sizes, some_yard)
 from slow_sizes import slow_enough_for, slow_lacking, slow_sized_rests, slow_still
-from some_yards import COPIES, HELD_BY_TWO, HOLDS, counting, fourfold
-from spoiling import few, with_tuples, wrong_kinds
+from some_yards import BOTH, COPIES, HELD_BY_TWO, HOLDS, UNEVEN, counting, fourfold
+from spoiling import few, no_sizes, with_tuples, wrong_kinds
 
 DOUBLE = Yard([TWICE, PASS], [(0, 0, 1, 0)])
 # It eats the first sign, and passes all others by two and two, for which one place is too few.
 LATER = Station(1, 1, [("1", [(("0",), 1, 1)] * 2), ("1", [(("00",), 0, 1)] * 2)])
-# A beginning is not enough, the whole is: the second sign makes the reader take what was in the way.
-UNEVEN = Station(1, 2, [("1", [(("0", ""), 0, 1), (("", "1"), 0, 1)])])
-BOTH = Station(2, 1, [("12", [(("0",), 0, 1)] * 4)])
-
-
-def no_sizes(yard):
-    """Values of all kinds that are no sizes of a yard with one pipe or more."""
-    number = len(yard.pipes)
-    rows = [(0,) * number, (4,) * number, (-1,) * number, (True,) * number, ("1",) * number, (None,) * number,
-            [1] * number, (1,) * (number - 1), (1,) * (number + 1), (1,) * (number - 1) + (False,), ((1,),) * number]
-    return odd_values() + rows + [0, 1, "", "1", [], None]
-
-
 def judged(yard, sizes, value):
     """A slow reading of [43] for a list of tuples (standings, contents), by all full runs there are."""
     if len(set(value)) < len(value):

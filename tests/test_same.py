@@ -9,41 +9,17 @@ from flowyard.rests import rests
 from flowyard.same import are_same, is_parting, is_same_paper, parting, same_paper
 from flowyard.yards import Station, Yard, joined
 from helper import COPY, HALF, OVERVIEW, PASS, SPLIT, TURN, TWICE, Cases, Dice, no_texts, odd_values
-from slow_rests import Steps, all_texts, slow_flows, small_held
-from some_yards import COPIES, EATING, HELD_BY_TWO, HOLDS, LATE, ONES, TURNING, counting, doubling, only
+from slow_rests import Steps, all_texts, slow_flows
+from some_held import some_two
+from some_yards import COPIES, EATING, HELD_BY_TWO, HOLDS, LATE, ONES, TURNING, TWO_TURNS, counting, doubling, only
 from spoiling import few, with_tuples, wrong_kinds
 
-TWO_TURNS = Yard([TURN, TURN], [(0, 0, 1, 0)])
 TWO_EXITS = Yard([SPLIT], [])
 # Both give the same at the first exit alone.
 SPLIT_TURNED = Yard([SPLIT, PASS, TURN], [(0, 0, 1, 0), (0, 1, 2, 0)])
 SPLIT_PASSED = Yard([SPLIT, PASS, PASS], [(0, 0, 1, 0), (0, 1, 2, 0)])
 ALL = (are_same, parting, same_paper)
 JUDGES = (is_same_paper, is_parting)
-
-
-def some_held(dice):
-    """A yard of one or two stations, of few rests, its texts such that two of them are often the same."""
-    while True:
-        texts = dice.one_of([["", "0", "1"], ["0", "1"], ["0"], ["", "1"], ["00", "01", ""]])
-        stations = []
-        for _ in range(1 + dice.below(2)):
-            number = 1 + dice.below(3)
-            stations.append(Station(1, 1, [("1", [((dice.one_of(texts),), dice.below(number), 1) for _ in "01"])
-                                           for _ in range(number)]))
-        yard = Yard(stations, [(0, 0, 1, 0)] if len(stations) == 2 else [])
-        contents = (dice.text(1),) if len(stations) == 2 else ()
-        yard = yard.begun((tuple(dice.below(len(station)) for station in stations), contents))
-        if small_held(yard, 6):
-            return yard
-
-
-def some_two(dice):
-    """Two yards, of which the second one is often the first one in other words."""
-    one = some_held(dice)
-    return one, dice.one_of([some_held(dice), one, joined(one, 0, COPIES), joined(COPIES, 0, one),
-                             joined(one, 0, TWO_TURNS), one.begun((tuple(len(station) - 1 for station in one.stations),
-                                                                   one.begin[1]))])
 
 
 def slow_is_same_paper(mine, yours, value):

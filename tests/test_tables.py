@@ -8,9 +8,9 @@ from flowyard.same import are_same, classes, is_table_of, least_table
 from flowyard.yards import Station, Yard, joined
 from helper import HALF, OVERVIEW, PASS, SPLIT, TURN, TWICE, Cases, Dice, odd_values
 from slow_rests import Steps, all_texts, slow_flows
-from some_yards import COPIES, EATING, HOLDS, LATE, counting, doubling
+from some_held import some_held, some_two
+from some_yards import COPIES, EATING, HOLDS, LATE, TWO_TURNS, counting, doubling
 from spoiling import few, with_tuples, wrong_kinds
-from test_same import TWO_TURNS, some_held, some_two
 
 # Its standings 0 and 2 tell the same, as 1 and 3 do.
 DOUBLED = Yard([Station(1, 1, [
