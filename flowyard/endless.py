@@ -47,7 +47,7 @@ def flows_of_zeros(looked, outlet):
 def ways_apart(looked, outlet):
     """For each rest two endless streams whose flows from there are unlike; None for a settled one."""
     flows = flows_of_zeros(looked, outlet)
-    silent = _silent_edges(looked, outlet)
+    silent = silent_edges(looked, outlet)
     found = [_apart_at(looked.steps[rest][1], outlet, flows, silent, rest) for rest in range(len(flows))]
     for _ in flows:
         found = [_apart_behind(found, rest, looked.steps[rest]) for rest in range(len(flows))]
@@ -74,7 +74,7 @@ def _apart_behind(found, rest, steps):
     return None
 
 
-def _silent_edges(looked, outlet):
+def silent_edges(looked, outlet):
     """For each rest the steps that give nothing at the exit."""
     edges = {}
     for number, steps in enumerate(looked.steps):

@@ -4,8 +4,8 @@ from flowyard.ahead import Race, found_leads, is_torn, standing_lap
 from flowyard.basics import is_below, is_lap, is_list, is_text, is_tuple_of
 from flowyard.checks import check_exit, check_lap, check_text
 from flowyard.endless import flows_of_zeros, ways_apart, whole_flow
-from flowyard.errors import TooMany
 from flowyard.looking import check_rest, look_through
+from flowyard.pairs import check_pairs
 
 _MOST_PAIRS = 400
 
@@ -72,22 +72,8 @@ def _both_looked_through(one, one_exit, other, other_exit):
     check_exit(other, other_exit)
     mine = look_through(one)
     yours = look_through(other)
-    if _number_of_pairs(mine, yours) > _MOST_PAIRS:
-        raise TooMany("pairs", _MOST_PAIRS)
+    check_pairs(mine, yours, _MOST_PAIRS)
     return mine, yours
-
-
-def _number_of_pairs(mine, yours):
-    """How many tuples of a rest of the one and one of the other streams lead to."""
-    met = {(0, 0): True}
-    waiting = [(0, 0)]
-    while waiting != []:
-        my_rest, your_rest = waiting.pop()
-        for (my_goal, _), (your_goal, _) in zip(mine.steps[my_rest], yours.steps[your_rest]):
-            if (my_goal, your_goal) not in met:
-                met[(my_goal, your_goal)] = True
-                waiting.append((my_goal, your_goal))
-    return len(met)
 
 
 def _is_lead(mine, yours, value):

@@ -39,10 +39,7 @@ def any_lap(edges):
 def _ways_on(edges):
     """For each node how many of its edges lead to nodes from which one can go on without an end."""
     ways_on = {node: len(rows) for node, rows in edges.items()}
-    ahead = {node: [] for node in edges}
-    for node, rows in edges.items():
-        for _, there in rows:
-            ahead[there].append(node)
+    ahead = _turned(edges)
     waiting = [node for node in edges if ways_on[node] == 0]
     while waiting != []:
         done = waiting.pop()
@@ -51,3 +48,50 @@ def _ways_on(edges):
             if ways_on[node] == 0:
                 waiting.append(node)
     return ways_on
+
+
+def knots(edges):
+    """For each node the number of its knot, the nodes to which it leads and that lead back to it.
+
+    No edge leads to a knot with a greater number.
+    """
+    ahead = _turned(edges)
+    left = _as_left(edges)
+    numbers = {}
+    # The node that is left last leads to all that can be come to from its knot, and no later knot leads there.
+    number = len(edges)
+    while left != []:
+        waiting = [left.pop()]
+        number -= 1
+        while waiting != []:
+            node = waiting.pop()
+            if node not in numbers:
+                numbers[node] = number
+                waiting.extend(ahead[node])
+    return numbers
+
+
+def _as_left(edges):
+    """The nodes in the sequence in which a walk leaves them that goes on as long as it meets new ones."""
+    left = []
+    met = {}
+    for start in edges:
+        waiting = [(start, False)]
+        while waiting != []:
+            node, is_done = waiting.pop()
+            if is_done:
+                left.append(node)
+            elif node not in met:
+                met[node] = True
+                waiting.append((node, True))
+                waiting.extend([(there, False) for _, there in edges[node]])
+    return left
+
+
+def _turned(edges):
+    """For each node those from which an edge leads to it."""
+    ahead = {node: [] for node in edges}
+    for node, rows in edges.items():
+        for _, there in rows:
+            ahead[there].append(node)
+    return ahead

@@ -101,7 +101,7 @@ def ring_mean(yard, value, sizes=None):
         ticks = paced.links[(rest, sign)].get((slot, later))
         if ticks is None:
             return None
-        together += ticks
+        together = together + ticks
         rest, _ = paced.looked.steps[rest][int(sign)]
     if rest != first:
         return None

@@ -4,6 +4,7 @@ from flowyard.basics import is_below, is_list, is_stream, is_tuple_of
 from flowyard.checks import are_texts
 from flowyard.errors import OtherExits
 from flowyard.looking import look_through
+from flowyard.pairs import compared
 
 
 def are_same(one, other):
@@ -12,13 +13,13 @@ def are_same(one, other):
 
 def parting(one, other):
     mine, yours = _both_looked_through(one, other)
-    stream, _ = _compared(mine, yours)
+    stream, _ = compared(mine, yours, list(range(len(one.exits))))
     return stream
 
 
 def same_paper(one, other):
     mine, yours = _both_looked_through(one, other)
-    _, pairs = _compared(mine, yours)
+    _, pairs = compared(mine, yours, list(range(len(one.exits))))
     return pairs
 
 
@@ -53,7 +54,7 @@ def classes(yard):
 
 def is_table_of(yard, value):
     looked = look_through(yard)
-    if not _is_table(value, len(yard.exits)) or value[0] != looked.first:
+    if not is_table(value, len(yard.exits)) or value[0] != looked.first:
         return False
     rows = value[1]
     waiting = [(0, 0)]
@@ -75,28 +76,6 @@ def _both_looked_through(one, other):
     if len(one.exits) != len(other.exits):
         raise OtherExits(len(one.exits), len(other.exits))
     return mine, yours
-
-
-def _compared(mine, yours):
-    """The least stream that parts them and None, or None and the pairs to which streams lead."""
-    if mine.first != yours.first:
-        return "", None
-    pairs = [(0, 0)]
-    streams = {(0, 0): ""}
-    at = 0
-    while at < len(pairs):
-        pair = pairs[at]
-        at += 1
-        for sign in "01":
-            stream = streams[pair] + sign
-            my_rest, my_texts = mine.steps[pair[0]][int(sign)]
-            your_rest, your_texts = yours.steps[pair[1]][int(sign)]
-            if my_texts != your_texts:
-                return stream, None
-            if (my_rest, your_rest) not in streams:
-                streams[(my_rest, your_rest)] = stream
-                pairs.append((my_rest, your_rest))
-    return None, pairs
 
 
 def _is_pair(mine, yours, value):
@@ -136,7 +115,8 @@ def _numbered(marks):
     return [numbers[mark] for mark in marks]
 
 
-def _is_table(value, exits):
+def is_table(value, exits):
+    """Whether it is a table for so many exits."""
     if not is_tuple_of(value, 2):
         return False
     first, rows = value

@@ -105,12 +105,21 @@ def end_of(wiring, state):
     texts = [rest, *contents, *given]
     first_exit = 1 + len(contents)
     # No pipe leads to a lesser number: so each station can do all its beats at once.
-    stands = [_all_done(station, standing, texts) for station, standing in zip(wiring, standings)]
+    stands = [_all_done(station, standing, texts)[0] for station, standing in zip(wiring, standings)]
     return (tuple(stands), tuple(texts[1:first_exit]), texts[0], tuple(texts[first_exit:]))
 
 
+def beats_of(wiring, state, station):
+    """How many beats of a station there are behind a state without sizes, however many there are in all."""
+    standings, contents, rest, given = state
+    texts = [rest, *contents, *given]
+    counts = [_all_done(wiring[number], standings[number], texts)[1] for number in range(station + 1)]
+    return counts[station]
+
+
 def _all_done(station, standing, texts):
-    """Do all beats of a wired station on the texts; where it stands then."""
+    """Do all beats of a wired station on the texts; where it stands then, and how many beats that were."""
+    beats = 0
     taken = {line: 0 for lines, _ in station for line in lines}
     given = {}
     while True:
@@ -119,6 +128,7 @@ def _all_done(station, standing, texts):
         if row is None:
             break
         standing = row[0]
+        beats += 1
         for line in lines:
             taken[line] += 1
         for line, text in row[1]:
@@ -127,7 +137,7 @@ def _all_done(station, standing, texts):
         texts[line] = texts[line][number:]
     for line, parts in given.items():
         texts[line] = texts[line] + "".join(parts)
-    return standing
+    return standing, beats
 
 
 def _lines_of(yard):

@@ -15,7 +15,7 @@ from flowyard.errors import (
     TooMany,
 )
 
-_MOST_STANDINGS = 4
+MOST_STANDINGS = 4
 _MOST_TICKS = 9
 _MOST_GIVEN = 2
 _MOST_WAITING = 3
@@ -29,7 +29,7 @@ class Station:
             raise InvalidIns(ins)
         if not is_from_to(outs, 1, 2):
             raise InvalidOuts(outs)
-        if not is_list(standings) or not 1 <= len(standings) <= _MOST_STANDINGS:
+        if not is_list(standings) or not 1 <= len(standings) <= MOST_STANDINGS:
             raise InvalidStandings(None)
         for position, standing in enumerate(standings):
             if not _is_standing(standing, ins, outs, len(standings)):
@@ -88,7 +88,7 @@ class Yard:
             begin = ((0,) * len(stations), ("",) * len(pipes))
         if not is_begin(stations, pipes, begin):
             raise InvalidBegin(begin)
-        exits = _exits_of(stations, pipes)
+        exits = exits_of(stations, pipes)
         if len(exits) > Yard.MOST_EXITS:
             raise TooMany("exits", Yard.MOST_EXITS)
         self._stations = tuple(stations)
@@ -152,7 +152,28 @@ def is_row(value, outs, standings):
     )
 
 
-def _ways_to_read(ins):
+def with_station(yard, number, station, standing):
+    """The yard with another station at this number, which begins at the standing."""
+    stations = yard.stations
+    stations[number] = station
+    return Yard(stations, yard.pipes, (put_at(yard.begin[0], number, standing), yard.begin[1]))
+
+
+def put_at(row, place, value):
+    """The tuple with the value in the place of another one."""
+    return (*row[:place], value, *row[place + 1 :])
+
+
+def with_row(station, standing, signs, row):
+    """The station with this row in the place of the one for these signs."""
+    standings = station.standings()
+    reads, rows = standings[standing]
+    rows[signs_read(reads).index(signs)] = row
+    return Station(station.ins, station.outs, standings)
+
+
+def ways_to_read(ins):
+    """What a standing may read of so many in-lines."""
     if ins == 2:
         return ("1", "2", "12")
     return ("1",)
@@ -162,7 +183,7 @@ def _is_standing(value, ins, outs, standings):
     if not is_tuple_of(value, 2):
         return False
     reads, rows = value
-    if not isinstance(reads, str) or reads not in _ways_to_read(ins):
+    if not isinstance(reads, str) or reads not in ways_to_read(ins):
         return False
     if not is_list(rows) or len(rows) != len(signs_read(reads)):
         return False
@@ -185,7 +206,7 @@ def _check_pipes(stations, pipes):
     out_lines = []
     in_lines = []
     for position, pipe in enumerate(pipes):
-        if not _is_pipe(stations, pipe) or pipe[:2] in out_lines or pipe[2:] in in_lines:
+        if not is_pipe(stations, pipe) or pipe[:2] in out_lines or pipe[2:] in in_lines:
             raise InvalidPipes(position)
         out_lines.append(pipe[:2])
         in_lines.append(pipe[2:])
@@ -194,7 +215,8 @@ def _check_pipes(stations, pipes):
         raise InvalidPipes(None)
 
 
-def _is_pipe(stations, value):
+def is_pipe(stations, value):
+    """Whether it leads from a line of one of the stations to a line of a later one."""
     if not is_tuple_of(value, 4):
         return False
     station, out_line, later, in_line = value
@@ -218,7 +240,7 @@ def is_begin(stations, pipes, value):
     )
 
 
-def _exits_of(stations, pipes):
+def exits_of(stations, pipes):
     with_pipe = [pipe[:2] for pipe in pipes]
     out_lines = [(number, line) for number, station in enumerate(stations) for line in range(station.outs)]
     return [out_line for out_line in out_lines if out_line not in with_pipe]
