@@ -41,3 +41,11 @@ def spots(more):
     first = "1" * more + "0" if more else ""
     contents = ("", "", "", "", "", first[3:], first[:3], "")
     return Yard(stations, pipes, ((0,) * 9, contents))
+
+
+def some_latched(dice):
+    """A yard that never comes back to a standing that it has left."""
+    many = 2 + dice.below(3)
+    texts = dice.one_of([["0", "1"], ["", "0", "1"], ["0", "1", "01", "10"], ["0", "00", "1"]])
+    rows = [("1", [((dice.one_of(texts),), min(k + dice.below(3), many - 1), 1) for _ in "01"]) for k in range(many)]
+    return Yard([Station(1, 1, rows)], [])

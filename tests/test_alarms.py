@@ -1,7 +1,6 @@
 """[74], [75]: sure lists, alarms, where they ring, sure papers and alarm papers."""
 
 import unittest
-from itertools import combinations
 
 from flowyard import errors
 from flowyard.alarms import (alarm_paper, alarms, is_alarm_paper, is_sure, is_sure_paper, is_unsure, rings_at, sure_paper,
@@ -13,7 +12,7 @@ from slow_rests import all_texts
 from slow_taps import Listening, is_part_of, parts_of_text
 from some_held import some_held
 from some_looked import fails_looking
-from some_taps import HELD, HUNDRED, HUNDRED_AND_ONE, LATCH, OPENS, giving, spots, zeros
+from some_taps import HELD, HUNDRED, HUNDRED_AND_ONE, LATCH, OPENS, giving, some_latched, spots, zeros
 from some_yards import COPIES, EATING, HOLDS, LATE, counting
 from spoiling import few, with_tuples, wrong_kinds
 from test_watch import TWO_EXITS
@@ -22,14 +21,6 @@ NO_RESTS = [value for value in odd_values() if value != []] + ["", "0", 0, [-1],
                                                               {0: 1}, {0}, [0, -1], [10 ** 29, 10 ** 29]]
 # It counts its signs up to three, and gives the number each time.
 COUNTS = Yard([Station(1, 1, [("1", [((("0", "10", "11", "1")[k],), min(k + 1, 3), 1)] * 2) for k in range(4)])], [])
-
-
-def some_latched(dice):
-    """A yard that never comes back to a standing that it has left."""
-    many = 2 + dice.below(3)
-    texts = dice.one_of([["0", "1"], ["", "0", "1"], ["0", "1", "01", "10"], ["0", "00", "1"]])
-    rows = [("1", [((dice.one_of(texts),), min(k + dice.below(3), many - 1), 1) for _ in "01"]) for k in range(many)]
-    return Yard([Station(1, 1, rows)], [])
 
 
 def some_listened(dice, most=7):

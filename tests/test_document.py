@@ -109,6 +109,69 @@ class Examples(Cases):
         self.same([last.passed(0, "011"), last.last_lot("0", "1"), ("0", "01") in last, (~last).good(),
                    watching_station(last, [1]).row(0, "1")], [[0, 1, 1], [1], True, [[0], [1]], (("1",), 1, 1)])
 
+    def test_watch(self):
+        from flowyard.watch import are_bars, breaker, gap, gap_heights, is_kept, is_witness, passed_lots, ranks
+        from flowyard.wishes import Wish
+        from flowyard.yards import Station, Yard
+        last = Wish([(0, 1), (0, 1)], [[0, 1]])
+        half = Yard([Station(1, 1, [("1", [(("",), 1, 1), (("",), 1, 1)]), ("1", [(("0",), 0, 1), (("1",), 0, 1)])])], [])
+        turns = Yard([Station(1, 1, [("1", [(("0",), 1, 1), (("0",), 1, 1)]), ("1", [(("1",), 0, 1), (("1",), 0, 1)])])], [])
+        self.same([ranks(half, 0), passed_lots(half, 0, last), is_witness(half, 0, last, [1], ("", "01")), is_kept(turns, 0, last)],
+                  [[1, 0], [[0], [1], [0, 1]], True, True])
+        self.same([gap(turns, 0, last, [1]), gap_heights(turns, 0, last, [1]), gap(half, 0, last, [1]),
+                   are_bars(turns, 0, last, [1], {(0, 0): 0, (0, 1): 0, (1, 0): 1})], [1, {(0, 0): 0, (0, 1): 0, (1, 0): 1}, None, True])
+        self.assertIsNone(breaker(turns, 0, last))
+
+    def test_taps_and_alarms(self):
+        from flowyard.alarms import alarms, is_sure, rings_at, unsure_stream
+        from flowyard.runs import flows
+        from flowyard.taps import can_be_heard, first_stream, picture, unheard, view
+        from flowyard.yards import Station, Yard
+        latch = Station(1, 1, [("1", [(("0",), 0, 1), (("1",), 1, 1)]), ("1", [(("1",), 1, 1), (("1",), 1, 1)])])
+        held = Yard([latch], [])
+        self.same([flows(held, "00100"), can_be_heard(held, 0, "011"), first_stream(held, 0, "011"), view(held, 0, "1")],
+                  [["00111"], True, "010", [(1, ""), (1, "1")]])
+        self.same([picture(held, 0), unheard(held, 0)], [[([0, 1], 0, 1), ([1], None, 1)], ["10"]])
+        self.same([alarms(held, 0, [1]), alarms(held, 0, [0]), alarms(held, 0, [1, 0]), is_sure(held, 0, [1], "01")],
+                  [["1"], [], [""], True])
+        self.same([rings_at(held, 0, [1], "0010"), unsure_stream(held, 0, [1], "00"), unsure_stream(held, 0, [1], "10")],
+                  [3, "00", None])
+
+    def test_swaps_and_patches(self):
+        from flowyard.patches import greatest_keeping, kept_exits, least_changing, shown_by, word
+        from flowyard.swaps import images, least_break, moments, swapped_end
+        from flowyard.yards import Station, Yard
+        parity = Station(1, 1, [("1", [(("0",), 0, 1), (("1",), 1, 1)]), ("1", [(("1",), 1, 1), (("0",), 0, 1)])])
+        wide = Station(1, 1, [("1", [(("0",), 2, 1), (("1",), 1, 1)]), ("1", [(("1",), 1, 1), (("0",), 2, 1)]),
+                              ("1", [(("0",), 0, 1), (("1",), 1, 1)])])
+        yard = Yard([parity], [])
+        self.same([images(yard, 0, wide), least_break(yard, 0, wide, 0, 1), swapped_end(yard, 0, wide, "01", 1, 2),
+                   moments(yard, 0, 1)], [{0: [0, 2], 1: [1]}, ("0", 0), ((1,), (), "", ("01",)), [((1,), ())]])
+        base = Yard([wide], [])
+        patch = [(0, 0, "0", (("0",), 0, 1)), (0, 2, "1", (("0",), 1, 1))]
+        self.same([word(base, patch, [0]), shown_by(base, patch, [1]), shown_by(base, patch, [0, 1])], ["keeps", "01", "111"])
+        self.same([least_changing(base, patch), greatest_keeping(base, patch), kept_exits(base, patch), kept_exits(base, patch[:1])],
+                  [[[1]], [[0]], [], [0]])
+
+    def test_texts_claims_and_desks(self):
+        from flowyard.claims import contrary, is_paper, is_true
+        from flowyard.desk import Desk, told_again, tried
+        from flowyard.texts import read_term, written
+        from flowyard.yards import Station, Yard
+        turn = Station(1, 1, [("1", [(("1",), 0, 1), (("0",), 0, 2)])])
+        self.same(written(Yard([turn, turn], [(0, 0, 1, 0)])),
+                  "station 1 1\nstanding 1 1 0 1 0 0 2\nstation 1 1\nstanding 1 1 0 1 0 0 2\npipe 0 0 1 0\nbegin 0 0\ncontents -\n")
+        self.same([read_term("by(0110,in,late(1,in))\n"), written((("",), [[(0, ("0",)), (0, ("",))]]))],
+                  [("by", "0110", "in", ("late", "1", "in")), "first -\nplace 0 0 0 -\n"])
+        slow = ("in time", Yard([turn], []), 2, None, 1)
+        self.same([is_true(slow), contrary(slow)[0], is_paper(contrary(slow), "1"), is_paper(contrary(slow), "00")],
+                  [False, "late", True, False])
+        yard = Yard([turn, turn], [(0, 0, 1, 0)])
+        desk = Desk(yard, apart=1)
+        self.same(desk.do_all("come 01", "beat 0", "can", "finish", "flows", "over"), ["done", "done", "0 1", "3", "01", "4"])
+        self.same([tried(desk, lambda held: held.finish()), desk.undo(), desk.state, desk.times(), told_again(desk, yard).log()],
+                  [0, "finish", ((0, 0), ("1",), "1", ("",)), [(0, 1, (0, 0))], ["come 01", "beat 0"]])
+
     def test_the_readme(self):
         found = doctest.testfile(str(README), module_relative=False)
         self.assertGreater(found.attempted, 5)

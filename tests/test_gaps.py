@@ -4,14 +4,11 @@ import unittest
 
 from flowyard import errors
 from flowyard.watch import are_gap_heights, gap, gap_heights
-from flowyard.wishes import Wish
 from flowyard.yards import Station, Yard, joined
 from helper import TWICE, Cases, Dice, no_counts, odd_values
-from slow_watch import Watching
-from some_held import some_held
 from some_looked import fails_looking
-from some_wishes import LAST, ONE, ROUND, some_wish
-from some_yards import BEGUN, COPIES, EATING, HOLDS, ONES, STOPS, TURNING, counting, doubling, only
+from some_wishes import LAST, ONE, ROUND
+from some_yards import COPIES, EATING, ONES, STOPS, counting, doubling
 from spoiling import few, wrong_kinds
 from test_lots import TURNS, WRONG_LOTS, some_watched
 from test_watch import HALVES, TWO_EXITS

@@ -49,6 +49,32 @@ FUNCTIONS = {
              "ring_mean(yard, value, sizes=None)", "scaled_heights(yard, sizes=None)",
              "are_scaled(yard, value, sizes=None)", "keeping_sizes(yard)"],
     "wishes": ["watching_station(wish, lot)"],
+    "watch": ["is_live(yard, outlet)", "ranks(yard, outlet)", "are_ranks(yard, outlet, value)", "silent_stream(yard, outlet)",
+              "is_silent_stream(yard, outlet, value)", "nodes(yard, outlet, wish)", "passed_lots(yard, outlet, wish)",
+              "witness(yard, outlet, wish, lot)", "bars(yard, outlet, wish, lot)", "is_witness(yard, outlet, wish, lot, value)",
+              "are_bars(yard, outlet, wish, lot, value)", "is_kept(yard, outlet, wish)", "kept_paper(yard, outlet, wish)",
+              "breaker(yard, outlet, wish)", "is_kept_paper(yard, outlet, wish, value)", "is_breaker(yard, outlet, wish, value)",
+              "gap(yard, outlet, wish, lot)", "gap_heights(yard, outlet, wish, lot)",
+              "are_gap_heights(yard, outlet, wish, lot, number, value)"],
+    "taps": ["is_part(text, whole)", "heard_of(yard, outlet, stream, text)", "can_be_heard(yard, outlet, text)",
+             "first_stream(yard, outlet, text)", "view(yard, outlet, text)", "rests_behind(yard, outlet, text)",
+             "picture(yard, outlet)", "unheard(yard, outlet)", "heard_apart(one, outlet, other, second)",
+             "twins(one, outlet, other, second)", "are_twins(one, outlet, other, second, value)"],
+    "alarms": ["is_sure(yard, outlet, rests, text)", "unsure_stream(yard, outlet, rests, text)",
+               "is_unsure(yard, outlet, rests, text, value)", "sure_paper(yard, outlet, rests, text)",
+               "is_sure_paper(yard, outlet, rests, text, value)", "alarms(yard, outlet, rests)",
+               "alarm_paper(yard, outlet, rests, text)", "is_alarm_paper(yard, outlet, rests, text, value)",
+               "rings_at(yard, outlet, rests, stream)"],
+    "swaps": ["exchanged(yard, station, new, image=0)", "swapped_end(yard, station, new, stream, number, image)",
+              "moments(yard, station, standing)", "images(yard, station, new)", "is_kept(yard, station, new, standing, image)",
+              "kept_paper(yard, station, new, standing, image)", "is_kept_paper(yard, station, new, standing, image, value)",
+              "least_break(yard, station, new, standing, image)", "is_break(yard, station, new, standing, image, value)"],
+    "patches": ["patched(yard, patch)", "word(yard, patch, part)", "shown_by(yard, patch, part)", "least_changing(yard, patch)",
+                "greatest_keeping(yard, patch)", "overfilling(yard, patch)", "merged(yard, one, other)", "kept_exits(yard, patch)",
+                "lost_exits(yard, one, other)"],
+    "texts": ["written(entry)", "read_station(lines)", "read_yard(lines)", "read_table(lines)", "read_term(lines)"],
+    "claims": ["is_claim(value)", "is_true(claim)", "contrary(claim)", "paper_of(claim)", "is_paper(claim, value)"],
+    "desk": ["tried(desk, action)", "told_again(desk, yard)"],
 }
 CLASSES = {
     ("yards", "Station"): ["__init__(self, ins, outs, standings)", "standings(self)", "reads(self, standing)",
@@ -58,8 +84,14 @@ CLASSES = {
     ("wishes", "Wish"): ["__init__(self, goals, good)", "goals(self)", "good(self)", "lots(self)", "goes(self, place, text)",
                          "passed(self, place, text)", "last_lot(self, begin, lap)", "__len__(self)", "__invert__(self)",
                          "__eq__(self, other)", "__repr__(self)"],
+    ("desk", "Desk"): ["__init__(self, yard, sizes=None, apart=0)", "as_yard(self)", "come(self, text)", "beat(self, station)",
+                       "finish(self)", "swap(self, station, name, image)", "change(self, station, standing, signs, row)",
+                       "undo(self)", "times(self)", "log(self)", "do(self, command)", "do_all(self, *commands)",
+                       "__call__(self, command)", "__len__(self)"],
+    ("desk", "Trial"): ["__init__(self, desk)"],
 }
-PROPERTIES = {("yards", "Station"): ["ins", "outs"], ("yards", "Yard"): ["stations", "pipes", "begin", "exits"]}
+PROPERTIES = {("yards", "Station"): ["ins", "outs"], ("yards", "Yard"): ["stations", "pipes", "begin", "exits"],
+              ("desk", "Desk"): ["sizes", "apart", "stations", "state", "came", "run"]}
 CLASS_VALUES = {("yards", "Yard"): {"MOST_STATIONS": 12, "MOST_EXITS": 3}, ("wishes", "Wish"): {"MOST_PLACES": 4}}
 
 
@@ -89,8 +121,16 @@ class Interface(unittest.TestCase):
                 method = row[:row.index("(")]
                 self.assertEqual(method + str(inspect.signature(body[method])), row)
 
-    def test_the_sign_of_a_wish_for_in(self):
+    def test_signs_of_operators(self):
         self.assertIn("__contains__", vars(module("wishes").Wish))
+        for name in ("__contains__", "__getitem__", "__setitem__", "__iadd__"):
+            self.assertIn(name, vars(module("desk").Desk))
+        for name in ("__enter__", "__exit__"):
+            self.assertIn(name, vars(module("desk").Trial))
+
+    def test_a_list_of_words(self):
+        self.assertIsInstance(module("claims").WORDS, list)
+        self.assertEqual({type(row) for row in module("claims").WORDS}, {tuple})
 
     def test_properties_and_class_values(self):
         for (name, word), rows in PROPERTIES.items():

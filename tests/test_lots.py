@@ -8,13 +8,13 @@ from flowyard.watch import (are_bars, bars, breaker, is_breaker, is_kept, is_kep
                             passed_lots, witness)
 from flowyard.wishes import Wish
 from flowyard.yards import Station, Yard, joined
-from helper import SPLIT, Cases, Dice, no_counts, odd_values
-from slow_rests import Steps, all_texts, endless_streams
+from helper import Cases, Dice, no_counts, odd_values
+from slow_rests import all_texts, endless_streams
 from slow_watch import Watching
 from some_held import some_held
 from some_looked import fails_looking
 from some_wishes import ALL_LOTS, LAST, ONE, ROUND, some_wish
-from some_yards import BEGUN, COPIES, EATING, FORK, HOLDS, LATE, ONES, STOPS, TURNING, counting, doubling, only
+from some_yards import BEGUN, COPIES, EATING, HOLDS, ONES, STOPS, counting, doubling, only
 from spoiling import few, with_tuples, wrong_kinds
 from test_watch import HALVES, TWO_EXITS
 

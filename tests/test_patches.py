@@ -7,9 +7,9 @@ from flowyard import errors
 from flowyard.patches import (greatest_keeping, kept_exits, least_changing, lost_exits, merged, overfilling, patched, shown_by,
                               word)
 from flowyard.runs import flows
-from flowyard.yards import Station, Yard, joined
+from flowyard.yards import Station, Yard
 from helper import COPY, OVERVIEW, PASS, SPLIT, TURN, TWICE, UNLIKE, Cases, Dice, odd_values, some_yard
-from slow_rests import all_texts, slow_flows, slow_look, slow_rest
+from slow_rests import all_texts, slow_flows, slow_rest
 from some_held import some_held
 from some_looked import fails_looking
 from some_yards import COPIES, EATING, HELD_BY_TWO, counting, doubling, only

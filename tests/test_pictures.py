@@ -5,9 +5,9 @@ import unittest
 from flowyard import errors
 from flowyard.taps import are_twins, can_be_heard, heard_apart, picture, rests_behind, twins, unheard, view
 from flowyard.yards import Yard, joined
-from helper import HALF, PASS, SPLIT, TWICE, Cases, Dice, no_counts, odd_values
+from helper import PASS, SPLIT, TWICE, Cases, Dice, no_counts, odd_values
 from slow_rests import all_texts
-from slow_taps import Listening, is_part_of, parts_of_text
+from slow_taps import is_part_of, parts_of_text
 from some_held import some_held, some_two
 from some_looked import fails_looking, fails_looking_at_two
 from some_taps import HELD, HUNDRED, HUNDRED_AND_ONE, LATCH, OPENS, giving, spots, zeros

@@ -4,14 +4,14 @@ import unittest
 
 from flowyard import errors
 from flowyard.watch import are_ranks, is_live, is_silent_stream, ranks, silent_stream
-from flowyard.yards import Station, Yard, joined
+from flowyard.yards import Yard, joined
 from helper import COPY, HALF, SPLIT, Cases, Dice, no_counts, odd_values
-from slow_rests import Steps, all_texts, endless_streams
+from slow_rests import Steps, endless_streams
 from slow_watch import longest_silent
 from some_held import some_held
 from some_looked import fails_looking
 from some_yards import COPIES, EATING, HOLDS, LATE, ONES, STOPS, TURNING, counting, doubling, only
-from spoiling import few, with_tuples, wrong_kinds
+from spoiling import with_tuples, wrong_kinds
 
 HALVES = Yard([HALF], [])
 ZEROS = Yard([only("0")], [])
