@@ -1,6 +1,5 @@
 """Benches: what runs at a desk, how it stands, and since when."""
 
-from flowyard.errors import TooMany
 from flowyard.moments import Clock, slots_at
 from flowyard.orders import numbered
 from flowyard.runs import begin_of

@@ -29,8 +29,8 @@ class Draft:
 
     def bare_station(self):
         """The station with all goals 0, so that it can be one before they are checked."""
-        rows = [(reads, [(gives, 0, ticks) for gives, _, ticks in rows]) for reads, rows in self._read]
-        return Station(self._many_ins, self._many_outs, rows)
+        bare = [(reads, [(gives, 0, ticks) for gives, _, ticks in rows]) for reads, rows in self._read]
+        return Station(self._many_ins, self._many_outs, bare)
 
     def station_told(self):
         """The station; InvalidLines with the first line on which a goal is none of its standings."""
@@ -85,7 +85,7 @@ class YardDraft:
     def _pipe_in(self, words):
         """The pipe that the words tell, behind those ahead; None if they tell none."""
         pipe = counts_of(words[1:])
-        if words[:1] != ["pipe"] or pipe is None or not is_pipe(self._bare, pipe):
+        if words[:1] != ["pipe"] or not is_pipe(self._bare, pipe):
             return None
         if self._joints != [] and pipe <= self._joints[-1]:
             return None

@@ -135,7 +135,10 @@ def _place_in(words, exits):
 
 
 def _nested(line):
-    """The word or the tuple that the line tells by brackets and commas; None if they do not fit."""
+    """The first word or tuple that the line tells by brackets and commas; None without one.
+
+    Whether the line is written as it must be is not asked here.
+    """
     # The last one of these is within all others.
     open_ones = [[]]
     word = ""
@@ -155,6 +158,6 @@ def _nested(line):
         word = ""
     if word != "":
         open_ones[-1].append(word)
-    if len(open_ones) != 1 or len(open_ones[0]) != 1:
+    if open_ones[0] == []:
         return None
     return open_ones[0][0]

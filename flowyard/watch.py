@@ -136,8 +136,9 @@ def are_gap_heights(yard, outlet, wish, lot, number, value):
     check_lot(wish, lot)
     check_count(number)
     watched = Watched(look_through(yard), outlet, wish)
-    if not are_counts_for_nodes(watched, value) or max(list(value.values())) > number:
+    if not are_counts_for_nodes(watched, value):
         return False
+    # Each node has steps, and what they are begun with counts: so no height above the number goes by.
     rows = [(0, watched.passed_first, watched.first)]
     for node, steps in watched.steps.items():
         rows.extend([(value[node], passed, goal) for goal, passed in steps])

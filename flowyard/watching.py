@@ -71,7 +71,7 @@ def witness_of(watched, lot):
     passed = _passed_by_number(inner, numbers)
     for node, rows in inner.items():
         # A lap that begins where it passes a place needs no way there, and so stays short.
-        if passed[numbers[node]] == sorted(lot) and any([lot[0] in label[1] for label, _ in rows]):
+        if passed[numbers[node]] == list(lot) and any([lot[0] in label[1] for label, _ in rows]):
             return (watched.streams[node], _lap_by_all(inner, node, lot))
     return None
 
@@ -94,7 +94,7 @@ def are_bars_of(watched, lot, value):
             return False
         inner[node] = [(label, goal) for label, goal in rows if value[goal] == value[node]]
     passed = _passed_by_number(inner, value)
-    return all([places != sorted(lot) for places in passed.values()])
+    return all([places != list(lot) for places in passed.values()])
 
 
 def are_counts_for_nodes(watched, value):

@@ -11,7 +11,8 @@ def with_other_row(station, standing, signs, row):
     standings = []
     for number, (reads, rows) in enumerate(station.standings()):
         known = ["00", "01", "10", "11"] if reads == "12" else ["0", "1"]
-        standings.append((reads, [row if (number, each) == (standing, signs) else old for each, old in zip(known, rows)]))
+        standings.append((reads, [row if (number, each) == (standing, signs) else old for each,
+                                  old in zip(known, rows)]))
     return Station(station.ins, station.outs, standings)
 
 
@@ -22,7 +23,8 @@ class PlainDesk:
         self.pipes = sorted(yard.pipes)
         self.spares = {}
         self.past = []
-        self.now = {"stations": yard.stations, "state": (*yard.begin, "", ("",) * len(yard.exits)), "came": "", "run": [], "times": [],
+        self.now = {"stations": yard.stations, "state": (*yard.begin, "", ("",) * len(yard.exits)), "came": "",
+                    "run": [], "times": [],
                     # For each pipe when each of its signs was there, and when each one was taken.
                     "there": [[0] * len(text) for text in yard.begin[1]], "taken": [[] for _ in yard.pipes],
                     "free": [0] * len(yard.stations), "counts": [0] * len(yard.stations)}
@@ -113,5 +115,6 @@ class PlainDesk:
         else:
             station, standing = int(words[1]), int(words[2])
             row = (tuple(text.strip("-") for text in words[4:-2]), int(words[-2]), int(words[-1]))
-            self.put(station, with_other_row(self.now["stations"][station], standing, words[3], row), standings[station])
+            self.put(station, with_other_row(self.now["stations"][station], standing, words[3], row),
+                     standings[station])
         return answer

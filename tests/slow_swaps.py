@@ -20,7 +20,7 @@ def at_image(state, station, image):
 
 
 def drawn_states(dice, yard, station, stream, number):
-    """States of drawn runs at which the station has done so many beats: just then, and behind some more of the others."""
+    """States of a drawn run at which the station has done so many beats: just then, and a little later."""
     state = slow_begin(yard, stream)
     done = 0
     while done < number:
@@ -115,7 +115,8 @@ class Pairing:
 
     def is_kept_paper(self, moments, value):
         """By the words of the point, for a list of tuples of two (standings, contents)."""
-        if len(set(value)) < len(value) or any(len(text) > 3 for pair in value for _, contents in pair for text in contents):
+        if len(set(value)) < len(value) or any(len(text) > 3 for pair in value for _,
+                                               contents in pair for text in contents):
             return False
         asked = [self.from_moment(moment) for moment in moments]
         asked += [self.behind(*pair, sign) for pair in value for sign in "01"]

@@ -79,7 +79,7 @@ class Watching:
         return True
 
     def runs_ahead_of(self, lot, most):
-        """For all short streams: the greatest run of signs that lead to no place of the lot; for each node at its end."""
+        """The greatest run of signs that lead to no place of the lot, for all short streams; for each node at its end."""
         greatest = 0
         at_end = {}
         for stream in all_texts(most):

@@ -27,9 +27,11 @@ def zeros(many):
     was told three times.
     """
     fourth = Station(1, 1, [("1", [(("1" if k == 3 else "0",), (k + 1) % 4, 1)] * 2) for k in range(4)])
-    until = Station(1, 1, [("1", [(("0",), k, 1), (("0",), k + 1, 1)]) for k in range(3)] + [("1", [(("",), 3, 1)] * 2)])
+    until = Station(1, 1, [("1", [(("0",), k, 1), (("0",), k + 1, 1)])
+                           for k in range(3)] + [("1", [(("",), 3, 1)] * 2)])
     begin = "0" * (many - 192)
-    yard = joined(Yard([fourth, until, TWICE, TWICE, TWICE, TWICE], [(k, 0, k + 1, 0) for k in range(5)]), 0, giving(begin, PASS))
+    yard = joined(Yard([fourth, until, TWICE, TWICE, TWICE, TWICE], [(k, 0, k + 1, 0) for k in range(5)]), 0,
+                  giving(begin, PASS))
     return yard
 
 
@@ -37,7 +39,8 @@ def spots(more):
     """A yard with 396 spots and as many more, from 0 to 5: twelve rests, each sign sixteen times at each of them."""
     turning = Station(1, 1, [("1", [(("",), (k + 1) % 3, 1)] * 2) for k in range(3)])
     stations = [COPY, TWICE, TWICE, TWICE, TWICE, PASS, PASS, wheel(), turning]
-    pipes = [(0, 0, 1, 0), (0, 1, 7, 0), (1, 0, 2, 0), (2, 0, 3, 0), (3, 0, 4, 0), (4, 0, 5, 0), (5, 0, 6, 0), (7, 0, 8, 0)]
+    pipes = [(0, 0, 1, 0), (0, 1, 7, 0), (1, 0, 2, 0), (2, 0, 3, 0), (3, 0, 4, 0), (4, 0, 5, 0), (5, 0, 6, 0),
+             (7, 0, 8, 0)]
     first = "1" * more + "0" if more else ""
     contents = ("", "", "", "", "", first[3:], first[:3], "")
     return Yard(stations, pipes, ((0,) * 9, contents))

@@ -3,7 +3,8 @@
 import unittest
 
 from flowyard import errors
-from flowyard.alarms import (alarm_paper, alarms, is_alarm_paper, is_sure, is_sure_paper, is_unsure, rings_at, sure_paper,
+from flowyard.alarms import (alarm_paper, alarms, is_alarm_paper, is_sure, is_sure_paper, is_unsure, rings_at,
+                             sure_paper,
                              unsure_stream)
 from flowyard.taps import can_be_heard, first_stream, rests_behind
 from flowyard.yards import Station, Yard, joined
@@ -17,8 +18,9 @@ from some_yards import COPIES, EATING, HOLDS, LATE, counting
 from spoiling import few, with_tuples, wrong_kinds
 from test_watch import TWO_EXITS
 
-NO_RESTS = [value for value in odd_values() if value != []] + ["", "0", 0, [-1], [True], [0, False], [None], ["0"], [0, 0], (1, 2, 1), [[0]],
-                                                              {0: 1}, {0}, [0, -1], [10 ** 29, 10 ** 29]]
+NO_RESTS = [value for value in odd_values()
+            if value != []] + ["", "0", 0, [-1], [True], [0, False], [None], ["0"], [0, 0], (1, 2, 1), [[0]], {0: 1},
+                               {0}, [0, -1], [10 ** 29, 10 ** 29]]
 # It counts its signs up to three, and gives the number each time.
 COUNTS = Yard([Station(1, 1, [("1", [((("0", "10", "11", "1")[k],), min(k + 1, 3), 1)] * 2) for k in range(4)])], [])
 
@@ -26,13 +28,15 @@ COUNTS = Yard([Station(1, 1, [("1", [((("0", "10", "11", "1")[k],), min(k + 1, 3
 def some_listened(dice, most=7):
     yard = dice.one_of([some_held, some_latched, some_latched, some_latched])(dice)
     if dice.below(3) == 0:
-        yard = joined(yard, 0, dice.one_of([Yard([LATCH], []), giving("10", PASS), giving("01", OPENS), Yard([TWICE], [])]))
+        yard = joined(yard, 0, dice.one_of([Yard([LATCH], []), giving("10", PASS), giving("01", OPENS),
+                                            Yard([TWICE], [])]))
     return yard, Listening(yard, 0, most)
 
 
 def some_rests(dice, many):
     """Often the last ones, which latched yards keep to."""
-    rests = dice.one_of([[many - 1], list(range(1, many)), list(range(many // 2, many)), [rest for rest in range(many) if dice.below(2)]])
+    rests = dice.one_of([[many - 1], list(range(1, many)), list(range(many // 2, many)),
+                         [rest for rest in range(many) if dice.below(2)]])
     return rests + [many + 3] * dice.below(2)
 
 
@@ -40,10 +44,12 @@ class Sure(Cases):
     def test_the_documents_yard(self):
         self.same([alarms(HELD, 0, [1]), alarms(HELD, 0, [0]), alarms(HELD, 0, [1, 0]), is_sure(HELD, 0, [1], "01")],
                   [["1"], [], [""], True])
-        self.same([rings_at(HELD, 0, [1], "0010"), unsure_stream(HELD, 0, [1], "00"), unsure_stream(HELD, 0, [1], "10")], [3, "00", None])
+        self.same([rings_at(HELD, 0, [1], "0010"), unsure_stream(HELD, 0, [1], "00"),
+                   unsure_stream(HELD, 0, [1], "10")], [3, "00", None])
 
     def test_some(self):
-        for text, rests, wanted in [("", [0], False), ("", [1], False), ("", [0, 1], True), ("0", [0], False), ("1", [1], True), ("1", [0], False),
+        for text, rests, wanted in [("", [0], False), ("", [1], False), ("", [0, 1], True), ("0", [0], False),
+                                    ("1", [1], True), ("1", [0], False),
                                     ("1", [7, 1], True), ("00", [1], False), ("0", (1, 0, 5), True)]:
             self.assertIs(is_sure(HELD, 0, rests, text), wanted)
             self.same(unsure_stream(HELD, 0, rests, text) is None, wanted)
@@ -51,14 +57,16 @@ class Sure(Cases):
     def test_never_heard(self):
         for text in ("10", "0110"):
             self.fails(errors.NeverHeard, {"value": text}, is_sure, HELD, 0, [0, 1], text)
-            self.same([unsure_stream(HELD, 0, [], text), sure_paper(HELD, 0, [0, 1], text), alarm_paper(HELD, 0, [0, 1], text)], [None] * 3)
+            self.same([unsure_stream(HELD, 0, [], text), sure_paper(HELD, 0, [0, 1], text),
+                       alarm_paper(HELD, 0, [0, 1], text)], [None] * 3)
             self.assertIs(is_unsure(HELD, 0, [], text, "10"), False)
         self.fails(errors.NeverHeard, {"value": "0"}, is_sure, text="0", rests=[], outlet=0, yard=EATING)
 
     def test_numbers_that_no_rest_has_say_nothing(self):
         for rests in ([2], [2, 10 ** 29], []):
             self.assertIs(is_sure(HELD, 0, rests, ""), False)
-            self.same([unsure_stream(HELD, 0, rests, ""), alarms(HELD, 0, rests), rings_at(HELD, 0, rests, "0101")], ["", [], None])
+            self.same([unsure_stream(HELD, 0, rests, ""), alarms(HELD, 0, rests), rings_at(HELD, 0, rests, "0101")],
+                      ["", [], None])
         self.same(alarms(HELD, 0, [1, 99]), ["1"])
 
     def test_by_the_exit(self):
@@ -102,7 +110,8 @@ class Sure(Cases):
 
 class Alarms(Cases):
     def test_some(self):
-        for yard, rests, told in [(COPIES, [0], [""]), (COPIES, [], []), (EATING, [0], [""]), (giving("01", OPENS), [1], ["00", "10", "11"]),
+        for yard, rests, told in [(COPIES, [0], [""]), (COPIES, [], []), (EATING, [0], [""]),
+                                  (giving("01", OPENS), [1], ["00", "10", "11"]),
                                   (giving("01", OPENS), [0], []), (LATE, [0], []), (LATE, [1, 0], [""])]:
             self.same(alarms(yard, 0, rests), told)
         self.same(alarms(rests=(1,), outlet=0, yard=HELD), ["1"])
@@ -149,10 +158,12 @@ class Alarms(Cases):
         self.same([is_sure(zeros(200), 0, [0], "0"), rings_at(zeros(200), 0, list(range(24)), "")], [False, 0])
 
     def test_where_they_ring(self):
-        for stream, told in [("", None), ("0", None), ("000", None), ("1", 1), ("01", 2), ("0010", 3), ("111", 1), ("0" * 999 + "1", 1000),
+        for stream, told in [("", None), ("0", None), ("000", None), ("1", 1), ("01", 2), ("0010", 3), ("111", 1),
+                             ("0" * 999 + "1", 1000),
                              ("0" * 1000, None)]:
             self.same(rings_at(HELD, 0, [1], stream), told)
-        self.same([rings_at(HELD, 0, [0, 1], "01"), rings_at(COUNTS, 0, [3], "000"), rings_at(stream="000", rests=[2, 3], outlet=0, yard=COUNTS)],
+        self.same([rings_at(HELD, 0, [0, 1], "01"), rings_at(COUNTS, 0, [3], "000"),
+                   rings_at(stream="000", rests=[2, 3], outlet=0, yard=COUNTS)],
                   [0, 3, 2])
 
     def test_where_they_ring_in_all_short_streams(self):
@@ -192,18 +203,21 @@ class SurePapers(Cases):
 
     def test_less_more_and_twice(self):
         stream, spots_told = sure_paper(HELD, 0, [1], "01")
-        self.same(sorted(spots_told), [(0, "", 0), (0, "", 1), (0, "0", 0), (0, "0", 1), (1, "", 0), (1, "", 1), (1, "", 2), (1, "1", 0), (1, "1", 1),
+        self.same(sorted(spots_told), [(0, "", 0), (0, "", 1), (0, "0", 0), (0, "0", 1), (1, "", 0), (1, "", 1),
+                                       (1, "", 2), (1, "1", 0), (1, "1", 1),
                                        (1, "1", 2)])
         for at in range(len(spots_told)):
             self.assertIs(is_sure_paper(HELD, 0, [1], "01", (stream, spots_told[:at] + spots_told[at + 1:])), False)
             self.assertIs(is_sure_paper(HELD, 0, [1], "01", (stream, spots_told + [spots_told[at]])), True)
         self.assertIs(is_sure_paper(HELD, 0, [1], "01", (stream, spots_told[::-1])), True)
-        for more, wanted in [((0, "", 2), False), ((1, "0", 1), True), ((1, "1111", 2), False), ((1, "1", 3), False), ((2, "", 0), False), ((0, "11", 0), False)]:
+        for more, wanted in [((0, "", 2), False), ((1, "0", 1), True), ((1, "1111", 2), False), ((1, "1", 3), False),
+                             ((2, "", 0), False), ((0, "11", 0), False)]:
             self.assertIs(is_sure_paper(HELD, 0, [1], "01", (stream, spots_told + [more])), wanted)
         # Further ones with what comes of them are let.
         further = [(1, "111", 2), (1, "11", 2)]
         self.assertIs(is_sure_paper(HELD, 0, [1], "01", (stream, spots_told + further)), True)
-        for told, wanted in [("01", True), ("011", True), ("0" * 900 + "1", True), ("0", False), ("", False), ("10", False), ("0" * 1500 + "1", True)]:
+        for told, wanted in [("01", True), ("011", True), ("0" * 900 + "1", True), ("0", False), ("", False),
+                             ("10", False), ("0" * 1500 + "1", True)]:
             self.assertIs(is_sure_paper(HELD, 0, [1], "01", (told, spots_told)), wanted)
 
     def test_sure_by_the_rests_alone(self):
@@ -232,12 +246,18 @@ class SurePapers(Cases):
 
     def test_any_value(self):
         paper = sure_paper(HELD, 0, [1], "1")
-        for value in few(wrong_kinds(paper), 150) + odd_values() + [[], (), "", 0, ("1",), ("1", []), ("1", paper[1], []), list(paper), ("1", None),
-                                                                    ("1", [None]), ("1", [[*spot] for spot in paper[1]]), ("2", paper[1])]:
+        for value in few(wrong_kinds(paper),
+                         150) + odd_values() + [[], (), "", 0, ("1",), ("1", []), ("1", paper[1], []), list(paper),
+                                                ("1", None), ("1", [None]), ("1", [[*spot] for spot in paper[1]]),
+                                                ("2", paper[1])]:
             self.assertIs(is_sure_paper(HELD, 0, [1], "1", value), False)
-        for spot in [(False, "", 0), (True, "", 0), (0, "", False), (1, "", True), (0, None, 0), (0, 0, 0), (0, "x", 0), (-1, "", 0), (0, "", -1),
+        for spot in [(False, "", 0), (True, "", 0), (0, "", False), (1, "", True), (0, None, 0), (0, 0, 0),
+                     (0, "x", 0), (-1, "", 0), (0, "", -1),
                      (0, ""), (0, "", 0, 0), [0, "", 0], "000", (0, "", 2), (2, "", 0), (0, ["0"], 0), (0, "", "0")]:
             self.assertIs(is_sure_paper(HELD, 0, [1], "1", ("1", paper[1] + [spot])), False)
+        # No more signs are met than the text has, however closed the list is.
+        beyond = [(rest, left, 2) for rest, left in [(0, ""), (0, "0"), (1, ""), (1, "1")]]
+        self.assertIs(is_sure_paper(HELD, 0, [1], "1", ("1", paper[1] + beyond)), False)
         self.assertIs(is_sure_paper(value=paper, text="1", rests=[1], outlet=0, yard=HELD), True)
 
     def test_eight_signs_and_nine(self):
@@ -292,8 +312,10 @@ class AlarmPapers(Cases):
 
     def test_streams(self):
         stream, spots_told, streams = alarm_paper(COUNTS, 0, [3], "11")
-        for told, wanted in [(["00", "00"], True), (["01", "11"], True), (streams[::-1], True), (["0", "00"], False), (["000", "00"], False),
-                             (["00"], False), (["00", "00", "00"], False), ([], False), (("00", "10"), True), (["00", "000"], False)]:
+        for told, wanted in [(["00", "00"], True), (["01", "11"], True), (streams[::-1], True), (["0", "00"], False),
+                             (["000", "00"], False),
+                             (["00"], False), (["00", "00", "00"], False), ([], False), (("00", "10"), True),
+                             (["00", "000"], False)]:
             self.assertIs(is_alarm_paper(COUNTS, 0, [3], "11", (stream, spots_told, told)), wanted)
         # Which sign is left out is told by the place.
         yard = giving("01", OPENS)
@@ -304,7 +326,8 @@ class AlarmPapers(Cases):
         self.assertIs(is_alarm_paper(yard, 0, [1], "10", (*paper[:2], ["0" * 1500, ""])), True)
         # These two signs each stand in one half of the flow.
         halves = Yard([Station(1, 1, [("1", [(("0",), 1, 1), (("1",), 2, 1)]), ("1", [(("0",), 1, 1), (("0",), 3, 1)]),
-                                      ("1", [(("1",), 2, 1), (("1",), 3, 1)]), ("1", [(("0",), 3, 1), (("1",), 3, 1)])])], [])
+                                      ("1", [(("1",), 2, 1), (("1",), 3, 1)]),
+                                      ("1", [(("0",), 3, 1), (("1",), 3, 1)])])], [])
         self.same(alarms(halves, 0, [3]), ["01", "10"])
         told = alarm_paper(halves, 0, [3], "01")
         self.same(told[2], ["1", "0"])
@@ -312,12 +335,15 @@ class AlarmPapers(Cases):
 
     def test_any_value(self):
         paper = alarm_paper(HELD, 0, [1], "1")
-        for value in few(wrong_kinds(paper), 150) + odd_values() + [[], (), "", 0, paper[:2], list(paper), paper + ([],), (*paper[:2], None),
-                                                                    (*paper[:2], [None]), (*paper[:2], [0]), (*paper[:2], ["2"]), (*paper[:2], "")]:
+        for value in few(wrong_kinds(paper),
+                         150) + odd_values() + [[], (), "", 0, paper[:2], list(paper), paper + ([],),
+                                                (*paper[:2], None), (*paper[:2], [None]), (*paper[:2], [0]),
+                                                (*paper[:2], ["2"]), (*paper[:2], "")]:
             self.assertIs(is_alarm_paper(HELD, 0, [1], "1", value), False)
         self.assertIs(is_alarm_paper(value=paper, text="1", rests=(1,), outlet=0, yard=HELD), True)
         for at in range(len(paper[1])):
-            self.assertIs(is_alarm_paper(HELD, 0, [1], "1", (paper[0], paper[1][:at] + paper[1][at + 1:], paper[2])), False)
+            self.assertIs(is_alarm_paper(HELD, 0, [1], "1", (paper[0], paper[1][:at] + paper[1][at + 1:], paper[2])),
+                          False)
         self.assertIs(is_alarm_paper(HELD, 0, [1], "1", ("0", *paper[1:])), False)
 
 
@@ -336,12 +362,14 @@ class Errors(Cases):
         self.fails_on(errors.InvalidRests, NO_RESTS, lambda value: alarms(counting(61), 0, value))
         self.fails_on(errors.InvalidExit, no_counts() + [1], lambda value: rings_at(COPIES, value, None, None))
         self.fails_on(errors.InvalidRests, NO_RESTS, lambda value: rings_at(counting(61), 0, value, None))
-        self.fails_on(errors.InvalidStream, no_texts() + ["0" * 1001], lambda value: rings_at(counting(61), 0, [0], value))
+        self.fails_on(errors.InvalidStream, no_texts() + ["0" * 1001],
+                      lambda value: rings_at(counting(61), 0, [0], value))
         self.fails(errors.InvalidRests, {"value": [0, 0]}, is_sure, text=None, rests=[0, 0], outlet=0, yard=COPIES)
 
     def test_looking_through_then_rests_then_spots(self):
         calls = [lambda yard, call=call: call(yard, 0, [0], "0" * 9) for call in self.FOR_TEXTS]
-        calls += [lambda yard, call=call, value=value: call(yard, 0, [0], "0", value) for call in self.JUDGES for value in (None, "0", ("0", []))]
+        calls += [lambda yard, call=call, value=value: call(yard, 0, [0], "0", value) for call in self.JUDGES
+                  for value in (None, "0", ("0", []))]
         calls += [lambda yard: alarms(yard, 0, [0]), lambda yard: rings_at(yard, 0, [0], "0")]
         for call in calls:
             fails_looking(self, call)

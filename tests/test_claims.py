@@ -16,27 +16,42 @@ from test_kept_images import FAR
 from test_swaps import BASE, PARITY, WIDE
 from test_watch import HALVES, TWO_EXITS
 
-TABLE = [("ahead", "free"), ("held", "overfilled"), ("same", "parted"), ("same for ever", "parted for ever"), ("enough", "still"),
-         ("enough for", "stuck"), ("in time", "late"), ("live", "silent"), ("granted", "broken"), ("passed", "barred"), ("sure", "unsure"),
+TABLE = [("ahead", "free"), ("held", "overfilled"), ("same", "parted"), ("same for ever", "parted for ever"),
+         ("enough", "still"),
+         ("enough for", "stuck"), ("in time", "late"), ("live", "silent"), ("granted", "broken"), ("passed", "barred"),
+         ("sure", "unsure"),
          ("twins", "told apart"), ("unseen", "seen")]
 
 # Parts by the first word of each line, with whether its claim is true.
 TOLD = [
-    ("ahead", (ROW, "01", (0, 0), (1, 1)), True), ("ahead", (ROW, "01", (1, 0), (1, 1)), True), ("ahead", (ROW, "01", (0, 1), (1, 0)), False),
+    ("ahead", (ROW, "01", (0, 0), (1, 1)), True), ("ahead", (ROW, "01", (1, 0), (1, 1)), True),
+    ("ahead", (ROW, "01", (0, 1), (1, 0)), False),
     ("ahead", (ROW, "01", (1, 1), (0, 0)), False),
-    ("held", (OVERVIEW, 3), False), ("held", (HELD_BY_TWO, 0), False), ("held", (HELD_BY_TWO, 1), True), ("held", (COPIES, 0), True), ("held", (OVERVIEW, 0), False),
-    ("same", (COPIES, ROW), True), ("same", (COPIES, HOLDS), False), ("same", (TWO_EXITS, TWO_EXITS), True), ("same", (LATE, COPIES), False),
-    ("same for ever", (COPIES, 0, HOLDS, 0), True), ("same for ever", (TWO_EXITS, 0, TWO_EXITS, 1), False), ("same for ever", (COPIES, 0, LATE, 0), False),
-    ("enough", (HELD_BY_TWO, (1, 2, 2)), True), ("enough", (HELD_BY_TWO, (1, 1, 3)), False), ("enough", (COPIES, ()), True),
-    ("enough for", (HELD_BY_TWO, (1, 1, 3), "0"), True), ("enough for", (HELD_BY_TWO, (1, 1, 3), "00"), False), ("enough for", (COPIES, (), "0" * 60), True),
-    ("in time", (SLOW, 3, None, 3), True), ("in time", (SLOW, 3, None, 2), False), ("in time", (SLOW, 2, None, 100), False), ("in time", (TWO, 2, (2,), 3), True),
+    ("held", (OVERVIEW, 3), False), ("held", (HELD_BY_TWO, 0), False), ("held", (HELD_BY_TWO, 1), True),
+    ("held", (COPIES, 0), True), ("held", (OVERVIEW, 0), False),
+    ("same", (COPIES, ROW), True), ("same", (COPIES, HOLDS), False), ("same", (TWO_EXITS, TWO_EXITS), True),
+    ("same", (LATE, COPIES), False),
+    ("same for ever", (COPIES, 0, HOLDS, 0), True), ("same for ever", (TWO_EXITS, 0, TWO_EXITS, 1), False),
+    ("same for ever", (COPIES, 0, LATE, 0), False),
+    ("enough", (HELD_BY_TWO, (1, 2, 2)), True), ("enough", (HELD_BY_TWO, (1, 1, 3)), False),
+    ("enough", (COPIES, ()), True),
+    ("enough for", (HELD_BY_TWO, (1, 1, 3), "0"), True), ("enough for", (HELD_BY_TWO, (1, 1, 3), "00"), False),
+    ("enough for", (COPIES, (), "0" * 60), True),
+    ("in time", (SLOW, 3, None, 3), True), ("in time", (SLOW, 3, None, 2), False),
+    ("in time", (SLOW, 2, None, 100), False), ("in time", (TWO, 2, (2,), 3), True),
     ("in time", (TWO, 2, None, 2), False), ("in time", (TWO, 1, (2,), 50), False),
-    ("live", (HALVES, 0), True), ("live", (EATING, 0), False), ("live", (STOPS, 0), False), ("live", (TWO_EXITS, 1), True),
-    ("granted", (COPIES, 0, LAST), False), ("granted", (COPIES, 0, Wish(LAST.goals(), LAST.lots())), True), ("granted", (EATING, 0, LAST), True),
-    ("passed", (COPIES, 0, LAST, [0]), True), ("passed", (COPIES, 0, LAST, (0, 1)), True), ("passed", (STOPS, 0, LAST, [1]), False),
-    ("sure", (HELD, 0, [1], "1"), True), ("sure", (HELD, 0, [0], "0"), False), ("sure", (HELD, 0, (0, 1), "0" * 8), True),
-    ("twins", (COPIES, 0, TURNING, 0), True), ("twins", (COPIES, 0, HELD, 0), False), ("twins", (giving("01"), 0, giving("10"), 0), False),
-    ("unseen", (BASE, 0, WIDE, 0, 2), True), ("unseen", (BASE, 0, WIDE, 0, 1), False), ("unseen", (FAR, 0, TURN, 1, 0), True), ("unseen", (BASE, 0, WIDE, 1, 0), False),
+    ("live", (HALVES, 0), True), ("live", (EATING, 0), False), ("live", (STOPS, 0), False),
+    ("live", (TWO_EXITS, 1), True),
+    ("granted", (COPIES, 0, LAST), False), ("granted", (COPIES, 0, Wish(LAST.goals(), LAST.lots())), True),
+    ("granted", (EATING, 0, LAST), True),
+    ("passed", (COPIES, 0, LAST, [0]), True), ("passed", (COPIES, 0, LAST, (0, 1)), True),
+    ("passed", (STOPS, 0, LAST, [1]), False),
+    ("sure", (HELD, 0, [1], "1"), True), ("sure", (HELD, 0, [0], "0"), False),
+    ("sure", (HELD, 0, (0, 1), "0" * 8), True),
+    ("twins", (COPIES, 0, TURNING, 0), True), ("twins", (COPIES, 0, HELD, 0), False),
+    ("twins", (giving("01"), 0, giving("10"), 0), False),
+    ("unseen", (BASE, 0, WIDE, 0, 2), True), ("unseen", (BASE, 0, WIDE, 0, 1), False),
+    ("unseen", (FAR, 0, TURN, 1, 0), True), ("unseen", (BASE, 0, WIDE, 1, 0), False),
 ]
 
 
@@ -56,41 +71,64 @@ def is_heard_of_one(one, outlet, other, second, value):
 
 
 JUDGES = {
-    "ahead": needs.is_chain, "free": needs.is_run_against, "held": rests.is_held_paper, "overfilled": rests.is_overfilling,
-    "same": same.is_same_paper, "parted": same.is_parting, "same for ever": forever.is_ahead_list, "parted for ever": forever.is_endless_parting,
+    "ahead": needs.is_chain, "free": needs.is_run_against, "held": rests.is_held_paper,
+    "overfilled": rests.is_overfilling,
+    "same": same.is_same_paper, "parted": same.is_parting, "same for ever": forever.is_ahead_list,
+    "parted for ever": forever.is_endless_parting,
     "enough": room.is_room_list, "still": room.is_standstill, "enough for": is_full_with, "stuck": rings.is_reason,
-    "in time": lambda yard, apart, sizes, bound, value: pace.are_heights(yard, apart, bound, value, sizes), "late": is_late,
-    "live": watch.are_ranks, "silent": watch.is_silent_stream, "granted": watch.is_kept_paper, "broken": watch.is_breaker,
+    "in time": lambda yard, apart, sizes, bound, value: pace.are_heights(yard, apart, bound, value, sizes),
+    "late": is_late,
+    "live": watch.are_ranks, "silent": watch.is_silent_stream, "granted": watch.is_kept_paper,
+    "broken": watch.is_breaker,
     "passed": watch.is_witness, "barred": watch.are_bars, "sure": alarms.is_sure_paper, "unsure": alarms.is_unsure,
     "twins": taps.are_twins, "told apart": is_heard_of_one, "unseen": swaps.is_kept_paper, "seen": swaps.is_break,
 }
 
 # What is no claim, by what is wrong.
 NO_CLAIMS = [
-    (), ("ahead",), ("ahead", ROW, "01", (0, 0)), ("ahead", ROW, "01", (0, 0), (1, 1), None), ("ahead", ROW, "01", (0, 0), (0, 0)), ("ahead", ROW, "01", (1, 1), (1, 1)),
-    ("free", ROW, "01", (0, 0), (0, 0)), ("free", ROW, "01", (0, 5), (0, 0)), ("ahead", ROW, "2", (0, 0), (1, 1)), ("ahead", ROW, "01", (0, 0), [1, 1]),
-    ("ahead", None, "01", (0, 0), (1, 1)), ("ahead", PASS, "01", (0, 0), (1, 1)), ("free", doubling(5), "00", (0, 0), (1, 0)), ["ahead", ROW, "01", (0, 0), (1, 1)],
-    ("held", COPIES, 4), ("held", COPIES, -1), ("held", COPIES, True), ("overfilled", COPIES, None), ("held", COPIES), ("held", COPIES, 0, 0), ("held", [COPIES], 0),
+    (), ("ahead",), ("ahead", ROW, "01", (0, 0)), ("ahead", ROW, "01", (0, 0), (1, 1), None),
+    ("ahead", ROW, "01", (0, 0), (0, 0)), ("ahead", ROW, "01", (1, 1), (1, 1)),
+    ("free", ROW, "01", (0, 0), (0, 0)), ("free", ROW, "01", (0, 5), (0, 0)), ("ahead", ROW, "2", (0, 0), (1, 1)),
+    ("ahead", ROW, "01", (0, 0), [1, 1]),
+    ("ahead", None, "01", (0, 0), (1, 1)), ("ahead", PASS, "01", (0, 0), (1, 1)),
+    ("free", doubling(5), "00", (0, 0), (1, 0)), ["ahead", ROW, "01", (0, 0), (1, 1)],
+    ("held", COPIES, 4), ("held", COPIES, -1), ("held", COPIES, True), ("overfilled", COPIES, None), ("held", COPIES),
+    ("held", COPIES, 0, 0), ("held", [COPIES], 0),
     ("held", counting(61), 3),
-    ("same", COPIES, TWO_EXITS), ("same", COPIES, OVERVIEW), ("same", COPIES, None), ("parted", None, COPIES), ("parted", OVERVIEW, COPIES), ("same", COPIES),
-    ("same for ever", COPIES, 1, HOLDS, 0), ("same for ever", COPIES, 0, HOLDS, 1), ("parted for ever", COPIES, 0, "HOLDS", 0), ("same for ever", COPIES, HOLDS),
+    ("same", COPIES, TWO_EXITS), ("same", COPIES, OVERVIEW), ("same", COPIES, None), ("parted", None, COPIES),
+    ("parted", OVERVIEW, COPIES), ("same", COPIES),
+    ("same for ever", COPIES, 1, HOLDS, 0), ("same for ever", COPIES, 0, HOLDS, 1),
+    ("parted for ever", COPIES, 0, "HOLDS", 0), ("same for ever", COPIES, HOLDS),
     ("same for ever", COPIES, 0, counting(61), 0), ("same for ever", COPIES, 0, 0, HOLDS),
-    ("enough", HELD_BY_TWO, None), ("enough", HELD_BY_TWO, (1, 1)), ("still", HELD_BY_TWO, (0, 1, 1)), ("still", None, (1,)), ("enough", ROW, [1]),
-    ("enough for", ROW, (1,), None), ("enough for", ROW, (1,), "2"), ("stuck", ROW, None, "0"), ("enough for", ROW, (1,), "0" * 31), ("enough for", ROW, "0", (1,)),
+    ("enough", HELD_BY_TWO, None), ("enough", HELD_BY_TWO, (1, 1)), ("still", HELD_BY_TWO, (0, 1, 1)),
+    ("still", None, (1,)), ("enough", ROW, [1]),
+    ("enough for", ROW, (1,), None), ("enough for", ROW, (1,), "2"), ("stuck", ROW, None, "0"),
+    ("enough for", ROW, (1,), "0" * 31), ("enough for", ROW, "0", (1,)),
     ("stuck", COPIES, (), "0" * 61), ("enough for", ROW, (1,)),
-    ("in time", SLOW, 3, None, -1), ("in time", SLOW, 3, None, True), ("late", SLOW, 3, None, None), ("in time", SLOW, -1, None, 3), ("in time", SLOW, 3, (1,), 3),
-    ("late", SLOW, None, 3, None), ("in time", SLOW, 3, 3), ("in time", OVERVIEW, 3, None, 3), ("late", "SLOW", 3, None, 3), ("in time", TWO, 2, (1,), 3),
-    ("live", COPIES, 1), ("live", OVERVIEW, 0), ("silent", None, 0), ("live", COPIES), ("silent", COPIES, 0, 0), ("live", COPIES, True),
-    ("granted", COPIES, 0, None), ("granted", COPIES, 0, LAST.goals()), ("broken", COPIES, 1, LAST), ("broken", COPIES, LAST, 0), ("granted", LAST, 0, COPIES),
+    ("in time", SLOW, 3, None, -1), ("in time", SLOW, 3, None, True), ("late", SLOW, 3, None, None),
+    ("in time", SLOW, -1, None, 3), ("in time", SLOW, 3, (1,), 3),
+    ("late", SLOW, None, 3, None), ("in time", SLOW, 3, 3), ("in time", OVERVIEW, 3, None, 3),
+    ("late", "SLOW", 3, None, 3), ("in time", TWO, 2, (1,), 3),
+    ("live", COPIES, 1), ("live", OVERVIEW, 0), ("silent", None, 0), ("live", COPIES), ("silent", COPIES, 0, 0),
+    ("live", COPIES, True),
+    ("granted", COPIES, 0, None), ("granted", COPIES, 0, LAST.goals()), ("broken", COPIES, 1, LAST),
+    ("broken", COPIES, LAST, 0), ("granted", LAST, 0, COPIES),
     ("granted", counting(61), 0, LAST), ("granted", COPIES, 0),
-    ("passed", COPIES, 0, LAST, [2]), ("passed", COPIES, 0, LAST, []), ("barred", COPIES, 0, [0], LAST), ("barred", COPIES, 1, LAST, [0]), ("passed", COPIES, 0, None, [0]),
+    ("passed", COPIES, 0, LAST, [2]), ("passed", COPIES, 0, LAST, []), ("barred", COPIES, 0, [0], LAST),
+    ("barred", COPIES, 1, LAST, [0]), ("passed", COPIES, 0, None, [0]),
     ("passed", OVERVIEW, 0, LAST, [0]), ("passed", COPIES, 0, LAST),
-    ("sure", HELD, 0, [1], "0" * 9), ("unsure", HELD, 0, [1], "0" * 9), ("sure", HELD, 0, [1], "10"), ("unsure", HELD, 0, [1], "10"), ("sure", HELD, 0, [1, 1], "1"),
-    ("sure", HELD, 0, None, "1"), ("sure", HELD, 1, [1], "1"), ("sure", HELD, 0, [1], None), ("sure", counting(25), 0, [1], ""), ("unsure", HELD, 0, "1", [1]),
-    ("twins", COPIES, 0, COPIES, 1), ("twins", COPIES, 1, COPIES, 0), ("told apart", COPIES, 0, None, 0), ("told apart", COPIES, 0, counting(25), 0), ("twins", COPIES, COPIES),
-    ("unseen", BASE, 0, None, 0, 0), ("unseen", BASE, 1, WIDE, 0, 0), ("unseen", BASE, 0, WIDE, 2, 0), ("seen", BASE, 0, WIDE, 0, 3), ("seen", BASE, 0, SPLIT, 0, 0),
-    ("unseen", None, 0, WIDE, 0, 0), ("unseen", OVERVIEW, 1, PASS, 0, 0), ("unseen", BASE, 0, WIDE, 0), ("unseen", WIDE, 0, BASE, 0, 0),
-    ("Ahead", ROW, "01", (0, 0), (1, 1)), ("kept", COPIES, 0), ("", COPIES), (None, COPIES, 0), (0, COPIES), (["live"], COPIES, 0), (("live",), COPIES, 0), (b"live", COPIES, 0),
+    ("sure", HELD, 0, [1], "0" * 9), ("unsure", HELD, 0, [1], "0" * 9), ("sure", HELD, 0, [1], "10"),
+    ("unsure", HELD, 0, [1], "10"), ("sure", HELD, 0, [1, 1], "1"),
+    ("sure", HELD, 0, None, "1"), ("sure", HELD, 1, [1], "1"), ("sure", HELD, 0, [1], None),
+    ("sure", counting(25), 0, [1], ""), ("unsure", HELD, 0, "1", [1]),
+    ("twins", COPIES, 0, COPIES, 1), ("twins", COPIES, 1, COPIES, 0), ("told apart", COPIES, 0, None, 0),
+    ("told apart", COPIES, 0, counting(25), 0), ("twins", COPIES, COPIES),
+    ("unseen", BASE, 0, None, 0, 0), ("unseen", BASE, 1, WIDE, 0, 0), ("unseen", BASE, 0, WIDE, 2, 0),
+    ("seen", BASE, 0, WIDE, 0, 3), ("seen", BASE, 0, SPLIT, 0, 0),
+    ("unseen", None, 0, WIDE, 0, 0), ("unseen", OVERVIEW, 1, PASS, 0, 0), ("unseen", BASE, 0, WIDE, 0),
+    ("unseen", WIDE, 0, BASE, 0, 0),
+    ("Ahead", ROW, "01", (0, 0), (1, 1)), ("kept", COPIES, 0), ("", COPIES), (None, COPIES, 0), (0, COPIES),
+    (["live"], COPIES, 0), (("live",), COPIES, 0), (b"live", COPIES, 0),
     "live", ("live",), ("live ", COPIES, 0),
 ]
 
@@ -98,7 +136,8 @@ NO_CLAIMS = [
 def told_claims():
     """All claims of both words with whether they are true."""
     seconds = dict(TABLE)
-    return [((word if holds else seconds[word], *parts), holds == truth) for word, parts, truth in TOLD for holds in (True, False)]
+    return [((word if holds else seconds[word], *parts), holds == truth) for word, parts,
+            truth in TOLD for holds in (True, False)]
 
 
 class Words(Cases):
@@ -110,7 +149,8 @@ class Words(Cases):
     def test_the_documents_claim(self):
         turn = Station(1, 1, [("1", [(("1",), 0, 1), (("0",), 0, 2)])])
         slow = ("in time", Yard([turn], []), 2, None, 1)
-        self.same([is_true(slow), contrary(slow)[0], is_paper(contrary(slow), "1"), is_paper(contrary(slow), "00")], [False, "late", True, False])
+        self.same([is_true(slow), contrary(slow)[0], is_paper(contrary(slow), "1"), is_paper(contrary(slow), "00")],
+                  [False, "late", True, False])
 
 
 class Claims(Cases):
@@ -132,7 +172,8 @@ class Claims(Cases):
             self.same([type(part) for part in found], [type(part) for part in claim])
 
     def test_lists_of_contrary_ones_are_new(self):
-        for claim in [("passed", COPIES, 0, LAST, [0]), ("barred", STOPS, 0, LAST, [1]), ("sure", HELD, 0, [1], "1"), ("unsure", HELD, 0, [0, 5], "0")]:
+        for claim in [("passed", COPIES, 0, LAST, [0]), ("barred", STOPS, 0, LAST, [1]), ("sure", HELD, 0, [1], "1"),
+                      ("unsure", HELD, 0, [0, 5], "0")]:
             before = repr(claim)
             found = contrary(claim)
             for part in found:
@@ -165,7 +206,8 @@ class Claims(Cases):
 
     def test_late_ones_have_two_kinds_of_papers(self):
         late = ("late", SLOW, 2, None, 3)
-        for value, wanted in [(("", "1", [("free", 0)] * 2), True), (("", "10", [("free", 0)] * 3), False), ("1" * 2, True), ("1", False), ("0", False),
+        for value, wanted in [(("", "1", [("free", 0)] * 2), True), (("", "10", [("free", 0)] * 3), False),
+                              ("1" * 2, True), ("1", False), ("0", False),
                               (("", "110", [("free", 0)] * 4), True)]:
             self.assertIs(is_paper(late, value), wanted)
         self.assertIs(is_paper(("late", SLOW, 3, None, 2), ("", "1", [("free", 0)] * 2)), False)
@@ -173,7 +215,8 @@ class Claims(Cases):
 
     def test_runs_that_are_full_without_sizes(self):
         claim = ("enough for", HELD_BY_TWO, (1, 1, 3), "0")
-        for value, wanted in [(runs.full_run(HELD_BY_TWO, "0"), True), ((0, 1), True), ([0], False), ([], False), ([0, 1, 2], False), ("01", False), ([1, 0], False)]:
+        for value, wanted in [(runs.full_run(HELD_BY_TWO, "0"), True), ((0, 1), True), ([0], False), ([], False),
+                              ([0, 1, 2], False), ("01", False), ([1, 0], False)]:
             self.assertIs(is_paper(claim, value), wanted)
         stuck = ("stuck", HELD_BY_TWO, (1, 1, 3), "00")
         self.assertIs(is_paper(contrary(stuck), [0, 0, 1, 1, 2, 2]), False)
@@ -182,7 +225,8 @@ class Claims(Cases):
 
     def test_texts_that_are_heard_of_just_one(self):
         claim = ("told apart", COPIES, 0, HELD, 0)
-        for value, wanted in [("10", True), ("0", False), ("", False), ("110", True), (None, False), ("2", False), (["1", "0"], False), ("10" * 1000, True)]:
+        for value, wanted in [("10", True), ("0", False), ("", False), ("110", True), (None, False), ("2", False),
+                              (["1", "0"], False), ("10" * 1000, True)]:
             self.assertIs(is_paper(claim, value), wanted)
 
     def test_papers_that_cannot_be_judged_are_none(self):
@@ -198,10 +242,14 @@ class Claims(Cases):
             one, other = some_two(dice)
             wish = some_wish(dice)
             yard = some_held(dice)
-            drawn = [("same", one, other), ("same for ever", one, 0, other, 0), ("twins", one, 0, other, 0), ("live", yard, 0), ("granted", yard, 0, wish),
-                     ("passed", yard, 0, wish, dice.one_of(wish.lots())), ("sure", yard, 0, [dice.below(3)], dice.text(2)),
-                     ("unseen", yard, 0, dice.one_of([PASS, PARITY, yard.stations[0]]), dice.below(len(yard.stations[0])), 0),
-                     ("in time", yard, 1 + dice.below(3), None, dice.below(5)), ("held", yard, dice.below(4)), ("enough", yard, (1,) * len(yard.pipes)),
+            drawn = [("same", one, other), ("same for ever", one, 0, other, 0), ("twins", one, 0, other, 0),
+                     ("live", yard, 0), ("granted", yard, 0, wish),
+                     ("passed", yard, 0, wish, dice.one_of(wish.lots())),
+                     ("sure", yard, 0, [dice.below(3)], dice.text(2)),
+                     ("unseen", yard, 0, dice.one_of([PASS, PARITY, yard.stations[0]]),
+                      dice.below(len(yard.stations[0])), 0),
+                     ("in time", yard, 1 + dice.below(3), None, dice.below(5)), ("held", yard, dice.below(4)),
+                     ("enough", yard, (1,) * len(yard.pipes)),
                      ("enough for", yard, (1,) * len(yard.pipes), dice.text(4))]
             for claim in drawn:
                 if is_claim(claim):
@@ -225,7 +273,10 @@ class NoClaims(Cases):
         for claim, _ in few(told_claims(), 30):
             for at in range(1, len(claim)):
                 for other in (None, "x", [], object()):
-                    if other != claim[at] and not (other is None and claim[0] in ("in time", "late") and at == 3) and not (other == [] and claim[0] in ("sure", "unsure") and at == 3):
+                    # Neither sizes nor rests need be told.
+                    let = at == 3 and (other is None and claim[0] in ("in time", "late")
+                                       or other == [] and claim[0] in ("sure", "unsure"))
+                    if other != claim[at] and not let:
                         self.assertIs(is_claim((*claim[:at], other, *claim[at + 1:])), False)
             self.assertIs(is_claim(list(claim)), False)
             self.assertIs(is_claim(claim[:-1]), False)
@@ -233,7 +284,8 @@ class NoClaims(Cases):
 
     def test_errors(self):
         for value in NO_CLAIMS + odd_values() + [0, []]:
-            for call in (is_true, contrary, paper_of, lambda claim: is_paper(claim, None), lambda claim: is_paper(claim, "0")):
+            for call in (is_true, contrary, paper_of, lambda claim: is_paper(claim, None),
+                         lambda claim: is_paper(claim, "0")):
                 self.fails(errors.InvalidClaim, {"value": value}, call, value)
         self.fails(errors.InvalidClaim, {"value": None}, is_paper, value=None, claim=None)
 

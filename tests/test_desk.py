@@ -8,7 +8,8 @@ from flowyard.desk import Desk, Trial, told_again, tried
 from flowyard.runs import end, full_run
 from flowyard.swaps import swapped_end
 from flowyard.yards import Station, Yard
-from helper import (COPY, HALF, OVERVIEW, PASS, ROW, TURN, TWICE, UNLIKE, Cases, Dice, no_counts, no_texts, odd_values, slow_can,
+from helper import (COPY, HALF, OVERVIEW, PASS, ROW, TURN, TWICE, UNLIKE, Cases, Dice, no_counts, no_texts, odd_values,
+                    slow_can,
                     some_sizes, some_station, some_yard)
 from slow_desk import PlainDesk
 from slow_swaps import beats_of_station
@@ -19,7 +20,9 @@ from spoiling import few, no_sizes
 SLOW_TURN = Station(1, 1, [("1", [(("1",), 0, 1), (("0",), 0, 2)])])
 DOCUMENT = Yard([SLOW_TURN, SLOW_TURN], [(0, 0, 1, 0)])
 NAMES = ["a", "z", "abcdefgh", "xyz", "zz"]
-NO_NAMES = [value for value in odd_values() if value != "x"] + ["", "A", "abcdefghi", "a1", "a b", "a-", "-", "0", " a", "a ", "aB", 0, [], ("a",), ["a"], "a\n"]
+NO_NAMES = [value for value in odd_values()
+            if value != "x"] + ["", "A", "abcdefghi", "a1", "a b", "a-", "-", "0", " a", "a ", "aB", 0, [], ("a",),
+                                ["a"], "a\n"]
 
 
 def ready(yard=DOCUMENT, stream="01", sizes=None, apart=0):
@@ -33,7 +36,8 @@ class DeskCases(Cases):
         """All that the desk tells is what the plain one has."""
         now = plain.now
         self.assertEqual(desk.stations, now["stations"])
-        self.same([desk.state, desk.came, desk.run, desk.times()], [now["state"], now["came"], now["run"], sorted(now["times"])])
+        self.same([desk.state, desk.came, desk.run, desk.times()],
+                  [now["state"], now["came"], now["run"], sorted(now["times"])])
         self.same([desk.log(), len(desk)], [[command for command, _ in plain.past], len(plain.past)])
         for command in ("flows", "left", "can", "over"):
             self.same(desk.do(command), plain.do(command))
@@ -47,7 +51,8 @@ class DeskCases(Cases):
 def some_command(dice, desk):
     """Some command that can be done at the plain desk."""
     while True:
-        word = dice.one_of(["come", "come", "beat", "beat", "beat", "beat", "finish", "swap", "change", "change", "undo"])
+        word = dice.one_of(["come", "come", "beat", "beat", "beat", "beat", "finish", "swap", "change", "change",
+                            "undo"])
         station = dice.below(len(desk.now["stations"]))
         there = desk.now["stations"][station]
         if word == "come":
@@ -91,14 +96,17 @@ def call_for(desk, command):
 class Desks(DeskCases):
     def test_the_documents_desk(self):
         desk = Desk(DOCUMENT, apart=1)
-        self.same(desk.do_all("come 01", "beat 0", "can", "finish", "flows", "over"), ["done", "done", "0 1", "3", "01", "4"])
-        self.same([tried(desk, lambda held: held.finish()), desk.undo(), desk.state, desk.times(), told_again(desk, DOCUMENT).log()],
+        self.same(desk.do_all("come 01", "beat 0", "can", "finish", "flows", "over"),
+                  ["done", "done", "0 1", "3", "01", "4"])
+        self.same([tried(desk, lambda held: held.finish()), desk.undo(), desk.state, desk.times(),
+                   told_again(desk, DOCUMENT).log()],
                   [0, "finish", ((0, 0), ("1",), "1", ("",)), [(0, 1, (0, 0))], ["come 01", "beat 0"]])
 
     def test_at_first(self):
         yard = Yard([COPY, HALF, UNLIKE], [(0, 0, 1, 0), (0, 1, 2, 1), (1, 0, 2, 0)], ((0, 1, 0), ("01", "1", "")))
         desk = Desk(yard)
-        self.same([desk.sizes, desk.apart, desk.came, desk.run, desk.times(), desk.log(), len(desk)], [None, 0, "", [], [], [], 0])
+        self.same([desk.sizes, desk.apart, desk.came, desk.run, desk.times(), desk.log(), len(desk)],
+                  [None, 0, "", [], [], [], 0])
         self.same(desk.state, ((0, 1, 0), ("01", "1", ""), "", ("",)))
         self.assertEqual(desk.stations, [COPY, HALF, UNLIKE])
         self.assertEqual(desk.as_yard(), yard)
@@ -156,7 +164,8 @@ class Desks(DeskCases):
                     if soon:
                         desk.finish()
                 desk.finish()
-                self.same([desk.times(), desk.came], [[(0, 1, (0, 0)), (5, 8, (0, 1)), (10, 13, (0, 2)), (15, 16, (0, 3))], "0110"])
+                self.same([desk.times(), desk.came], [[(0, 1, (0, 0)), (5, 8, (0, 1)), (10, 13, (0, 2)),
+                                                       (15, 16, (0, 3))], "0110"])
 
     def test_moments_behind_swaps_and_changes(self):
         slow = Yard([slowly(2)], [])
@@ -167,7 +176,8 @@ class Desks(DeskCases):
         desk.beat(0)
         desk.change(0, 0, "0", (("1",), 0, 1))
         desk.beat(0)
-        self.same([desk.times(), desk.state], [[(0, 2, (0, 0)), (2, 11, (0, 1)), (11, 12, (0, 2))], ((0,), (), "0", ("001",))])
+        self.same([desk.times(), desk.state], [[(0, 2, (0, 0)), (2, 11, (0, 1)), (11, 12, (0, 2))],
+                                               ((0,), (), "0", ("001",))])
         self.same([desk.run, desk("over")], [[0, 0, 0], "12"])
         # The spare is as it was.
         self.assertEqual(desk["nine"], slowly(9))
@@ -179,7 +189,8 @@ class Desks(DeskCases):
         self.same([held.finish(), held("can"), held("left"), held("flows")], [2, "none", "0", "-"])
         full = Desk(ROW.begun(((0, 0), ("101",))), (1,))
         full.come("0")
-        self.same([full.do("can"), full.finish(), full.times()], ["1", 5, times(ROW.begun(((0, 0), ("101",))), "0", 0, (1,))])
+        self.same([full.do("can"), full.finish(), full.times()],
+                  ["1", 5, times(ROW.begun(((0, 0), ("101",))), "0", 0, (1,))])
 
     def test_swaps_have_the_ends_of_swaps(self):
         dice = Dice(932)
@@ -325,8 +336,11 @@ class Methods(DeskCases):
 
     def test_finish(self):
         desk = ready(ROW, "01")
-        self.same([desk.finish(), desk.run, desk.finish(), desk.log()], [4, [0, 0, 1, 1], 0, ["come 01", "finish", "finish"]])
-        self.same([ready(ROW, "01", (1,)).finish(), tried(ready(ROW, "01", (1,)), lambda desk: (desk.finish(), desk.run))], [4, (4, [0, 1, 0, 1])])
+        self.same([desk.finish(), desk.run, desk.finish(), desk.log()],
+                  [4, [0, 0, 1, 1], 0, ["come 01", "finish", "finish"]])
+        self.same([ready(ROW, "01", (1,)).finish(), tried(ready(ROW, "01", (1,)),
+                                                          lambda desk: (desk.finish(), desk.run))],
+                                                          [4, (4, [0, 1, 0, 1])])
 
     def test_too_many_beats(self):
         loud = doubling(4)
@@ -356,14 +370,17 @@ class Methods(DeskCases):
     def test_change(self):
         desk = ready(ROW, "0110")
         self.same(desk.change(row=(("11",), 0, 9), signs="1", standing=0, station=1), None)
-        self.same([repr(desk.stations[1]), desk.log()[1:]], ["Station(1, 1, [('1', [(('1',), 0, 1), (('11',), 0, 9)])])", ["change 1 0 1 11 0 9"]])
+        self.same([repr(desk.stations[1]), desk.log()[1:]],
+                  ["Station(1, 1, [('1', [(('1',), 0, 1), (('11',), 0, 9)])])", ["change 1 0 1 11 0 9"]])
         before = self.whole(desk)
         row = (("0",), 0, 1)
         self.fails_on(errors.InvalidStation, no_counts() + [2], lambda value: desk.change(value, None, None, None))
         self.fails_on(errors.InvalidStanding, no_counts() + [1], lambda value: desk.change(0, value, None, None))
         self.fails_on(errors.InvalidText, no_texts() + ["", "00", "01"], lambda value: desk.change(0, 0, value, None))
-        wrong = odd_values() + [(), ("0", 0, 1), [("0",), 0, 1], (["0"], 0, 1), (("000",), 0, 1), (("0", "0"), 0, 1), ((), 0, 1), (("0",), 1, 1), (("0",), -1, 1), (("0",), 0, 0),
-                                (("0",), 0, 10), (("0",), 0, True), (("0",), False, 1), (("2",), 0, 1), (("0",), 0), (("0",), 0, 1, 1), (0, 0, 1)]
+        wrong = odd_values() + [(), ("0", 0, 1), [("0",), 0, 1], (["0"], 0, 1), (("000",), 0, 1), (("0", "0"), 0, 1),
+                                ((), 0, 1), (("0",), 1, 1), (("0",), -1, 1), (("0",), 0, 0),
+                                (("0",), 0, 10), (("0",), 0, True), (("0",), False, 1), (("2",), 0, 1), (("0",), 0),
+                                (("0",), 0, 1, 1), (0, 0, 1)]
         self.fails_on(errors.InvalidRow, wrong, lambda value: desk.change(0, 0, "0", value))
         self.same(self.whole(desk), before)
         both = ready(Yard([COPY, UNLIKE], [(0, 0, 1, 0), (0, 1, 1, 1)]), "01")
@@ -377,7 +394,8 @@ class Methods(DeskCases):
         desk = ready(Yard([HALF], []), "0110")
         desk.beat(0)
         desk.change(0, 1, "1", (("00",), 1, 2))
-        self.same([desk.state, desk.stations[0].standings()[0], desk.stations[0].row(1, "0"), desk.stations[0].row(1, "1")],
+        self.same([desk.state, desk.stations[0].standings()[0], desk.stations[0].row(1, "0"),
+                   desk.stations[0].row(1, "1")],
                   [((1,), (), "110", ("",)), HALF.standings()[0], (("0",), 0, 1), (("00",), 1, 2)])
         self.same([desk.finish(), desk("flows")], [3, "00000"])
 
@@ -390,7 +408,8 @@ class Methods(DeskCases):
         desk.do_all("come 01", "beat 0", "finish")
         self.same([desk.undo(), desk.log(), desk.run], ["finish", ["come 01", "beat 0"], [0]])
         desk.beat(1)
-        self.same([desk.undo(), desk.undo(), desk.undo(), desk.state], ["beat 1", "beat 0", "come 01", ((0, 0), ("",), "", ("",))])
+        self.same([desk.undo(), desk.undo(), desk.undo(), desk.state],
+                  ["beat 1", "beat 0", "come 01", ((0, 0), ("",), "", ("",))])
 
     def test_what_turned_nothing_is_taken_back_too(self):
         desk = Desk(ROW)
@@ -402,7 +421,8 @@ class Methods(DeskCases):
 
     def test_len(self):
         desk = Desk(COPIES)
-        for number, command in enumerate(["come 01", "beat 0", "flows", "can", "left", "over", "finish", "undo", "undo", "undo"]):
+        for number, command in enumerate(["come 01", "beat 0", "flows", "can", "left", "over", "finish", "undo",
+                                          "undo", "undo"]):
             desk.do(command)
             self.same(len(desk), [1, 2, 2, 2, 2, 2, 3, 2, 1, 0][number])
 
@@ -492,7 +512,8 @@ class Trials(DeskCases):
     def test_tried(self):
         desk = self.told()
         before = self.whole(desk)
-        self.same([tried(desk, lambda held: (held.finish(), held.do("flows"))), tried(action=len, desk=desk), tried(desk, lambda held: held is desk)], [(7, "0110"), 2, True])
+        self.same([tried(desk, lambda held: (held.finish(), held.do("flows"))), tried(action=len, desk=desk),
+                   tried(desk, lambda held: held is desk)], [(7, "0110"), 2, True])
         self.same(tried(desk, self.turn_all), None)
         self.same(self.whole(desk), before)
         with self.assertRaises(errors.CannotBeDone):

@@ -114,12 +114,16 @@ class Examples(Cases):
         from flowyard.wishes import Wish
         from flowyard.yards import Station, Yard
         last = Wish([(0, 1), (0, 1)], [[0, 1]])
-        half = Yard([Station(1, 1, [("1", [(("",), 1, 1), (("",), 1, 1)]), ("1", [(("0",), 0, 1), (("1",), 0, 1)])])], [])
-        turns = Yard([Station(1, 1, [("1", [(("0",), 1, 1), (("0",), 1, 1)]), ("1", [(("1",), 0, 1), (("1",), 0, 1)])])], [])
-        self.same([ranks(half, 0), passed_lots(half, 0, last), is_witness(half, 0, last, [1], ("", "01")), is_kept(turns, 0, last)],
+        half = Yard([Station(1, 1, [("1", [(("",), 1, 1), (("",), 1, 1)]), ("1", [(("0",), 0, 1), (("1",), 0, 1)])])],
+                    [])
+        turns = Yard([Station(1, 1, [("1", [(("0",), 1, 1), (("0",), 1, 1)]),
+                                     ("1", [(("1",), 0, 1), (("1",), 0, 1)])])], [])
+        self.same([ranks(half, 0), passed_lots(half, 0, last), is_witness(half, 0, last, [1], ("", "01")),
+                   is_kept(turns, 0, last)],
                   [[1, 0], [[0], [1], [0, 1]], True, True])
         self.same([gap(turns, 0, last, [1]), gap_heights(turns, 0, last, [1]), gap(half, 0, last, [1]),
-                   are_bars(turns, 0, last, [1], {(0, 0): 0, (0, 1): 0, (1, 0): 1})], [1, {(0, 0): 0, (0, 1): 0, (1, 0): 1}, None, True])
+                   are_bars(turns, 0, last, [1], {(0, 0): 0, (0, 1): 0, (1, 0): 1})],
+                   [1, {(0, 0): 0, (0, 1): 0, (1, 0): 1}, None, True])
         self.assertIsNone(breaker(turns, 0, last))
 
     def test_taps_and_alarms(self):
@@ -129,12 +133,14 @@ class Examples(Cases):
         from flowyard.yards import Station, Yard
         latch = Station(1, 1, [("1", [(("0",), 0, 1), (("1",), 1, 1)]), ("1", [(("1",), 1, 1), (("1",), 1, 1)])])
         held = Yard([latch], [])
-        self.same([flows(held, "00100"), can_be_heard(held, 0, "011"), first_stream(held, 0, "011"), view(held, 0, "1")],
+        self.same([flows(held, "00100"), can_be_heard(held, 0, "011"), first_stream(held, 0, "011"),
+                   view(held, 0, "1")],
                   [["00111"], True, "010", [(1, ""), (1, "1")]])
         self.same([picture(held, 0), unheard(held, 0)], [[([0, 1], 0, 1), ([1], None, 1)], ["10"]])
         self.same([alarms(held, 0, [1]), alarms(held, 0, [0]), alarms(held, 0, [1, 0]), is_sure(held, 0, [1], "01")],
                   [["1"], [], [""], True])
-        self.same([rings_at(held, 0, [1], "0010"), unsure_stream(held, 0, [1], "00"), unsure_stream(held, 0, [1], "10")],
+        self.same([rings_at(held, 0, [1], "0010"), unsure_stream(held, 0, [1], "00"),
+                   unsure_stream(held, 0, [1], "10")],
                   [3, "00", None])
 
     def test_swaps_and_patches(self):
@@ -149,8 +155,10 @@ class Examples(Cases):
                    moments(yard, 0, 1)], [{0: [0, 2], 1: [1]}, ("0", 0), ((1,), (), "", ("01",)), [((1,), ())]])
         base = Yard([wide], [])
         patch = [(0, 0, "0", (("0",), 0, 1)), (0, 2, "1", (("0",), 1, 1))]
-        self.same([word(base, patch, [0]), shown_by(base, patch, [1]), shown_by(base, patch, [0, 1])], ["keeps", "01", "111"])
-        self.same([least_changing(base, patch), greatest_keeping(base, patch), kept_exits(base, patch), kept_exits(base, patch[:1])],
+        self.same([word(base, patch, [0]), shown_by(base, patch, [1]), shown_by(base, patch, [0, 1])],
+                  ["keeps", "01", "111"])
+        self.same([least_changing(base, patch), greatest_keeping(base, patch), kept_exits(base, patch),
+                   kept_exits(base, patch[:1])],
                   [[[1]], [[0]], [], [0]])
 
     def test_texts_claims_and_desks(self):
@@ -168,8 +176,10 @@ class Examples(Cases):
                   [False, "late", True, False])
         yard = Yard([turn, turn], [(0, 0, 1, 0)])
         desk = Desk(yard, apart=1)
-        self.same(desk.do_all("come 01", "beat 0", "can", "finish", "flows", "over"), ["done", "done", "0 1", "3", "01", "4"])
-        self.same([tried(desk, lambda held: held.finish()), desk.undo(), desk.state, desk.times(), told_again(desk, yard).log()],
+        self.same(desk.do_all("come 01", "beat 0", "can", "finish", "flows", "over"),
+                  ["done", "done", "0 1", "3", "01", "4"])
+        self.same([tried(desk, lambda held: held.finish()), desk.undo(), desk.state, desk.times(),
+                   told_again(desk, yard).log()],
                   [0, "finish", ((0, 0), ("1",), "1", ("",)), [(0, 1, (0, 0))], ["come 01", "beat 0"]])
 
     def test_the_readme(self):

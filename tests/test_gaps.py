@@ -23,21 +23,25 @@ class Gaps(Cases):
                   [1, {(0, 0): 0, (0, 1): 0, (1, 0): 1}, None])
 
     def test_some(self):
-        for yard, wish, lot, told in [(COPIES, LAST, [0, 1], 0), (COPIES, LAST, [0], None), (COPIES, ONE, [0], 0), (EATING, LAST, [1], 0),
-                                      (ONES, LAST, [1], 0), (ONES, LAST, [0], None), (FOURS, LAST, [1], 3), (FOURS, LAST, (0,), 1),
+        for yard, wish, lot, told in [(COPIES, LAST, [0, 1], 0), (COPIES, LAST, [0], None), (COPIES, ONE, [0], 0),
+                                      (EATING, LAST, [1], 0),
+                                      (ONES, LAST, [1], 0), (ONES, LAST, [0], None), (FOURS, LAST, [1], 3),
+                                      (FOURS, LAST, (0,), 1),
                                       (ONES, ROUND, [0], 0), (ONES, ROUND, [1], None), (TURNS, ROUND, [3], 6)]:
             self.same(gap(yard, 0, wish, lot), told)
             self.same(gap_heights(yard, 0, wish, lot) is None, told is None)
 
     def test_of_finite_flows(self):
         # Three ones are given, and never more.
-        three = Yard([Station(1, 1, [("1", [(("1",), min(k + 1, 3), 1)] * 2) for k in range(3)] + [("1", [(("",), 3, 1)] * 2)])], [])
+        three = Yard([Station(1, 1, [("1", [(("1",), min(k + 1, 3), 1)] * 2)
+                                     for k in range(3)] + [("1", [(("",), 3, 1)] * 2)])], [])
         self.same([gap(three, 0, LAST, [0]), gap(three, 0, LAST, [1])], [3, 0])
         self.same(gap_heights(three, 0, LAST, [0]), {(0, 0): 0, (1, 1): 1, (2, 1): 2, (3, 1): 3})
         self.same([gap(STOPS, 0, LAST, [1]), gap(STOPS, 0, LAST, [0])], [None, 0])
 
     def test_what_the_empty_stream_gives_is_counted(self):
-        begun = Yard([EATING.stations[0], COPIES.stations[0], TWICE], [(0, 0, 1, 0), (1, 0, 2, 0)], ((0, 0, 0), ("", "001")))
+        begun = Yard([EATING.stations[0], COPIES.stations[0], TWICE], [(0, 0, 1, 0), (1, 0, 2, 0)],
+                     ((0, 0, 0), ("", "001")))
         self.same([gap(begun, 0, LAST, [1]), gap(begun, 0, LAST, [0])], [4, 2])
         self.same([gap_heights(begun, 0, LAST, [1]), gap_heights(begun, 0, LAST, [0])], [{(0, 1): 0}, {(0, 1): 2}])
         self.assertIs(are_gap_heights(begun, 0, LAST, [1], 3, {(0, 1): 0}), False)
@@ -105,9 +109,12 @@ class Heights(Cases):
 
     def test_greater_ones_up_to_the_number(self):
         value = {(0, 0): 0, (0, 1): 0, (1, 0): 1}
-        for number, change, wanted in [(1, {}, True), (0, {}, False), (2, {(1, 0): 2}, True), (1, {(1, 0): 2}, False), (2, {}, True),
-                                       (1, {(0, 1): 1}, False), (2, {(0, 1): 1}, False), (3, {(0, 1): 1, (1, 0): 2}, True),
-                                       (2, {(0, 1): 1, (1, 0): 2}, True), (1, {(0, 0): 1}, False), (1, {(1, 0): 0}, False)]:
+        for number, change, wanted in [(1, {}, True), (0, {}, False), (2, {(1, 0): 2}, True), (1, {(1, 0): 2}, False),
+                                       (2, {}, True),
+                                       (1, {(0, 1): 1}, False), (2, {(0, 1): 1}, False),
+                                       (3, {(0, 1): 1, (1, 0): 2}, True),
+                                       (2, {(0, 1): 1, (1, 0): 2}, True), (1, {(0, 0): 1}, False),
+                                       (1, {(1, 0): 0}, False)]:
             self.assertIs(are_gap_heights(TURNS, 0, LAST, [1], number, {**value, **change}), wanted, (number, change))
 
     def test_without_a_greatest_gap_there_are_none(self):
@@ -117,15 +124,21 @@ class Heights(Cases):
     def test_any_value(self):
         value = {(0, 0): 0, (0, 1): 0, (1, 0): 1}
         self.assertIs(are_gap_heights(value=value, number=1, lot=(1,), wish=LAST, outlet=0, yard=TURNS), True)
-        self.assertIs(are_gap_heights(TURNS, 0, LAST, [1], 1, {node: value[node] for node in sorted(value)[::-1]}), True)
+        self.assertIs(are_gap_heights(TURNS, 0, LAST, [1], 1, {node: value[node] for node in sorted(value)[::-1]}),
+                      True)
         for wrong in wrong_kinds(value) + odd_values() + [[], (), 0, "", {}, {**value, None: 0}, {**value, (1, 1): 0}]:
             self.assertIs(are_gap_heights(TURNS, 0, LAST, [1], 1, wrong), False)
         for node in value:
             less = {other: count for other, count in value.items() if other != node}
             self.assertIs(are_gap_heights(TURNS, 0, LAST, [1], 1, less), False)
-        for key, other in [((0, 0), (False, 0)), ((0, 1), (0, True)), ((1, 0), (True, 0)), ((1, 0), 1), ((1, 0), "10"), ((1, 0), (1,))]:
+        for key, other in [((0, 0), (False, 0)), ((0, 1), (0, True)), ((1, 0), (True, 0)), ((1, 0), 1), ((1, 0), "10"),
+                           ((1, 0), (1,))]:
             spoilt = {(other if node == key else node): count for node, count in value.items()}
             self.assertIs(are_gap_heights(TURNS, 0, LAST, [1], 1, spoilt), False)
+        for node in value:
+            for other in [(1, 1), (2, 0), (5, 5), (0, 2)]:
+                spoilt = {(other if each == node else each): count for each, count in value.items()}
+                self.assertIs(are_gap_heights(TURNS, 0, LAST, [1], 1, spoilt), False)
         for count in (-1, False, None, "0", [0]):
             self.assertIs(are_gap_heights(TURNS, 0, LAST, [1], 1, {**value, (0, 0): count}), False)
         self.assertIs(are_gap_heights(TURNS, 0, LAST, [1], 1, {**value, (1, 0): True}), False)
@@ -146,9 +159,12 @@ class Errors(Cases):
             self.fails_on(errors.InvalidExit, wrong, lambda value: call(COPIES, value, LAST, None))
             self.fails_on(errors.InvalidLot, WRONG_LOTS, lambda value: call(counting(61), 0, LAST, value))
         self.fails_on(errors.InvalidExit, wrong, lambda value: are_gap_heights(COPIES, value, LAST, None, None, None))
-        self.fails_on(errors.InvalidLot, WRONG_LOTS, lambda value: are_gap_heights(counting(61), 0, LAST, value, None, None))
-        self.fails_on(errors.InvalidNumber, no_counts(), lambda value: are_gap_heights(counting(61), 0, LAST, [0], value, {}))
-        self.fails(errors.InvalidNumber, {"value": -1}, are_gap_heights, value=None, number=-1, lot=[0], wish=LAST, outlet=0, yard=COPIES)
+        self.fails_on(errors.InvalidLot, WRONG_LOTS,
+                      lambda value: are_gap_heights(counting(61), 0, LAST, value, None, None))
+        self.fails_on(errors.InvalidNumber, no_counts(),
+                      lambda value: are_gap_heights(counting(61), 0, LAST, [0], value, {}))
+        self.fails(errors.InvalidNumber, {"value": -1}, are_gap_heights, value=None, number=-1, lot=[0], wish=LAST,
+                   outlet=0, yard=COPIES)
 
     def test_looking_through(self):
         for call in (gap, gap_heights):
@@ -157,8 +173,10 @@ class Errors(Cases):
             fails_looking(self, lambda yard: are_gap_heights(yard, 0, LAST, [0], 0, value))
 
     def test_great_yards(self):
-        self.same([gap(counting(60), 0, LAST, [1]), gap(doubling(4), 0, LAST, [0, 1]), gap(doubling(4), 0, LAST, [1])], [0, 0, None])
-        ones = Yard([TWICE, TWICE, TWICE, TWICE, Station(1, 1, [("1", [(("0",), 0, 1), (("1",), 1, 1)]), ("1", [(("0",), 0, 1)] * 2)])],
+        self.same([gap(counting(60), 0, LAST, [1]), gap(doubling(4), 0, LAST, [0, 1]), gap(doubling(4), 0, LAST, [1])],
+                  [0, 0, None])
+        ones = Yard([TWICE, TWICE, TWICE, TWICE,
+                     Station(1, 1, [("1", [(("0",), 0, 1), (("1",), 1, 1)]), ("1", [(("0",), 0, 1)] * 2)])],
                     [(k, 0, k + 1, 0) for k in range(4)])
         self.same([gap(ones, 0, LAST, [0]), gap(ones, 0, LAST, [1])], [1, None])
 

@@ -57,7 +57,8 @@ class Guarantees(Cases):
             for stream in [dice.text(6) for _ in range(5)] + [""]:
                 if yard is not None:
                     told = [flow_of(term, stream)]
-                    self.same([flows(yard, stream), flows(fused(yard), stream), flows(read_yard(written(yard)), stream)], [told] * 3)
+                    self.same([flows(yard, stream), flows(fused(yard), stream),
+                               flows(read_yard(written(yard)), stream)], [told] * 3)
             self.same(read_term(written(term)), term)
 
     def fits(self, term):
@@ -159,7 +160,8 @@ class Guarantees(Cases):
             new = dice.one_of([yard.stations[station], some_station(dice, 1, 1)])
             for standing, kept in images(yard, station, new).items():
                 for image in range(len(new)):
-                    paper, broken = kept_paper(yard, station, new, standing, image), least_break(yard, station, new, standing, image)
+                    paper, broken = kept_paper(yard, station, new, standing,
+                                               image), least_break(yard, station, new, standing, image)
                     counts[image in kept] += 1
                     self.same([paper is not None, broken is None], [image in kept] * 2)
                     self.assertIs(is_kept_paper(yard, station, new, standing, image, paper), image in kept)

@@ -18,7 +18,8 @@ BEATS = {"what": "beats", "limit": 20000}
 # It is never come to: the images of its standing 1 are all kept.
 FAR = Yard([Station(1, 1, [("1", [(("0",), 0, 1), (("1",), 0, 1)]), ("1", [(("1",), 0, 1)] * 2)])], [])
 # A thousand pairs, and a thousand and one, of a counter of ones and one that counts in another way.
-COUNTS_SOME = Station(1, 1, [("1", [(("",), 2, 1), (("",), 1, 1)]), ("1", [(("0",), 1, 1), (("0",), 1, 1)]), ("1", [(("0",), 1, 1), (("",), 1, 1)])])
+COUNTS_SOME = Station(1, 1, [("1", [(("",), 2, 1), (("",), 1, 1)]), ("1", [(("0",), 1, 1), (("0",), 1, 1)]),
+                             ("1", [(("0",), 1, 1), (("",), 1, 1)])])
 THOUSAND = (counting(39, only("1")), 0, COUNTS_SOME, 0, 0)
 COUNTS_OTHERS = Station(1, 1, [("1", [(("0",), 1, 1), (("0",), 1, 1)]), ("1", [(("",), 3, 1), (("",), 1, 1)]),
                                ("1", [(("",), 2, 1), (("",), 1, 1)]), ("1", [(("",), 1, 1), (("",), 3, 1)])])
@@ -29,7 +30,8 @@ def doubled(station):
     """The station with each standing twice, goals now in the one half and now in the other."""
     rows = station.standings()
     many = len(rows)
-    both = [(reads, [(gives, goal + many * ((goal + at + half) % 2), ticks) for at, (gives, goal, ticks) in enumerate(told)])
+    both = [(reads, [(gives, goal + many * ((goal + at + half) % 2), ticks) for at,
+                     (gives, goal, ticks) in enumerate(told)])
             for half in (0, 1) for reads, told in rows]
     return Station(station.ins, station.outs, both)
 
@@ -37,7 +39,8 @@ def doubled(station):
 def turned(station):
     """The station with its standings numbered the other way round."""
     rows = station.standings()
-    return Station(station.ins, station.outs, [(reads, [(gives, len(rows) - 1 - goal, ticks) for gives, goal, ticks in told])
+    return Station(station.ins, station.outs, [(reads, [(gives, len(rows) - 1 - goal, ticks) for gives, goal,
+                                                        ticks in told])
                                                for reads, told in rows[::-1]])
 
 
@@ -54,9 +57,12 @@ class Images(Cases):
         self.same([images(BASE, 0, WIDE), least_break(BASE, 0, WIDE, 0, 1)], [{0: [0, 2], 1: [1]}, ("0", 0)])
 
     def test_some(self):
-        for yard, station, new, told in [(BASE, 0, PARITY, {0: [0], 1: [1]}), (BASE, 0, turned(PARITY), {0: [1], 1: [0]}), (BASE, 0, PASS, {0: [], 1: []}),
-                                         (FAR, 0, PASS, {0: [0], 1: [0]}), (FAR, 0, TURN, {0: [], 1: [0]}), (FAR, 0, doubled(PASS), {0: [0, 1], 1: [0, 1]}),
-                                         (ROW, 1, TURN, {0: [0]}), (ROW, 0, PASS, {0: []}), (LATE, 0, LATE.stations[0], {0: [0], 1: [1]})]:
+        for yard, station, new, told in [(BASE, 0, PARITY, {0: [0], 1: [1]}),
+                                         (BASE, 0, turned(PARITY), {0: [1], 1: [0]}), (BASE, 0, PASS, {0: [], 1: []}),
+                                         (FAR, 0, PASS, {0: [0], 1: [0]}), (FAR, 0, TURN, {0: [], 1: [0]}),
+                                         (FAR, 0, doubled(PASS), {0: [0, 1], 1: [0, 1]}),
+                                         (ROW, 1, TURN, {0: [0]}), (ROW, 0, PASS, {0: []}),
+                                         (LATE, 0, LATE.stations[0], {0: [0], 1: [1]})]:
             self.same(images(yard, station, new), told)
         self.same(images(new=WIDE, station=0, yard=BASE), {0: [0, 2], 1: [1]})
 
@@ -100,7 +106,8 @@ class Images(Cases):
 
     def test_breaks_behind_some_beats(self):
         # Each image of standing 1 breaks, and standing 1 is come to behind a 1 alone.
-        self.same([least_break(BASE, 0, PASS, 1, 0), least_break(BASE, 0, PASS, 0, 0), least_break(BASE, 0, WIDE, 1, 0)], [("10", 1), ("10", 0), ("10", 1)])
+        self.same([least_break(BASE, 0, PASS, 1, 0), least_break(BASE, 0, PASS, 0, 0),
+                   least_break(BASE, 0, WIDE, 1, 0)], [("10", 1), ("10", 0), ("10", 1)])
         self.same(least_break(image=2, standing=1, new=WIDE, station=0, yard=BASE), ("10", 1))
         begun = Yard([PASS, PARITY], [(0, 0, 1, 0)], ((0, 0), ("11",)))
         # At the beginning 11 is to come there: PARITY gives 10 of it, and stands at 1 behind the first 1.
@@ -171,19 +178,28 @@ class KeptPapers(Cases):
 
     def test_of_images_that_are_not_kept_there_are_none(self):
         for standing, image in [(0, 1), (1, 0), (1, 2)]:
-            for value in ([], kept_paper(BASE, 0, WIDE, 0, 0), [(((a,), ()), ((b,), ())) for a in range(2) for b in range(3)]):
+            for value in ([], kept_paper(BASE, 0, WIDE, 0, 0),
+                          [(((a,), ()), ((b,), ())) for a in range(2) for b in range(3)]):
                 self.assertIs(is_kept_paper(BASE, 0, WIDE, standing, image, value), False)
 
     def test_any_value(self):
         paper = kept_paper(BASE, 0, WIDE, 0, 0)
         self.same(sorted(paper), [(((0,), ()), ((0,), ())), (((0,), ()), ((2,), ())), (((1,), ()), ((1,), ()))])
-        for value in wrong_kinds(paper) + odd_values() + [[], (), "", 0, [None], [()], [[*pair] for pair in paper], [pair[:1] for pair in paper],
-                                                          [pair + pair for pair in paper], paper + [None], paper + [(((2,), ()), ((0,), ()))],
-                                                          paper + [(((0,), ()), ((3,), ()))], paper + [(((0,), ("",)), ((0,), ("",)))]]:
+        for value in wrong_kinds(paper) + odd_values() + [[], (), "", 0, [None], [()], [[*pair] for pair in paper],
+                                                          [pair[:1] for pair in paper],
+                                                          [pair + pair for pair in paper], paper + [None],
+                                                          paper + [(((2,), ()), ((0,), ()))],
+                                                          paper + [(((0,), ()), ((3,), ()))],
+                                                          paper + [(((0,), ("",)), ((0,), ("",)))]]:
             self.assertIs(is_kept_paper(BASE, 0, WIDE, 0, 0, value), False)
-        for pair in [(((False,), ()), ((0,), ())), (((1,), ()), ((True,), ())), (((0,), ()), ([0], ())), (((0,), []), ((0,), ())), ((0,), (0,)), "00", None]:
+        for pair in [(((False,), ()), ((0,), ())), (((1,), ()), ((True,), ())), (((0,), ()), ([0], ())),
+                     (((0,), []), ((0,), ())), ((0,), (0,)), "00", None]:
             self.assertIs(is_kept_paper(BASE, 0, WIDE, 0, 0, paper + [pair]), False)
-        self.assertIs(is_kept_paper(value=with_tuples(paper), image=0, standing=0, new=WIDE, station=0, yard=BASE), True)
+        self.assertIs(is_kept_paper(value=with_tuples(paper), image=0, standing=0, new=WIDE, station=0, yard=BASE),
+                      True)
+        for pair in paper:
+            for other in (pair[:1], pair + pair[:1], pair + pair, ()):
+                self.assertIs(is_kept_paper(BASE, 0, WIDE, 0, 0, paper + [other]), False)
         # The first one of the two yards has two standings alone, the second one three.
         self.assertIs(is_kept_paper(BASE, 0, WIDE, 0, 0, paper + [(((0,), ()), ((2,), ()))][1:]), True)
 
@@ -201,7 +217,8 @@ class KeptPapers(Cases):
         # At the second exit both part at the first sign; the counters make as many pairs all the same.
         counter = counting(40).stations[1:]
         first = Station(1, 2, [("1", [(("0", "0"), 0, 1), (("", "1"), 0, 1)])])
-        yard = Yard([first, *counter], [(0, 0, 1, 0), (1, 0, 2, 0), (2, 0, 3, 0)], ((0, *counting(40).begin[0][1:]), ("",) * 3))
+        yard = Yard([first, *counter], [(0, 0, 1, 0), (1, 0, 2, 0), (2, 0, 3, 0)],
+                    ((0, *counting(40).begin[0][1:]), ("",) * 3))
         unlike = Station(1, 2, [("1", [(("", "1"), 0, 1), (("0", "0"), 0, 1)])])
         alike = Station(1, 2, [("1", [(("", "0"), 0, 1), (("0", "1"), 0, 1)])])
         self.same(least_break(yard, 0, unlike, 0, 0), ("0", 0))
@@ -212,7 +229,8 @@ class KeptPapers(Cases):
     def test_pairs_that_part_are_not_counted(self):
         half_way = Station(1, 2, [("1", [(("0", "0"), 0, 1), (("", "1"), 0, 1)])])
         counter = counting(40).stations[1:]
-        yard = Yard([half_way, *counter], [(0, 0, 1, 0), (1, 0, 2, 0), (2, 0, 3, 0)], ((0, *counting(40).begin[0][1:]), ("",) * 3))
+        yard = Yard([half_way, *counter], [(0, 0, 1, 0), (1, 0, 2, 0), (2, 0, 3, 0)],
+                    ((0, *counting(40).begin[0][1:]), ("",) * 3))
         unlike = Station(1, 2, [("1", [(("", "11"), 0, 1), (("0", "11"), 0, 1)])])
         self.same([images(yard, 0, unlike), least_break(yard, 0, unlike, 0, 0)], [{0: []}, ("0", 0)])
 
@@ -236,8 +254,10 @@ class Breaks(Cases):
     def test_any_value(self):
         self.assertIs(is_break(BASE, 0, WIDE, 0, 1, ("0", 0)), True)
         self.assertIs(is_break(value=("0" * 1000, 1000 - 1), image=1, standing=0, new=WIDE, station=0, yard=BASE), True)
-        for value in odd_values() + [[], (), "", 0, ("0",), ["0", 0], ("0", 0, 0), ("0", None), ("0", "0"), ("0", True), ("0", False), ("0", -1),
-                                     (0, 0), (None, 0), (["0"], 0), ("2", 0), ("0" * 1001, 0), ("0", 1), ("0", 2), ("0", 10 ** 29), ("1", 1)]:
+        for value in odd_values() + [[], (), "", 0, ("0",), ["0", 0], ("0", 0, 0), ("0", None), ("0", "0"),
+                                     ("0", True), ("0", False), ("0", -1),
+                                     (0, 0), (None, 0), (["0"], 0), ("2", 0), ("0" * 1001, 0), ("0", 1), ("0", 2),
+                                     ("0", 10 ** 29), ("1", 1)]:
             self.assertIs(is_break(BASE, 0, WIDE, 0, 1, value), False)
         for value in wrong_kinds(("00", 1)):
             self.assertIs(is_break(BASE, 0, WIDE, 0, 1, value), False)
@@ -258,12 +278,14 @@ class Breaks(Cases):
         # The kind of the sixteenth sign is the first one that shows, and each sign makes 1,367 beats and more.
         copies = Station(1, 2, [("1", [(("0", "0"), 0, 1), (("0", "0"), 0, 1)])])
         passes = Station(1, 2, [("1", [(("0", "0"), 0, 1), (("1", "0"), 0, 1)])])
-        fourth = Station(1, 1, [("1", [(("",), k + 1, 1)] * 2) for k in range(3)] + [("1", [(("0",), 0, 1), (("1",), 0, 1)])])
+        fourth = Station(1, 1, [("1", [(("",), k + 1, 1)] * 2)
+                                for k in range(3)] + [("1", [(("0",), 0, 1), (("1",), 0, 1)])])
         loud = fourfold(5)
         pipes = [(0, 0, 1, 0), (1, 0, 2, 0), (0, 1, 3, 0)] + [(a + 3, b, c + 3, d) for a, b, c, d in loud.pipes]
         yard = Yard([copies, fourth, fourth, *loud.stations], pipes)
         self.fails(errors.TooMany, BEATS, least_break, yard, 0, passes, 0, 0)
-        self.same([is_kept(yard, 0, passes, 0, 0), images(yard, 0, passes), kept_paper(yard, 0, passes, 0, 0)], [False, {0: []}, None])
+        self.same([is_kept(yard, 0, passes, 0, 0), images(yard, 0, passes), kept_paper(yard, 0, passes, 0, 0)],
+                  [False, {0: []}, None])
         self.fails(errors.TooMany, BEATS, is_break, yard, 0, passes, 0, 0, ("0" * 15 + "1", 0))
         self.assertIs(is_break(yard, 0, passes, 0, 0, ("1" * 12, 0)), False)
         quiet = Yard([copies, fourth, fourth, *fourfold(2).stations], [pipe for pipe in pipes if pipe[2] < 6])
@@ -275,9 +297,11 @@ class Errors(Cases):
 
     def test_parameters_of_the_judges(self):
         for call in self.JUDGES:
-            self.fails_on(errors.InvalidStation, no_counts() + [1], lambda value: call(BASE, value, None, None, None, None))
+            self.fails_on(errors.InvalidStation, no_counts() + [1],
+                          lambda value: call(BASE, value, None, None, None, None))
             self.fails_on(errors.InvalidNew, NO_NEWS, lambda value: call(BASE, 0, value, None, None, None))
-            self.fails_on(errors.InvalidStanding, no_counts() + [2], lambda value: call(BASE, 0, WIDE, value, None, None))
+            self.fails_on(errors.InvalidStanding, no_counts() + [2],
+                          lambda value: call(BASE, 0, WIDE, value, None, None))
             self.fails_on(errors.InvalidImage, no_counts() + [3], lambda value: call(BASE, 0, WIDE, 0, value, None))
 
     def test_looking_through(self):

@@ -3,7 +3,7 @@
 import unittest
 
 from flowyard.endless import shortest, ways_apart
-from flowyard.laps import any_lap, lap_through
+from flowyard.laps import any_lap, knots, lap_through
 from flowyard.looking import look_through
 from helper import Cases, Dice
 from slow_rests import Steps, all_texts, told
@@ -64,6 +64,43 @@ class Laps(Cases):
                 for (node, label), later in zip(found, nodes[1:] + nodes[:1]):
                     self.assertIn((label, later), edges[node])
         self.assertGreater(min(counts), 50)
+
+
+class Knots(Cases):
+    def test_some(self):
+        self.same(knots({}), {})
+        found = knots({0: [("a", 1)], 1: [("b", 2)], 2: [("c", 1), ("d", 3)], 3: []})
+        self.same(found[1], found[2])
+        self.assertTrue(found[0] > found[1] > found[3] >= 0)
+        # A long way is gone without going deep.
+        ring = {node: [("x", (node + 1) % 5000)] for node in range(5000)}
+        self.same(len(set(knots(ring).values())), 1)
+
+    def test_many_graphs(self):
+        dice = Dice(14)
+        counts = [0, 0]
+        for _ in range(300):
+            edges = some_graph(dice)
+            behind = {node: self.reached(edges, node) for node in edges}
+            numbers = knots(edges)
+            self.same(sorted(numbers), sorted(edges))
+            self.assertGreaterEqual(min(numbers.values()), 0)
+            for node in edges:
+                for other in edges:
+                    both = other in behind[node] and node in behind[other]
+                    counts[both] += 1
+                    self.same(numbers[node] == numbers[other], both)
+                    self.assertTrue(other not in behind[node] or numbers[other] <= numbers[node])
+        self.assertGreater(min(counts), 300)
+
+    def reached(self, edges, start):
+        met = {start}
+        waiting = [start]
+        while waiting:
+            more = {goal for _, goal in edges[waiting.pop()]} - met
+            met |= more
+            waiting += more
+        return met
 
 
 class Endless(Cases):

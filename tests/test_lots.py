@@ -19,7 +19,8 @@ from spoiling import few, with_tuples, wrong_kinds
 from test_watch import HALVES, TWO_EXITS
 
 TURNS = Yard([Station(1, 1, [("1", [(("0",), 1, 1)] * 2), ("1", [(("1",), 0, 1)] * 2)])], [])
-WRONG_LOTS = odd_values() + [[], (), [2], [-1], [1, 0], [0, 0], [0, 1, 2], [True], [False, 1], "0", 0, [[0]], {0: 1}, (0, True)]
+WRONG_LOTS = odd_values() + [[], (), [2], [-1], [1, 0], [0, 0], [0, 1, 2], [True], [False, 1], "0", 0, [[0]], {0: 1},
+                             (0, True)]
 # At rest 0 it goes round by 0 among places 0 and 1, behind a 1 among places 2 and 3, and never back.
 TWO_ROUNDS = Wish([(1, 2), (0, 2), (3, 2), (2, 2)], [[0, 1], [2, 3]])
 
@@ -73,7 +74,8 @@ class PassedLots(Cases):
     def test_some(self):
         for yard, wish, lots in [(COPIES, LAST, [[0], [1], [0, 1]]), (TURNS, LAST, [[0, 1]]), (ONES, LAST, [[1]]),
                                  (EATING, LAST, []), (STOPS, LAST, [[0]]), (COPIES, ONE, [[0]]), (EATING, ONE, []),
-                                 (COPIES, TWO_ROUNDS, [[2], [0, 1], [2, 3]]), (ONES, ROUND, [[0]]), (TURNS, ROUND, [[0, 1, 2, 3]])]:
+                                 (COPIES, TWO_ROUNDS, [[2], [0, 1], [2, 3]]), (ONES, ROUND, [[0]]),
+                                 (TURNS, ROUND, [[0, 1, 2, 3]])]:
             self.same(passed_lots(yard, 0, wish), lots)
 
     def test_place_0_is_passed_by_signs_alone(self):
@@ -149,7 +151,8 @@ class Witnesses(Cases):
         self.assertIs(is_witness(EATING, 0, ONE, [0], ("", "0")), False)
 
     def test_any_value(self):
-        for value in odd_values() + [[], (), "", "01", 0, ("",), ("", ""), ["", "0"], ("", "0", ""), ("0", ""), (0, "0"), ("", 0),
+        for value in odd_values() + [[], (), "", "01", 0, ("",), ("", ""), ["", "0"], ("", "0", ""), ("0", ""),
+                                     (0, "0"), ("", 0),
                                      (None, "0"), ("", ["0"]), ("2", "0"), ("", "2")]:
             self.assertIs(is_witness(COPIES, 0, LAST, [0], value), False)
         for value in wrong_kinds(("0", "0")):
@@ -164,7 +167,8 @@ class Bars(Cases):
                                ({(0, 1): 2}, False), ({(0, 0): 5}, True), ({(1, 1): 0}, False), ({(2, 0): 0}, False)]:
             self.assertIs(are_bars(TURNS, 0, LAST, [1], {**value, **change}), wanted, change)
         for node in value:
-            self.assertIs(are_bars(TURNS, 0, LAST, [1], {other: count for other, count in value.items() if other != node}), False)
+            self.assertIs(are_bars(TURNS, 0, LAST, [1], {other: count for other,
+                                                         count in value.items() if other != node}), False)
         turned = {node: value[node] for node in sorted(value, reverse=True)}
         self.assertIs(are_bars(value=turned, lot=(1,), wish=LAST, outlet=0, yard=TURNS), True)
         self.assertIs(are_bars(TURNS, 0, LAST, [0, 1], value), False)
@@ -198,12 +202,17 @@ class Bars(Cases):
     def test_any_value(self):
         value = {(0, 0): 0, (0, 1): 0, (1, 0): 1}
         self.assertIs(are_bars(TURNS, 0, LAST, [1], value), True)
-        for wrong in wrong_kinds(value) + odd_values() + [[], (), 0, "", {}, {**value, None: 0}, {**value, (True, 1): 0}]:
+        for wrong in wrong_kinds(value) + odd_values() + [[], (), 0, "", {}, {**value, None: 0},
+                                                          {**value, (True, 1): 0}]:
             self.assertIs(are_bars(TURNS, 0, LAST, [1], wrong), False)
         for key, other in [((0, 0), (False, 0)), ((0, 1), (0, True)), ((1, 0), (True, 0)), ((1, 0), "10"), ((1, 0), 1),
                            ((1, 0), (1, 0, 0)), ((1, 0), frozenset([1, 0])), ((1, 0), (1, None))]:
             spoilt = {(other if node == key else node): count for node, count in value.items()}
             self.assertIs(are_bars(TURNS, 0, LAST, [1], spoilt), False)
+        for node in value:
+            for other in [(1, 1), (2, 0), (5, 5), (0, 2), (-1, 0)]:
+                spoilt = {(other if each == node else each): count for each, count in value.items()}
+                self.assertIs(are_bars(TURNS, 0, LAST, [1], spoilt), False)
         for count in (-1, True, False, None, "0", [0]):
             self.assertIs(are_bars(TURNS, 0, LAST, [1], {**value, (0, 0): count}), False)
 
@@ -218,10 +227,13 @@ class Bars(Cases):
 
 class Kept(Cases):
     def test_some(self):
-        for yard, wish, kept in [(TURNS, LAST, True), (COPIES, LAST, False), (EATING, LAST, True), (EATING, Wish([(0, 0)], []), True),
+        for yard, wish, kept in [(TURNS, LAST, True), (COPIES, LAST, False), (EATING, LAST, True),
+                                 (EATING, Wish([(0, 0)], []), True),
                                  (COPIES, ONE, False), (COPIES, ~ONE, True), (STOPS, LAST, False), (STOPS, ~LAST, True),
-                                 (ONES, Wish(LAST.goals(), [[1]]), True), (COPIES, Wish(LAST.goals(), LAST.lots()), True)]:
-            self.same([is_kept(yard, 0, wish), kept_paper(yard, 0, wish) is not None, breaker(yard, 0, wish) is None], [kept] * 3)
+                                 (ONES, Wish(LAST.goals(), [[1]]), True),
+                                 (COPIES, Wish(LAST.goals(), LAST.lots()), True)]:
+            self.same([is_kept(yard, 0, wish), kept_paper(yard, 0, wish) is not None, breaker(yard, 0, wish) is None],
+                      [kept] * 3)
 
     def test_papers_have_all_lots_that_are_not_good(self):
         paper = kept_paper(TURNS, 0, LAST)
@@ -295,7 +307,8 @@ class Kept(Cases):
         self.assertIs(is_breaker(COPIES, 0, LAST, ("0" * 1000, "1" * 1000)), True)
         for value in [("0" * 1001, "1"), ("", "1" * 1001), ("", "")]:
             self.assertIs(is_breaker(COPIES, 0, LAST, value), False)
-        for value in odd_values() + [[], (), "", "01", 0, ("",), ["", "0"], ("", "0", ""), (0, "0"), ("", 0), ("2", "0")]:
+        for value in odd_values() + [[], (), "", "01", 0, ("",), ["", "0"], ("", "0", ""), (0, "0"), ("", 0),
+                                     ("2", "0")]:
             self.assertIs(is_breaker(COPIES, 0, LAST, value), False)
         for value in wrong_kinds(("0", "0")):
             self.assertIs(is_breaker(COPIES, 0, LAST, value), False)

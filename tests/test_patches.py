@@ -4,7 +4,8 @@ import unittest
 from itertools import combinations
 
 from flowyard import errors
-from flowyard.patches import (greatest_keeping, kept_exits, least_changing, lost_exits, merged, overfilling, patched, shown_by,
+from flowyard.patches import (greatest_keeping, kept_exits, least_changing, lost_exits, merged, overfilling, patched,
+                              shown_by,
                               word)
 from flowyard.runs import flows
 from flowyard.yards import Station, Yard
@@ -15,7 +16,8 @@ from some_looked import fails_looking
 from some_yards import COPIES, EATING, HELD_BY_TWO, counting, doubling, only
 from spoiling import few, with_tuples
 
-WIDE = Station(1, 1, [("1", [(("0",), 2, 1), (("1",), 1, 1)]), ("1", [(("1",), 1, 1), (("0",), 2, 1)]), ("1", [(("0",), 0, 1), (("1",), 1, 1)])])
+WIDE = Station(1, 1, [("1", [(("0",), 2, 1), (("1",), 1, 1)]), ("1", [(("1",), 1, 1), (("0",), 2, 1)]),
+                      ("1", [(("0",), 0, 1), (("1",), 1, 1)])])
 BASE = Yard([WIDE], [])
 TOLD = [(0, 0, "0", (("0",), 0, 1)), (0, 2, "1", (("0",), 1, 1))]
 TWO_WAYS = Yard([SPLIT, PASS, TURN], [(0, 0, 1, 0), (0, 1, 2, 0)])
@@ -27,7 +29,8 @@ MORE_PAIRS = (counting(59, only("0")), TO_ONES + [(1, 3, "0", (("0",), 3, 1))])
 PAIRS = {"what": "pairs", "limit": 1000}
 # It is patched by an own row, by one that gives too much, by one that gives another sign.
 BROKEN = (HELD_BY_TWO, [(0, 0, "0", (("0", "0"), 0, 1)), (1, 0, "0", (("00",), 0, 1)), (2, 0, "00", (("1",), 0, 1))])
-ALL_PARTS = {many: sorted([list(part) for size in range(many + 1) for part in combinations(range(many), size)]) for many in range(7)}
+ALL_PARTS = {many: sorted([list(part) for size in range(many + 1) for part in combinations(range(many), size)])
+             for many in range(7)}
 PAST_ONE = [(1, 0, "0", (("1",), 0, 1))]
 
 
@@ -106,8 +109,10 @@ def some_patched(dice, most=3):
 
 class Patched(Cases):
     def test_the_documents_yard(self):
-        self.same([word(BASE, TOLD, [0]), shown_by(BASE, TOLD, [1]), shown_by(BASE, TOLD, [0, 1])], ["keeps", "01", "111"])
-        self.same([least_changing(BASE, TOLD), greatest_keeping(BASE, TOLD), kept_exits(BASE, TOLD), kept_exits(BASE, TOLD[:1])],
+        self.same([word(BASE, TOLD, [0]), shown_by(BASE, TOLD, [1]), shown_by(BASE, TOLD, [0, 1])],
+                  ["keeps", "01", "111"])
+        self.same([least_changing(BASE, TOLD), greatest_keeping(BASE, TOLD), kept_exits(BASE, TOLD),
+                   kept_exits(BASE, TOLD[:1])],
                   [[[1]], [[0]], [], [0]])
 
     def test_all_changes_are_done(self):
@@ -137,7 +142,8 @@ class Patched(Cases):
 class Words(Cases):
     def test_some(self):
         yard, patch = BROKEN
-        for part, told in [([], ("keeps", None)), ([0], ("keeps", None)), ([1], ("overfills", "0000")), ([0, 1, 2], ("overfills", "0000")), ([2], ("changes", "00")),
+        for part, told in [([], ("keeps", None)), ([0], ("keeps", None)), ([1], ("overfills", "0000")),
+                           ([0, 1, 2], ("overfills", "0000")), ([2], ("changes", "00")),
                            ([0, 2], ("changes", "00"))]:
             self.same((word(yard, patch, part), shown_by(yard, patch, part)), told)
         self.same(word(part=(0,), patch=tuple(patch), yard=yard), "keeps")
@@ -171,15 +177,20 @@ class Words(Cases):
                     self.same((found, stream), slow_word(yard, changes, 5))
             keeping = [part for part in ALL_PARTS[len(patch)] if told[tuple(part)] == "keeps"]
             changing = [part for part in ALL_PARTS[len(patch)] if told[tuple(part)] == "changes"]
-            self.same(overfilling(yard, patch), [part for part in ALL_PARTS[len(patch)] if told[tuple(part)] == "overfills"])
-            self.same(least_changing(yard, patch), [part for part in changing if not any(set(less) < set(part) for less in changing)])
-            self.same(greatest_keeping(yard, patch), [part for part in keeping if not any(set(part) < set(more) for more in keeping)])
+            self.same(overfilling(yard, patch),
+                      [part for part in ALL_PARTS[len(patch)] if told[tuple(part)] == "overfills"])
+            self.same(least_changing(yard, patch),
+                      [part for part in changing if not any(set(less) < set(part) for less in changing)])
+            self.same(greatest_keeping(yard, patch),
+                      [part for part in keeping if not any(set(part) < set(more) for more in keeping)])
         self.assertGreater(min(counts.values()), 20)
 
     def test_patches_of_six_changes(self):
-        other = Station(1, 1, [("1", [(("1",), 0, 1), (("0",), 1, 1)]), ("1", [(("0",), 1, 1), (("1",), 0, 1)]), ("1", [(("",), 2, 1)] * 2)])
+        other = Station(1, 1, [("1", [(("1",), 0, 1), (("0",), 1, 1)]), ("1", [(("0",), 1, 1), (("1",), 0, 1)]),
+                               ("1", [(("",), 2, 1)] * 2)])
         yard = Yard([other], [])
-        patch = [(0, 2, "1", (("11",), 0, 1)), (0, 0, "0", (("1",), 1, 1)), (0, 1, "0", (("0",), 0, 1)), (0, 2, "0", (("0",), 0, 1)),
+        patch = [(0, 2, "1", (("11",), 0, 1)), (0, 0, "0", (("1",), 1, 1)), (0, 1, "0", (("0",), 0, 1)),
+                 (0, 2, "0", (("0",), 0, 1)),
                  (0, 0, "1", (("0",), 0, 1)), (0, 1, "1", (("1",), 1, 1))]
         words = {tuple(part): word(yard, patch, part) for part in ALL_PARTS[6]}
         self.same(len(words), 64)
@@ -191,7 +202,8 @@ class Words(Cases):
     def test_parts_that_keep_together_alone(self):
         # Each change turns the sign; both of them turn it and turn it back.
         yard = Yard([PASS, PASS], [(0, 0, 1, 0)])
-        patch = [(station, 0, sign, ((turned,), 0, 1)) for station in (0, 1) for sign, turned in (("0", "1"), ("1", "0"))]
+        patch = [(station, 0, sign, ((turned,), 0, 1)) for station in (0, 1) for sign,
+                 turned in (("0", "1"), ("1", "0"))]
         self.same([least_changing(yard, patch), greatest_keeping(yard, patch)], [[[0], [1], [2], [3]], [[0, 1, 2, 3]]])
         self.same(overfilling(yard, patch), [])
         # The whole keeps, and so does the empty part; what lies between changes.
@@ -252,7 +264,8 @@ class Merged(Cases):
         for _ in range(80):
             yard = some_yard(dice, 2)
             one, other = some_patch(dice, yard, 3), some_patch(dice, yard, 3)
-            clashing = sorted(change[:3] for change in one for each in other if change[:3] == each[:3] and change[3] != each[3])
+            clashing = sorted(change[:3] for change in one for each in other if change[:3] == each[:3]
+                              and change[3] != each[3])
             counts[bool(clashing)] += 1
             if clashing:
                 self.fails(errors.PatchesClash, {"value": clashing[0]}, merged, yard, one, other)
@@ -275,7 +288,9 @@ class Exits(Cases):
 
     def test_an_exit_that_parts_behind_another_one(self):
         # The second exit parts at the first sign, the first one at the third.
-        yard = Yard([COPY, Station(1, 1, [("1", [(("0",), k + 1, 1)] * 2) for k in range(3)] + [("1", [(("0",), 3, 1)] * 2)]), PASS],
+        yard = Yard([COPY, Station(1, 1,
+                                   [("1", [(("0",), k + 1, 1)] * 2)
+                                    for k in range(3)] + [("1", [(("0",), 3, 1)] * 2)]), PASS],
                     [(0, 0, 1, 0), (0, 1, 2, 0)])
         patch = [(1, 2, "1", (("1",), 3, 1)), (2, 0, "0", (("1",), 0, 1))]
         self.same([kept_exits(yard, patch), kept_exits(yard, patch[:1]), kept_exits(yard, patch[1:])], [[], [1], [0]])
@@ -294,10 +309,12 @@ class Exits(Cases):
         self.same(lost_exits(yard, [(0, 0, "0", (("1",), 0, 1))], turns), [])
 
     def test_lost_exits_of_several(self):
-        far = Station(1, 2, [("1", [(("0", "0"), 0, 1), (("1", "1"), 0, 1)]), ("1", [(("0", "0"), 1, 1), (("1", "1"), 1, 1)])])
+        far = Station(1, 2, [("1", [(("0", "0"), 0, 1), (("1", "1"), 0, 1)]),
+                             ("1", [(("0", "0"), 1, 1), (("1", "1"), 1, 1)])])
         yard = Yard([far], [])
         goes = [(0, 0, "0", (("0", "0"), 1, 1))]
-        self.same(lost_exits(yard, goes, [(0, 1, "1", (("1", ""), 1, 1)), (0, 1, "0", (("", "0"), 1, 1))]), [(0, "00"), (1, "01")])
+        self.same(lost_exits(yard, goes, [(0, 1, "1", (("1", ""), 1, 1)), (0, 1, "0", (("", "0"), 1, 1))]),
+                  [(0, "00"), (1, "01")])
         self.same(lost_exits(yard, goes, [(0, 1, "1", (("1", ""), 1, 1))]), [(1, "01")])
         self.same(lost_exits(yard, [(0, 0, "0", (("1", "0"), 1, 1))], [(0, 1, "1", (("", ""), 1, 1))]), [(1, "01")])
 
@@ -318,14 +335,16 @@ class Exits(Cases):
                 found = kept_exits(yard, told)
                 changed = slow_patched(yard, told)
                 for outlet in range(len(yard.exits)):
-                    unlike = [stream for stream in all_texts(5) if slow_flows(yard, stream)[outlet] != slow_flows(changed, stream)[outlet]]
+                    unlike = [stream for stream in all_texts(5)
+                              if slow_flows(yard, stream)[outlet] != slow_flows(changed, stream)[outlet]]
                     streams[(name, outlet)] = unlike[:1]
                     self.assertFalse(unlike and outlet in found)
                 if found == list(range(len(yard.exits))):
                     self.same(word(yard, told, list(range(len(told)))), "keeps")
                 kept += len(found)
             told = lost_exits(yard, one, other)
-            wanted = [outlet for outlet in range(len(yard.exits)) if outlet in kept_exits(yard, one) and outlet in kept_exits(yard, other)
+            wanted = [outlet for outlet in range(len(yard.exits)) if outlet in kept_exits(yard, one)
+                      and outlet in kept_exits(yard, other)
                       and outlet not in kept_exits(yard, both)]
             self.same([outlet for outlet, _ in told], wanted)
             for outlet, stream in told:
@@ -337,24 +356,32 @@ class Exits(Cases):
 
 
 class Errors(Cases):
-    CALLS = [patched, least_changing, greatest_keeping, overfilling, kept_exits, lambda yard, patch: word(yard, patch, None),
+    CALLS = [patched, least_changing, greatest_keeping, overfilling, kept_exits, lambda yard,
+             patch: word(yard, patch, None),
              lambda yard, patch: shown_by(yard, patch, None), lambda yard, patch: merged(yard, patch, None),
              lambda yard, patch: lost_exits(yard, patch, None)]
 
     def test_patches(self):
         row = (("0",), 0, 1)
-        wrong = odd_values() + [(), (0, 0, "0"), [0, 0, "0", row], (0, 0, "0", row, 1), (1, 0, "0", row), (-1, 0, "0", row), (False, 0, "0", row),
-                                (0, 3, "0", row), (0, False, "0", row), (0, 0, "", row), (0, 0, "00", row), (0, 0, 0, row), (0, 0, None, row),
-                                (0, 0, ["0"], row), (0, 0, "0", [("0",), 0, 1]), (0, 0, "0", (["0"], 0, 1)), (0, 0, "0", (("000",), 0, 1)),
-                                (0, 0, "0", (("0", "0"), 0, 1)), (0, 0, "0", (("0",), 3, 1)), (0, 0, "0", (("0",), 0, 0)), (0, 0, "0", (("0",), 0, 10)),
-                                (0, 0, "0", (("0",), 0, True)), (0, 0, "0", (("0",), False, 1)), (0, 0, "0", None), (0, 0, "0", (("2",), 0, 1)),
+        wrong = odd_values() + [(), (0, 0, "0"), [0, 0, "0", row], (0, 0, "0", row, 1), (1, 0, "0", row),
+                                (-1, 0, "0", row), (False, 0, "0", row),
+                                (0, 3, "0", row), (0, False, "0", row), (0, 0, "", row), (0, 0, "00", row),
+                                (0, 0, 0, row), (0, 0, None, row),
+                                (0, 0, ["0"], row), (0, 0, "0", [("0",), 0, 1]), (0, 0, "0", (["0"], 0, 1)),
+                                (0, 0, "0", (("000",), 0, 1)),
+                                (0, 0, "0", (("0", "0"), 0, 1)), (0, 0, "0", (("0",), 3, 1)),
+                                (0, 0, "0", (("0",), 0, 0)), (0, 0, "0", (("0",), 0, 10)),
+                                (0, 0, "0", (("0",), 0, True)), (0, 0, "0", (("0",), False, 1)), (0, 0, "0", None),
+                                (0, 0, "0", (("2",), 0, 1)),
                                 (0, 0, "0", (("0",), 0))]
         for call in self.CALLS:
-            for value in [value for value in odd_values() if value not in ([], ())] + [[], (), "", 0, {TOLD[0]: 1}, [TOLD[0]] * 7, iter(TOLD)]:
+            for value in [value for value in odd_values()
+                          if value not in ([], ())] + [[], (), "", 0, {TOLD[0]: 1}, [TOLD[0]] * 7, iter(TOLD)]:
                 self.fails(errors.InvalidPatch, {"position": None}, call, BASE, value)
             for value in wrong:
                 self.fails(errors.InvalidPatch, {"position": 1}, call, BASE, [TOLD[1], value, None])
-            self.fails(errors.InvalidPatch, {"position": 2}, call, BASE, [TOLD[0], TOLD[1], (*TOLD[0][:3], (("1",), 0, 1))])
+            self.fails(errors.InvalidPatch, {"position": 2}, call, BASE,
+                       [TOLD[0], TOLD[1], (*TOLD[0][:3], (("1",), 0, 1))])
             self.fails(errors.InvalidPatch, {"position": 1}, call, BASE, [TOLD[0], TOLD[0]])
             self.fails(errors.InvalidPatch, {"position": 0}, call, counting(61), [None])
         self.same(len(patched(BASE, [(*place, row) for place, row in all_places(BASE)]).stations), 1)
@@ -370,11 +397,13 @@ class Errors(Cases):
         self.assertEqual(patched(both_lines, [(1, 0, "01", (("0",), 0, 1))]).stations[1].row(0, "01"), (("0",), 0, 1))
 
     def test_parts(self):
-        wrong = [value for value in odd_values() if value != []] + ["", "0", 0, [2], [-1], [1, 0], [0, 0], [True], [0, True], [False], ["0"], [[0]], [None],
-                                                                    {0: 1}, {0}, [0, 1, 2], (1, 0)]
+        wrong = [value for value in odd_values()
+                 if value != []] + ["", "0", 0, [2], [-1], [1, 0], [0, 0], [True], [0, True], [False], ["0"], [[0]],
+                                    [None], {0: 1}, {0}, [0, 1, 2], (1, 0)]
         for call in (word, shown_by):
             self.fails_on(errors.InvalidPart, wrong, lambda value: call(BASE, TOLD, value))
-            self.fails_on(errors.InvalidPart, [[0, 2], None], lambda value: call(OVERVIEW, [(0, 0, "0", (("0", "0"), 0, 1))], value))
+            self.fails_on(errors.InvalidPart, [[0, 2], None],
+                          lambda value: call(OVERVIEW, [(0, 0, "0", (("0", "0"), 0, 1))], value))
             self.fails(errors.InvalidPart, {"value": [2]}, call, part=[2], patch=TOLD, yard=BASE)
             self.fails(errors.InvalidPatch, {"position": 0}, call, part=[2], patch=[None], yard=BASE)
 
@@ -442,7 +471,8 @@ class Errors(Cases):
 
     def test_a_merge_that_is_not_held(self):
         # Each of both lets one way run slow; only together they come there.
-        far = Station(1, 2, [("1", [(("0", "0"), 0, 1), (("1", "1"), 0, 1)]), ("1", [(("0", "0"), 1, 1), (("1", "1"), 1, 1)])])
+        far = Station(1, 2, [("1", [(("0", "0"), 0, 1), (("1", "1"), 0, 1)]),
+                             ("1", [(("0", "0"), 1, 1), (("1", "1"), 1, 1)])])
         yard = Yard([far, UNLIKE], [(0, 0, 1, 0), (0, 1, 1, 1)])
         goes, fills = [(0, 0, "1", (("1", "1"), 1, 1))], [(0, 1, "0", (("", "0"), 1, 1))]
         self.same([kept_exits(yard, goes), kept_exits(yard, fills)], [[0], [0]])

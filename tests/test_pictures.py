@@ -40,7 +40,8 @@ class Pictures(Cases):
         for _ in range(60):
             yard = some_held(dice)
             if dice.below(2):
-                yard = joined(yard, 0, dice.one_of([Yard([TWICE], []), giving("10", PASS), giving("0110", PASS), Yard([LATCH], [])]))
+                yard = joined(yard, 0, dice.one_of([Yard([TWICE], []), giving("10", PASS), giving("0110", PASS),
+                                                    Yard([LATCH], [])]))
             found = picture(yard, 0)
             views = [view(yard, 0, "")]
             texts = [""]
@@ -69,7 +70,8 @@ class Pictures(Cases):
 
 class Unheard(Cases):
     def test_some(self):
-        for yard, told in [(COPIES, []), (EATING, ["0", "1"]), (ONES, ["0"]), (giving("01"), ["00", "10", "11"]), (LATE, []),
+        for yard, told in [(COPIES, []), (EATING, ["0", "1"]), (ONES, ["0"]), (giving("01"), ["00", "10", "11"]),
+                           (LATE, []),
                            (joined(HELD, 0, HELD), ["10"]), (ZEROS, ["1"]), (giving("010", OPENS), []),
                            (giving(""), ["0", "1"]), (giving("0"), ["1", "00"]), (giving("0000"), ["1", "00000"])]:
             self.same(unheard(yard, 0), told)
@@ -81,7 +83,8 @@ class Unheard(Cases):
         for _ in range(60):
             yard = some_held(dice)
             if dice.below(3):
-                yard = joined(yard, 0, dice.one_of([Yard([LATCH], []), giving("10", only("0")), giving("0110", EATING.stations[0])]))
+                yard = joined(yard, 0, dice.one_of([Yard([LATCH], []), giving("10", only("0")),
+                                                    giving("0110", EATING.stations[0])]))
             told = unheard(yard, 0)
             self.same(told, sorted(told, key=lambda text: (len(text), text)))
             silent = {text for text in all_texts(6) if not can_be_heard(yard, 0, text)}
@@ -104,9 +107,12 @@ class Unheard(Cases):
 
 class Twins(Cases):
     def test_some(self):
-        for one, other, told in [(COPIES, TURNING, None), (COPIES, HOLDS, None), (COPIES, ONES, "0"), (EATING, ONES, "1"), (HELD, COPIES, "10"),
-                                 (giving("01"), giving("10"), "01"), (giving("01"), giving("011"), "11"), (ZEROS, ONES, "0"),
-                                 (HELD, joined(HELD, 0, HELD), None), (giving("0101"), giving("0101"), None), (EATING, giving(""), None)]:
+        for one, other, told in [(COPIES, TURNING, None), (COPIES, HOLDS, None), (COPIES, ONES, "0"),
+                                 (EATING, ONES, "1"), (HELD, COPIES, "10"),
+                                 (giving("01"), giving("10"), "01"), (giving("01"), giving("011"), "11"),
+                                 (ZEROS, ONES, "0"),
+                                 (HELD, joined(HELD, 0, HELD), None), (giving("0101"), giving("0101"), None),
+                                 (EATING, giving(""), None)]:
             for mine, yours in [(one, other), (other, one)]:
                 self.same(heard_apart(mine, 0, yours, 0), told)
                 pairs = twins(mine, 0, yours, 0)
@@ -159,7 +165,8 @@ class Twins(Cases):
     def test_lists_by_the_words_of_the_point(self):
         dice = Dice(762)
         counts = [0, 0]
-        for one, other in [(giving("01"), giving("01")), (HELD, joined(HELD, 0, HELD)), (giving("010", OPENS), giving("010", OPENS)),
+        for one, other in [(giving("01"), giving("01")), (HELD, joined(HELD, 0, HELD)),
+                           (giving("010", OPENS), giving("010", OPENS)),
                            (giving("01"), giving("011")), (giving("10"), giving("1"))]:
             paper = twins(one, 0, other, 0) or [(0, 0)]
             sizes = [len(picture(yard, 0)) for yard in (one, other)]
@@ -175,15 +182,18 @@ class Twins(Cases):
         paper = twins(giving("01"), 0, giving("01"), 0)
         self.same(sorted(paper), [(0, 0), (1, 1), (2, 2)])
         for value, wanted in [(paper[::-1], True), (tuple(paper), True), (paper * 2, True), (paper + [(2, 2)], True),
-                              (paper + [(0, 2)], False), (paper + [(1, 2)], False), (paper + [(3, 3)], False), (paper[1:], False), ([], False)]:
+                              (paper + [(0, 2)], False), (paper + [(1, 2)], False), (paper + [(3, 3)], False),
+                              (paper[1:], False), ([], False)]:
             self.assertIs(are_twins(giving("01"), 0, giving("01"), 0, value), wanted)
         for at in range(3):
             self.assertIs(are_twins(giving("01"), 0, giving("01"), 0, paper[:at] + paper[at + 1:]), False)
 
     def test_any_value(self):
         paper = twins(giving("01"), 0, giving("01"), 0)
-        for value in wrong_kinds(paper) + odd_values() + [[], (), "", 0, [None], [()], [(0,)], [[0, 0]], [(0, 0, 0)], [(False, 0)], [(0, False)],
-                                                          [(0, -1)], [("0", "0")], {(0, 0): 0}, {(0, 0)}, [(None, None)], [(0, 0), (None, None)]]:
+        for value in wrong_kinds(paper) + odd_values() + [[], (), "", 0, [None], [()], [(0,)], [[0, 0]], [(0, 0, 0)],
+                                                          [(False, 0)], [(0, False)],
+                                                          [(0, -1)], [("0", "0")], {(0, 0): 0}, {(0, 0)},
+                                                          [(None, None)], [(0, 0), (None, None)]]:
             self.assertIs(are_twins(giving("01"), 0, giving("01"), 0, value), False)
             self.assertIs(are_twins(COPIES, 0, COPIES, 0, value), False)
         self.assertIs(are_twins(COPIES, 0, COPIES, 0, [(0, 0)]), True)

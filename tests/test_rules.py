@@ -84,6 +84,19 @@ class Rules(unittest.TestCase):
                         self.assertIn(each.name, known, name)
                         self.assertIsNone(each.asname, name)
 
+    def test_imports_are_used_and_go_round_in_no_way(self):
+        deps = {}
+        for name, tree in trees():
+            imports = [node for node in tree.body if isinstance(node, ast.ImportFrom)]
+            used = {node.id for node in ast.walk(tree) if isinstance(node, ast.Name)}
+            self.assertEqual({each.name for node in imports for each in node.names} - used, set(), name)
+            deps[f"flowyard.{name[:-3]}"] = {node.module for node in imports} - set(LIBRARY)
+        while deps:
+            free = [name for name, others in deps.items() if not others & set(deps)]
+            self.assertTrue(free, sorted(deps))
+            for name in free:
+                del deps[name]
+
     def test_names(self):
         for name, tree in trees():
             imported = [each.name for node in tree.body if isinstance(node, ast.ImportFrom) for each in node.names]

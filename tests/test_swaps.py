@@ -6,7 +6,8 @@ from flowyard import errors
 from flowyard.runs import end, full_run
 from flowyard.swaps import exchanged, images, is_kept, kept_paper, least_break, moments, swapped_end
 from flowyard.yards import Station, Yard
-from helper import (BY_TURNS, COPY, EATS, HALF, OVERVIEW, PASS, ROW, SPLIT, TURN, TWICE, UNLIKE, Cases, Dice, no_counts, no_texts,
+from helper import (BY_TURNS, COPY, EATS, HALF, OVERVIEW, PASS, ROW, SPLIT, TURN, TWICE, UNLIKE, Cases, Dice,
+                    no_counts, no_texts,
                     odd_values, some_station, some_yard)
 from slow_rests import slow_look, small_held
 from slow_swaps import beats_of_station, slow_exchanged, slow_moments, slow_swapped_end
@@ -16,10 +17,12 @@ from some_yards import HELD_BY_TWO, HOLDS, counting, doubling
 from spoiling import few
 
 PARITY = Station(1, 1, [("1", [(("0",), 0, 1), (("1",), 1, 1)]), ("1", [(("1",), 1, 1), (("0",), 0, 1)])])
-WIDE = Station(1, 1, [("1", [(("0",), 2, 1), (("1",), 1, 1)]), ("1", [(("1",), 1, 1), (("0",), 2, 1)]), ("1", [(("0",), 0, 1), (("1",), 1, 1)])])
+WIDE = Station(1, 1, [("1", [(("0",), 2, 1), (("1",), 1, 1)]), ("1", [(("1",), 1, 1), (("0",), 2, 1)]),
+                      ("1", [(("0",), 0, 1), (("1",), 1, 1)])])
 BASE = Yard([PARITY], [])
 # No values of these are Stations with as many lines as PARITY.
-NO_NEWS = [value for value in odd_values() if value != PASS] + [COPY, UNLIKE, SPLIT, BASE, [PARITY], (PARITY,), repr(PARITY)]
+NO_NEWS = [value for value in odd_values()
+           if value != PASS] + [COPY, UNLIKE, SPLIT, BASE, [PARITY], (PARITY,), repr(PARITY)]
 
 
 def some_parts(dice, most=3, rests=6):
@@ -34,7 +37,8 @@ def some_parts(dice, most=3, rests=6):
 
 class Exchanged(Cases):
     def test_the_documents_yard(self):
-        self.same([images(BASE, 0, WIDE), least_break(BASE, 0, WIDE, 0, 1), swapped_end(BASE, 0, WIDE, "01", 1, 2), moments(BASE, 0, 1)],
+        self.same([images(BASE, 0, WIDE), least_break(BASE, 0, WIDE, 0, 1), swapped_end(BASE, 0, WIDE, "01", 1, 2),
+                   moments(BASE, 0, 1)],
                   [{0: [0, 2], 1: [1]}, ("0", 0), ((1,), (), "", ("01",)), [((1,), ())]])
 
     def test_all_else_stays(self):
@@ -61,16 +65,19 @@ class Exchanged(Cases):
 
 class Ends(Cases):
     def test_behind_none_some_and_all_beats(self):
-        self.same([swapped_end(BASE, 0, TURN, "010", number, 0)[3] for number in range(4)], [("101",), ("001",), ("011",), ("011",)])
+        self.same([swapped_end(BASE, 0, TURN, "010", number, 0)[3] for number in range(4)],
+                  [("101",), ("001",), ("011",), ("011",)])
         self.same([swapped_end(BASE, 0, TURN, "010", number, 0)[0] for number in range(4)], [(0,)] * 4)
         self.same(swapped_end(ROW, 1, HALF, "0110", 1, 1), ((0, 0), ("",), "", ("001",)))
-        self.same(swapped_end(image=0, number=2, stream="0110", new=HALF, station=1, yard=ROW), ((0, 0), ("",), "", ("011",)))
+        self.same(swapped_end(image=0, number=2, stream="0110", new=HALF, station=1, yard=ROW),
+                  ((0, 0), ("",), "", ("011",)))
 
     def test_without_any_beat(self):
         self.same(swapped_end(BASE, 0, WIDE, "", 0, 2), ((2,), (), "", ("",)))
         begun = Yard([PASS, HALF], [(0, 0, 1, 0)], ((0, 0), ("010",)))
         self.same([swapped_end(begun, 1, TURN, "", number, 0) for number in range(4)],
-                  [((0, 0), ("",), "", ("101",)), ((0, 0), ("",), "", ("01",)), ((0, 0), ("",), "", ("11",)), ((0, 0), ("",), "", ("1",))])
+                  [((0, 0), ("",), "", ("101",)), ((0, 0), ("",), "", ("01",)), ((0, 0), ("",), "", ("11",)),
+                   ((0, 0), ("",), "", ("1",))])
 
     def test_many_by_drawn_sequences(self):
         dice = Dice(811)
@@ -88,7 +95,8 @@ class Ends(Cases):
                 self.same(found, slow_swapped_end(dice, yard, station, new, stream, number, image))
                 self.same(found, slow_swapped_end(dice, yard, station, new, stream, number, image))
                 counts[number > 0] += 1
-            self.fails(errors.InvalidNumber, {"value": len(stands)}, swapped_end, yard, station, new, stream, len(stands), 0)
+            self.fails(errors.InvalidNumber, {"value": len(stands)}, swapped_end, yard, station, new, stream,
+                       len(stands), 0)
         self.assertGreater(min(counts), 100)
 
     def test_a_swap_for_itself_is_none(self):
@@ -98,14 +106,16 @@ class Ends(Cases):
             station = dice.below(len(yard))
             stream = dice.text(5)
             for number, standing in enumerate(beats_of_station(yard, station, stream)):
-                self.same(swapped_end(yard, station, yard.stations[station], stream, number, standing), end(yard, stream))
+                self.same(swapped_end(yard, station, yard.stations[station], stream, number, standing),
+                          end(yard, stream))
 
     def test_the_greatest_number_and_one_more(self):
         for number in range(4):
             swapped_end(BASE, 0, WIDE, "010", number, 0)
         for number in (4, 5, 10 ** 29):
             self.fails(errors.InvalidNumber, {"value": number}, swapped_end, BASE, 0, WIDE, "010", number, 0)
-        self.fails(errors.InvalidNumber, {"value": 3}, swapped_end, Yard([HALF, PASS], [(0, 0, 1, 0)]), 1, TURN, "0100", 3, 0)
+        self.fails(errors.InvalidNumber, {"value": 3}, swapped_end, Yard([HALF, PASS], [(0, 0, 1, 0)]), 1, TURN,
+                   "0100", 3, 0)
         self.fails(errors.InvalidNumber, {"value": 1}, swapped_end, BASE, 0, WIDE, "", 1, 0)
 
     def test_too_many_beats(self):
@@ -132,11 +142,13 @@ class Ends(Cases):
 
 class Moments(Cases):
     def test_some(self):
-        self.same([moments(BASE, 0, 0), moments(HOLDS, 0, 0), moments(HOLDS, 0, 2)], [[((0,), ())], [((0,), ())], [((2,), ())]])
+        self.same([moments(BASE, 0, 0), moments(HOLDS, 0, 0), moments(HOLDS, 0, 2)],
+                  [[((0,), ())], [((0,), ())], [((2,), ())]])
         self.same(moments(ROW, 1, 0), [((0, 0), ("",)), ((0, 0), ("0",)), ((0, 0), ("1",))])
         self.same(moments(standing=0, station=0, yard=ROW), [((0, 0), ("",))])
         twice = Yard([TWICE, PASS], [(0, 0, 1, 0)])
-        self.same(moments(twice, 1, 0), [((0, 0), ("",)), ((0, 0), ("0",)), ((0, 0), ("00",)), ((0, 0), ("1",)), ((0, 0), ("11",))])
+        self.same(moments(twice, 1, 0), [((0, 0), ("",)), ((0, 0), ("0",)), ((0, 0), ("00",)), ((0, 0), ("1",)),
+                                         ((0, 0), ("11",))])
         self.same(moments(twice, 0, 0), [((0, 0), ("",))])
 
     def test_standings_that_are_never_come_to(self):
@@ -148,7 +160,8 @@ class Moments(Cases):
         self.same(moments(begun, 1, 1), [((0, 1, 0), (text, "")) for text in ("", "0", "1", "10")])
         self.same(moments(begun, 2, 0)[:3], [((0, 0, 0), ("", "")), ((0, 0, 0), ("", "0")), ((0, 0, 0), ("", "1"))])
         # Of the three signs there the second one is passed, and stands behind what was there.
-        self.same([moment for moment in moments(begun, 2, 0) if moment[1][1][:2] == "11"], [((0, 1, 0), ("", "11")), ((0, 1, 0), ("", "111"))])
+        self.same([moment for moment in moments(begun, 2, 0) if moment[1][1][:2] == "11"],
+                  [((0, 1, 0), ("", "11")), ((0, 1, 0), ("", "111"))])
 
     def test_more_than_three_signs_may_wait(self):
         loud = Yard([TWICE, TWICE, TWICE, PASS], [(k, 0, k + 1, 0) for k in range(3)])
@@ -170,7 +183,8 @@ class Moments(Cases):
 class Errors(Cases):
     def test_stations_and_new_ones(self):
         calls = [lambda *told: exchanged(*told, None), images, lambda *told: swapped_end(*told, None, None, None),
-                 lambda *told: is_kept(*told, None, None), lambda *told: kept_paper(*told, None, None), lambda *told: least_break(*told, None, None)]
+                 lambda *told: is_kept(*told, None, None), lambda *told: kept_paper(*told, None, None),
+                 lambda *told: least_break(*told, None, None)]
         for call in calls:
             self.fails_on(errors.InvalidStation, no_counts() + [1], lambda value: call(BASE, value, None))
             self.fails_on(errors.InvalidNew, NO_NEWS, lambda value: call(BASE, 0, value))
@@ -191,10 +205,12 @@ class Errors(Cases):
         self.same(exchanged(BASE, 0, WIDE, 2).begin, ((2,), ()))
 
     def test_the_sequence_of_swapped_end(self):
-        self.fails_on(errors.InvalidStream, no_texts() + ["0" * 1001], lambda value: swapped_end(BASE, 0, WIDE, value, None, None))
+        self.fails_on(errors.InvalidStream, no_texts() + ["0" * 1001],
+                      lambda value: swapped_end(BASE, 0, WIDE, value, None, None))
         self.fails_on(errors.InvalidNumber, no_counts(), lambda value: swapped_end(BASE, 0, WIDE, "0", value, None))
         self.fails_on(errors.InvalidImage, no_counts() + [3], lambda value: swapped_end(BASE, 0, WIDE, "0", 5, value))
-        self.fails(errors.InvalidNumber, {"value": 2}, swapped_end, image=0, number=2, stream="0", new=WIDE, station=0, yard=BASE)
+        self.fails(errors.InvalidNumber, {"value": 2}, swapped_end, image=0, number=2, stream="0", new=WIDE, station=0,
+                   yard=BASE)
 
     def test_looking_through(self):
         fails_looking(self, lambda yard: moments(yard, 0, 0))

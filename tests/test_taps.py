@@ -17,9 +17,11 @@ from test_watch import TWO_EXITS
 
 class Parts(Cases):
     def test_some(self):
-        for text, whole, wanted in [("", "", True), ("", "0", True), ("0", "", False), ("0", "0", True), ("1", "0", False),
+        for text, whole, wanted in [("", "", True), ("", "0", True), ("0", "", False), ("0", "0", True),
+                                    ("1", "0", False),
                                     ("01", "001", True), ("01", "10", False), ("11", "101", True), ("11", "1", False),
-                                    ("0110", "010110", True), ("0110", "01001", False), ("0110", "01010", True), ("000", "00", False), ("10", "0110", True)]:
+                                    ("0110", "010110", True), ("0110", "01001", False), ("0110", "01010", True),
+                                    ("000", "00", False), ("10", "0110", True)]:
             self.assertIs(is_part(text, whole), wanted)
             self.assertIs(is_part(whole=whole, text=text), wanted)
 
@@ -63,8 +65,10 @@ class Heard(Cases):
         self.assertIs(heard_of(doubling(4), 0, "0" * 645, "0"), True)
 
     def test_can_be_heard(self):
-        for yard, yes, no in [(COPIES, ["", "0", "1", "0110"], []), (EATING, [""], ["0", "1"]), (ONES, ["", "111"], ["0", "101"]),
-                              (HELD, ["", "0011", "000", "1"], ["10", "0110", "010"]), (giving("010"), ["010", "00", "10"], ["11", "0100"])]:
+        for yard, yes, no in [(COPIES, ["", "0", "1", "0110"], []), (EATING, [""], ["0", "1"]),
+                              (ONES, ["", "111"], ["0", "101"]),
+                              (HELD, ["", "0011", "000", "1"], ["10", "0110", "010"]),
+                              (giving("010"), ["010", "00", "10"], ["11", "0100"])]:
             for text in yes:
                 self.same([can_be_heard(yard, 0, text), view(yard, 0, text) == []], [True, False])
             for text in no:
@@ -91,7 +95,8 @@ class Views(Cases):
         self.same([view(EATING, 0, ""), view(COPIES, 0, "")], [[(0, "")], [(0, ""), (0, "0"), (0, "1")]])
 
     def test_the_text_is_heard_of_the_flow_without_what_is_left(self):
-        self.same(view(HOLDS, 0, ""), [(0, ""), (0, "0"), (0, "00"), (0, "01"), (0, "1"), (0, "10"), (0, "11"), (1, ""), (2, "")])
+        self.same(view(HOLDS, 0, ""), [(0, ""), (0, "0"), (0, "00"), (0, "01"), (0, "1"), (0, "10"), (0, "11"),
+                                       (1, ""), (2, "")])
         # It begins again at rest 0 only when two signs were given.
         late = Yard([Station(1, 1, [("1", [(("01",), 1, 1)] * 2), ("1", [(("",), 1, 1)] * 2)])], [])
         self.same([view(late, 0, text) for text in ("", "0", "1", "01")],

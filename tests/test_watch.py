@@ -81,10 +81,12 @@ class Live(Cases):
 
 class Ranks(Cases):
     def test_greater_ones_will_do(self):
-        for value, wanted in [([1, 0], True), ([5, 0], True), ([5, 4], True), ((1, 0), True), ([0, 0], False), ([1, 1], False),
+        for value, wanted in [([1, 0], True), ([5, 0], True), ([5, 4], True), ((1, 0), True), ([0, 0], False),
+                              ([1, 1], False),
                               ([0, 1], False), ([1], False), ([1, 0, 0], False), ([10 ** 29, 3], True)]:
             self.assertIs(are_ranks(HALVES, 0, value), wanted)
-        for value, wanted in [([1, 0, 0], True), ([2, 1, 0], True), ([2, 0, 1], True), ([1, 1, 0], False), ([1, 0, 1], False)]:
+        for value, wanted in [([1, 0, 0], True), ([2, 1, 0], True), ([2, 0, 1], True), ([1, 1, 0], False),
+                              ([1, 0, 1], False)]:
             self.assertIs(are_ranks(value=value, outlet=0, yard=HOLDS), wanted)
 
     def test_of_yards_that_are_not_live_there_are_none(self):
@@ -118,7 +120,8 @@ class Ranks(Cases):
 
 class SilentStreams(Cases):
     def test_short_ones(self):
-        for begin, lap, wanted in [("", "1", True), ("", "11", True), ("00", "1", True), ("1", "0", False), ("", "10", False),
+        for begin, lap, wanted in [("", "1", True), ("", "11", True), ("00", "1", True), ("1", "0", False),
+                                   ("", "10", False),
                                    ("0" * 1000, "1" * 1000, True), ("0" * 1000, "1" * 999 + "0", False)]:
             self.assertIs(is_silent_stream(ZEROS, 0, (begin, lap)), wanted)
         for stream in endless_streams(2, 3):
@@ -132,7 +135,8 @@ class SilentStreams(Cases):
         self.assertIs(is_silent_stream(EATING, 0, ("", "0" * 1001)), False)
 
     def test_any_value(self):
-        for value in odd_values() + [[], (), "", "01", 0, ("",), ("", ""), ["", "0"], ("", "0", ""), ("0", ""), (0, "0"), ("", 0),
+        for value in odd_values() + [[], (), "", "01", 0, ("",), ("", ""), ["", "0"], ("", "0", ""), ("0", ""),
+                                     (0, "0"), ("", 0),
                                      (None, "0"), ("", ["0"]), ("2", "0"), ("", "2"), {"": "0"}]:
             self.assertIs(is_silent_stream(EATING, 0, value), False)
         for value in wrong_kinds(("1", "01")):
