@@ -27,8 +27,8 @@ def swapped_end(yard, station, new, stream, number, image):
     check_image(new, image)
     if number > _beats_in_all(yard, station, stream):
         raise InvalidNumber(number)
-    state = _state_behind(yard, station, stream, number)
-    return _end_of_swap(yard, station, new, state, image)
+    _, behind = _swapped(yard, station, new, stream, number, image)
+    return behind
 
 
 def moments(yard, station, standing):
@@ -80,12 +80,16 @@ def least_break(yard, station, new, standing, image):
     _, stream = _looked_at(yard, station, new, standing, image)
     if stream is None:
         return None
-    state = begin_of(yard, stream)
+    start = begin_of(yard, stream)
+    wanted = end_of(wired(yard), start)[3]
+    wiring = wired(with_station(yard, station, new, image))
     number = 0
-    for standings, _, _, _ in states_behind_beats(wired(yard), station, state):
-        if standings[station] == standing and _is_broken(yard, station, new, image, stream, number):
+    for state in states_behind_beats(wired(yard), station, start):
+        if state[0][station] == standing and _is_broken(end_of(wiring, _at_image(state, station, image)), wanted):
             break
         number += 1
+    # This raises the error that too many beats bring.
+    _swapped(yard, station, new, stream, number, image)
     return (stream, number)
 
 
@@ -97,9 +101,9 @@ def is_break(yard, station, new, standing, image, value):
     stream, number = value
     if number > _beats_in_all(yard, station, stream):
         return False
-    is_broken = _is_broken(yard, station, new, image, stream, number)
-    standings, _, _, _ = _state_behind(yard, station, stream, number)
-    return is_broken and standings[station] == standing
+    state, behind = _swapped(yard, station, new, stream, number, image)
+    wanted = end_of(wired(yard), begin_of(yard, stream))[3]
+    return state[0][station] == standing and _is_broken(behind, wanted)
 
 
 def check_new(yard, station, new):
@@ -135,8 +139,11 @@ def _beats_in_all(yard, station, stream):
     return beats_of(wired(yard), begin_of(yard, stream), station)
 
 
-def _state_behind(yard, station, stream, number):
-    """The state at which the first full run has just done so many beats of the station."""
+def _swapped(yard, station, new, stream, number, image):
+    """The state at which the first full run has just done so many beats of the station, and the END of the swap there.
+
+    TooMany if that run, or what is done behind the swap, has too many beats.
+    """
     run = walk_along(yard, stream, None).finish(_MOST_BEATS)
     walk = walk_along(yard, stream, None)
     done = 0
@@ -146,20 +153,18 @@ def _state_behind(yard, station, stream, number):
         walk.do(each)
         if each == station:
             done += 1
-    return walk.state_now()
+    state = walk.state_now()
+    behind = Walk(wired(with_station(yard, station, new, image)), _at_image(state, station, image))
+    behind.finish(_MOST_BEATS)
+    return state, behind.state_now()
 
 
-def _end_of_swap(yard, station, new, state, image):
-    standings, contents, rest, flows = state
-    swapped = (put_at(standings, station, image), contents, rest, flows)
-    walk = Walk(wired(with_station(yard, station, new, image)), swapped)
-    walk.finish(_MOST_BEATS)
-    return walk.state_now()
+def _at_image(state, station, image):
+    """The state at which the station stands at the image."""
+    return (put_at(state[0], station, image), *state[1:])
 
 
-def _is_broken(yard, station, new, image, stream, number):
-    """Whether the END of the swap has other flows than the END without it, or too much waits there in a pipe."""
-    state = _state_behind(yard, station, stream, number)
-    _, contents, _, flows = _end_of_swap(yard, station, new, state, image)
-    _, _, _, wanted = end_of(wired(yard), begin_of(yard, stream))
-    return flows != wanted or any([len(text) > MOST_WAITING for text in contents])
+def _is_broken(behind, wanted):
+    """Whether a state behind a swap has other flows than the wanted ones, or too much waits there in a pipe."""
+    _, contents, _, given = behind
+    return given != wanted or any([len(text) > MOST_WAITING for text in contents])

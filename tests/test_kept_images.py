@@ -114,6 +114,14 @@ class Images(Cases):
         self.same([least_break(begun, 1, PASS, standing, 0) for standing in (0, 1)], [("", 0), ("", 1)])
         self.same([least_break(begun, 1, TURN, standing, 0) for standing in (0, 1)], [("", 0), ("0", 1)])
 
+    def test_the_least_k_is_one_that_breaks(self):
+        # Of 01, which waits there, both signs are passed, but of 1 alone a 0 is made.
+        begun = Yard([PASS, PASS], [(0, 0, 1, 0)], ((0, 0), ("01",)))
+        new = Station(1, 1, [("1", [(("0",), 1, 1), (("0",), 0, 1)]), ("1", [(("0",), 1, 1), (("1",), 1, 1)])])
+        self.same(least_break(begun, 1, new, 0, 0), ("", 1))
+        self.same([is_break(begun, 1, new, 0, 0, ("", number)) for number in range(4)], [False, True, False, False])
+        self.same(slow_breaks(Dice(1), begun, 1, new, 0, 0, 0), [("", 1)])
+
 
 class KeptPapers(Cases):
     def test_many(self):
